@@ -1,0 +1,1 @@
+"""Derived tables over rows that come late and are corrected."""

@@ -1,0 +1,146 @@
+"""Codes as texts and as trees."""
+
+from backfilled.errors import BadText
+from backfilled.grammar import read_code
+from backfilled.tokens import Reader
+
+MOST_SIGNS = 600
+STRENGTHS = {"or": 1, "and": 2, "+": 1, "-": 1, "*": 2}
+STRONGEST = 3
+
+
+def parse(text):
+    """The tree of the text of a code."""
+    if not isinstance(text, str) or len(text) > MOST_SIGNS:
+        raise BadText(None)
+    reader = Reader(text)
+    code = read_code(reader)
+    reader.take("end")
+    if len(show(code)) > MOST_SIGNS:
+        raise BadText(None)
+    return code
+
+
+def show(code):
+    """The text of a tree."""
+    tokens = []
+    waiting = [code]
+    while waiting:
+        piece = waiting.pop()
+        if isinstance(piece, str):
+            tokens.append(piece)
+        else:
+            waiting.extend(pieces_of(piece)[::-1])
+    return spaced(tokens)
+
+
+def spaced(tokens):
+    """The text of tokens, with a space wherever one belongs between two."""
+    text = ""
+    for token in tokens:
+        if text and text[-1] not in "([" and token not in (")", "]", ",", ":"):
+            text = text + " "
+        text = text + token
+    return text
+
+
+def pieces_of(tree):
+    """The tokens and inner trees that a tree is written with, in order."""
+    if isinstance(tree, int):
+        return [str(tree)]
+    word = tree[0]
+    if word in STRENGTHS:
+        # The tree is grouped from the left, so an equally strong part on the right needs brackets.
+        return [*guarded(tree[1], STRENGTHS[word]), word, *guarded(tree[2], STRENGTHS[word] + 1)]
+    action = PIECES[word]
+    return action(tree)
+
+
+def guarded(part, least):
+    """The pieces of a part of a term or a condition, in brackets if it is weaker than the least strength."""
+    word = "" if isinstance(part, int) else part[0]
+    if STRENGTHS.get(word, STRONGEST) >= least:
+        return [part]
+    if word in ("and", "or"):
+        return ["[", part, "]"]
+    return ["(", part, ")"]
+
+
+def source_pieces(code):
+    """The pieces of a second code."""
+    if code[0] in ("table", "last"):
+        return [code]
+    return ["(", code, ")"]
+
+
+def table_pieces(code):
+    """The pieces of a table on a day."""
+    if code[2] == 0:
+        return [code[1]]
+    return [code[1], "-", str(code[2])]
+
+
+def last_pieces(code):
+    """The pieces of the last days of a table."""
+    return [code[1], "last", str(code[2])]
+
+
+def step_pieces(code):
+    """The pieces of a step that is written as its word and what follows in the tree."""
+    return [code[1], "|", code[0], *code[2:]]
+
+
+def with_pieces(code):
+    """The pieces of a step that adds a column."""
+    return [code[1], "|", "with", code[2], "=", code[3]]
+
+
+def keep_pieces(code):
+    """The pieces of a step that keeps columns."""
+    return [code[1], "|", "keep", *code[2]]
+
+
+def second_pieces(code):
+    """The pieces of a step with a second code."""
+    return [code[1], "|", code[0], *source_pieces(code[2])]
+
+
+def group_pieces(code):
+    """The pieces of a step that makes groups."""
+    pieces = [code[1], "|", "group", *code[2], ":"]
+    for at, (name, word, column) in enumerate(code[3]):
+        if at > 0:
+            pieces.append(",")
+        pieces.extend([name, "=", word])
+        if column is not None:
+            pieces.append(column)
+    return pieces
+
+
+def not_pieces(condition):
+    """The pieces of a condition that is turned."""
+    return ["not", *guarded(condition[1], STRONGEST)]
+
+
+def comparison_pieces(condition):
+    """The pieces of a comparison."""
+    return [condition[1], condition[0], condition[2]]
+
+
+def text_pieces(term):
+    """The pieces of a text."""
+    return [f"'{term[1]}'"]
+
+
+def name_pieces(term):
+    """The pieces of a column, which is written as its name, and of the day, which is written as its word."""
+    return [term[-1]]
+
+
+PIECES = {
+    "table": table_pieces, "last": last_pieces, "where": step_pieces, "with": with_pieces,
+    "keep": keep_pieces, "rename": step_pieces, "join": second_pieces, "union": second_pieces,
+    "minus": second_pieces, "group": group_pieces, "not": not_pieces, "=": comparison_pieces,
+    "<": comparison_pieces, "<=": comparison_pieces, "text": text_pieces, "column": name_pieces,
+    "today": name_pieces,
+}

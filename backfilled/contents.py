@@ -1,0 +1,61 @@
+"""Contents: sets of rows of the same columns."""
+
+from backfilled.errors import BadColumns, BadRow, UnknownColumn
+from backfilled.values import is_columns, is_row
+
+
+class Content:
+    """The rows of a partition or of an answer; it never changes."""
+
+    def __init__(self, columns, rows):
+        if not is_columns(columns):
+            raise BadColumns(columns)
+        if not isinstance(rows, list):
+            raise BadRow(rows)
+        for row in rows:
+            if not is_row(row, columns):
+                raise BadRow(row)
+        self._columns = tuple(columns)
+        self._rows = sorted(set(rows))
+        self._there = {row: True for row in self._rows}
+
+    @property
+    def columns(self):
+        """The columns."""
+        return list(self._columns)
+
+    @property
+    def rows(self):
+        """The rows, each once, in ascending order."""
+        return list(self._rows)
+
+    def __contains__(self, x):
+        return is_row(x, self._columns) and x in self._there
+
+    def __len__(self):
+        return len(self._rows)
+
+    def __eq__(self, other):
+        return isinstance(other, Content) and self._columns == other._columns and self._rows == other._rows
+
+    def __sub__(self, other):
+        if not self._fits(other):
+            raise BadColumns(other)
+        return Content(self.columns, [row for row in self._rows if row not in other])
+
+    def __add__(self, other):
+        if not self._fits(other):
+            raise BadColumns(other)
+        return Content(self.columns, self._rows + other.rows)
+
+    def __call__(self, name):
+        """The values in the column of a name, one for each row."""
+        names = [column[0] for column in self._columns]
+        if not isinstance(name, str) or name not in names:
+            raise UnknownColumn(name)
+        at = names.index(name)
+        return [row[at] for row in self._rows]
+
+    def _fits(self, other):
+        """Whether any value is a content of the same columns."""
+        return isinstance(other, Content) and self._columns == other._columns

@@ -1,0 +1,65 @@
+"""What is an integer, a name, a value, a day, columns and a row."""
+
+from backfilled.words import DIGITS, LETTERS, WORDS
+
+KINDS = ("number", "text")
+
+
+def is_integer(value):
+    """Whether any value is an integer: True and False are none."""
+    return isinstance(value, int) and not isinstance(value, bool)
+
+
+def is_within(value, least, greatest):
+    """Whether any value is an integer within bounds."""
+    return is_integer(value) and least <= value <= greatest
+
+
+def is_text(value):
+    """Whether any value is a value of the kind text."""
+    return isinstance(value, str) and len(value) <= 20 and not value.strip(LETTERS + DIGITS + " ")
+
+
+def is_name(value):
+    """Whether any value is a name."""
+    return isinstance(value, str) and 1 <= len(value) <= 8 and not value.strip(LETTERS) and value not in WORDS
+
+
+def is_value(value):
+    """Whether any value is a value of a row."""
+    return is_integer(value) or is_text(value)
+
+
+def is_day(value):
+    """Whether any value is a day."""
+    return is_within(value, 0, 999)
+
+
+def is_columns(value):
+    """Whether any value is columns."""
+    if not isinstance(value, list) or not 1 <= len(value) <= 10:
+        return False
+    if not all([is_column(item) for item in value]):
+        return False
+    return len({name for name, _ in value}) == len(value)
+
+
+def is_column(value):
+    """Whether any value is a column."""
+    if not isinstance(value, tuple) or len(value) != 2:
+        return False
+    return is_name(value[0]) and isinstance(value[1], str) and value[1] in KINDS
+
+
+def is_row(value, columns):
+    """Whether any value is a row of columns."""
+    if not isinstance(value, tuple) or len(value) != len(columns):
+        return False
+    return all([is_of_kind(item, kind) for item, (_, kind) in zip(value, columns)])
+
+
+def is_of_kind(value, kind):
+    """Whether any value is one of a kind."""
+    if kind == "number":
+        return is_integer(value)
+    return is_text(value)

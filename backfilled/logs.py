@@ -1,0 +1,218 @@
+"""The log: entries that add tables, put and delete rows, and set the codes of derived tables."""
+
+from backfilled.checks import columns_of, same_day_needs
+from backfilled.codes import parse, show
+from backfilled.errors import (
+    BadCode, BadColumns, BadDay, BadMoment, BadName, BadNumber, BadRow, LimitExceeded, NameTaken, UnknownTable,
+)
+from backfilled.tables import DerivedTable, RawTable
+from backfilled.values import is_columns, is_day, is_name, is_row, is_within
+
+MOST_TABLES = 20
+
+
+class Log:
+    """Entries, numbered from 1, and the states that they make."""
+
+    def __init__(self):
+        self._entries = []
+        self._tables = {}
+        # For each moment, from 0 on, what copies need beside the entry, and the last day.
+        self._plans = [None]
+        self._last_days = [None]
+
+    def add_table(self, name, columns, keys=1):
+        """Adds a raw table whose first columns are its key; returns the moment."""
+        if not is_name(name):
+            raise BadName(name)
+        if name in self._tables:
+            raise NameTaken(name)
+        if not is_columns(columns):
+            raise BadColumns(columns)
+        if not is_within(keys, 1, len(columns)):
+            raise BadNumber(keys)
+        self._check_room(name)
+        return self._keep(("table", name, tuple(columns), keys), None)
+
+    def put(self, table, day, row):
+        """Puts a row into a raw table on a day; returns the moment."""
+        known = self._raw_table(table, len(self._entries))
+        if not is_day(day):
+            raise BadDay(day)
+        if not is_row(row, known.shape):
+            raise BadRow(row)
+        return self._keep(("put", table, day, row), None)
+
+    def delete(self, table, day, key):
+        """Deletes the row with a key from a raw table on a day; returns the moment."""
+        known = self._raw_table(table, len(self._entries))
+        if not is_day(day):
+            raise BadDay(day)
+        if not is_row(key, known.key_shape()):
+            raise BadRow(key)
+        return self._keep(("delete", table, day, key), None)
+
+    def set_code(self, table, text, day=0):
+        """Sets the code of a derived table from a day on; returns the moment."""
+        if not is_name(table):
+            raise BadName(table)
+        known = self._tables.get(table)
+        if isinstance(known, RawTable):
+            raise NameTaken(table)
+        code = parse(text)
+        if not is_day(day):
+            raise BadDay(day)
+        columns = columns_of(code, self.tables())
+        if known is not None and list(known.shape) != columns:
+            raise BadCode(None)
+        needs = tuple(same_day_needs(code))
+        if self._leads_to(needs, table):
+            raise BadCode(None)
+        self._check_room(table)
+        return self._keep(("code", table, show(code), day), (tuple(columns), needs))
+
+    def __getitem__(self, at):
+        if not is_within(at, 1, len(self._entries)):
+            raise BadMoment(at)
+        return told(self._entries[at - 1])
+
+    def __iter__(self):
+        raise TypeError("a log is read by its moments, or by entries()")
+
+    def __len__(self):
+        return len(self._entries)
+
+    def __eq__(self, other):
+        return isinstance(other, Log) and self._entries == other._entries
+
+    def entries(self):
+        """The list of the entries."""
+        return [told(entry) for entry in self._entries]
+
+    def tables(self, moment=None):
+        """A dict from the names of all tables to their columns, in the order in which they came."""
+        last = self._moment_for(moment)
+        return {name: list(known.shape) for name, known in self._tables.items() if known.moment <= last}
+
+    def is_raw(self, table, moment=None):
+        """Whether a table is a raw one."""
+        return isinstance(self._table(table, self._moment_for(moment)), RawTable)
+
+    def columns_at(self, table, moment=None):
+        """The columns of a table."""
+        return list(self._table(table, self._moment_for(moment)).shape)
+
+    def raw(self, table, day, moment=None):
+        """The content of a raw table on a day."""
+        last = self._moment_for(moment)
+        known = self._raw_table(table, last)
+        if not is_day(day):
+            raise BadDay(day)
+        return known.content_on(day, last)
+
+    def code_at(self, table, day, moment=None):
+        """The text of the code that holds for a derived table on a day, or None."""
+        return self._code_on(table, day, moment)[1]
+
+    def code_moment(self, table, day, moment=None):
+        """The moment of the entry of the code that holds for a derived table on a day, or None."""
+        return self._code_on(table, day, moment)[0]
+
+    def last_day(self, moment=None):
+        """The greatest day of all entries that put a row, or None."""
+        return self._last_days[self._moment_for(moment)]
+
+    def copy(self, moment=None):
+        """An independent log with the first entries."""
+        copied = Log()
+        for at in range(1, self._moment_for(moment) + 1):
+            copied._keep(self._entries[at - 1], self._plans[at])
+        return copied
+
+    def _moment_for(self, moment):
+        """The moment that any value stands for: None for the last one."""
+        if moment is None:
+            return len(self._entries)
+        if not is_within(moment, 0, len(self._entries)):
+            raise BadMoment(moment)
+        return moment
+
+    def _table(self, name, moment):
+        """What is known of the table that any value names at a moment."""
+        if not is_name(name) or name not in self._tables or self._tables[name].moment > moment:
+            raise UnknownTable(name)
+        return self._tables[name]
+
+    def _raw_table(self, name, moment):
+        """What is known of the raw table that any value names at a moment."""
+        known = self._table(name, moment)
+        if not isinstance(known, RawTable):
+            raise UnknownTable(name)
+        return known
+
+    def _code_on(self, name, day, moment):
+        """The moment and the text of the code that holds for a derived table on a day, each perhaps None."""
+        last = self._moment_for(moment)
+        known = self._table(name, last)
+        if isinstance(known, RawTable):
+            raise UnknownTable(name)
+        if not is_day(day):
+            raise BadDay(day)
+        return known.code_on(day, last)
+
+    def _check_room(self, name):
+        """Raises LimitExceeded if there is no room for a table of a name that is not there yet."""
+        if name not in self._tables and len(self._tables) >= MOST_TABLES:
+            raise LimitExceeded(MOST_TABLES)
+
+    def _leads_to(self, names, table):
+        """Whether tables are or need a table on the same day, by any codes, directly or through others."""
+        waiting = list(names)
+        seen = {}
+        while waiting:
+            name = waiting.pop()
+            known = self._tables[name]
+            if name == table:
+                return True
+            if name not in seen and isinstance(known, DerivedTable):
+                seen[name] = True
+                waiting.extend(known.same_day_tables())
+        return False
+
+    def _keep(self, entry, plan):
+        """Adds an entry that was checked, and returns its moment."""
+        self._entries.append(entry)
+        self._plans.append(plan)
+        self._last_days.append(self._last_days[-1])
+        moment = len(self._entries)
+        if entry[0] == "table":
+            self._tables[entry[1]] = RawTable(moment, entry[2], entry[3])
+        elif entry[0] == "put":
+            self._tables[entry[1]].put_row(moment, entry[2], entry[3])
+            self._last_days[moment] = later_day(self._last_days[moment], entry[2])
+        elif entry[0] == "delete":
+            self._tables[entry[1]].delete_key(moment, entry[2], entry[3])
+        else:
+            self._keep_code(moment, entry, plan)
+        return moment
+
+    def _keep_code(self, moment, entry, plan):
+        """Notes a code with its columns and the tables that it needs on the same day."""
+        shape, needs = plan
+        if entry[1] not in self._tables:
+            self._tables[entry[1]] = DerivedTable(moment, shape)
+        self._tables[entry[1]].add_code(moment, entry[2], entry[3], needs)
+
+
+def told(entry):
+    """An entry as it is told: with a new list of columns, if it has columns."""
+    if entry[0] == "table":
+        return ("table", entry[1], list(entry[2]), entry[3])
+    return entry
+
+
+def later_day(one, other):
+    """The later one of two days, of which the first one may be None."""
+    if one is None or one < other:
+        return other
+    return one

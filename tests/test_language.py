@@ -1,0 +1,177 @@
+"""The rules of the language subset that a program can see."""
+
+import ast
+import builtins
+import pathlib
+import re
+import unittest
+
+FOLDER = pathlib.Path(__file__).resolve().parent.parent / "backfilled"
+FILES = {path.stem: path.read_text() for path in sorted(FOLDER.glob("*.py"))}
+TREES = {name: ast.parse(text) for name, text in FILES.items()}
+BUILTINS = set(
+    "len range enumerate zip min max sum abs sorted reversed int str bool list tuple dict set isinstance ord repr any all "
+    "divmod Exception ValueError TypeError KeyError IndexError LookupError property".split()
+)
+METHODS = set(
+    "append clear copy count endswith extend find get index insert isalnum isalpha isdigit islower isspace isupper items "
+    "join keys ljust lower lstrip partition pop remove replace reverse rfind rjust rpartition rsplit rstrip setdefault "
+    "split splitlines startswith strip update upper values zfill".split()
+)
+DOUBLE = set("__init__ __eq__ __len__ __call__ __iter__ __add__ __sub__ __contains__ __getitem__".split())
+BARRED = re.compile(
+    r"\b(type|typing|enum|Enum|Flag|Generic|Protocol|ABC|namedtuple|NamedTuple|TypedDict|abstractmethod|Meta|_wall\w*"
+    r"|_record|_outside|register|mro|elements|open|input|law|chr|global|async|lambda|eval|exec)\b"
+)
+OUTSIDE = (
+    ast.GeneratorExp, ast.AnnAssign, ast.Global, ast.AsyncFunctionDef, ast.Await, ast.Try, ast.NamedExpr, ast.Lambda,
+    ast.Yield, ast.YieldFrom, ast.Div, ast.MatMult, ast.With, ast.Match, ast.Set, ast.Nonlocal,
+)
+
+
+def nodes(kind):
+    return [(name, node) for name, tree in TREES.items() for node in ast.walk(tree) if isinstance(node, kind)]
+
+
+def functions():
+    return nodes(ast.FunctionDef)
+
+
+class LanguageTest(unittest.TestCase):
+    def test_files(self):
+        for path in FOLDER.iterdir():
+            self.assertTrue(path.name == "__pycache__" or re.fullmatch(r"[a-z_]+\.py", path.name), path)
+
+    def test_sizes_and_characters(self):
+        for name, text in FILES.items():
+            self.assertLessEqual(len(text.splitlines()), 399, name)
+            self.assertLessEqual(max(len(line) for line in text.splitlines()), 120, name)
+            self.assertRegex(text, r"\A[ -~\n]*\Z", name)
+            self.assertNotRegex(text, r"[ \t]\n", name)
+        for name, node in functions():
+            self.assertLessEqual(node.end_lineno - node.lineno + 1, 40, (name, node.name))
+
+    def test_every_part_has_a_docstring(self):
+        for name, node in nodes((ast.Module, ast.ClassDef, ast.FunctionDef)):
+            if not getattr(node, "name", "").startswith("__"):
+                self.assertTrue(ast.get_docstring(node), (name, node))
+
+    def test_statements_and_signs(self):
+        for kind in OUTSIDE:
+            self.assertEqual([(name, node.lineno) for name, node in nodes(kind)], [])
+        for name, node in nodes(ast.Constant):
+            self.assertNotIsInstance(node.value, (float, complex))
+            if isinstance(node.value, str):
+                self.assertNotIn("%", node.value, name)
+
+    def test_imports_name_the_file_that_defines(self):
+        uses = {}
+        for name, tree in TREES.items():
+            uses[name] = []
+            for node in tree.body:
+                if isinstance(node, (ast.Import, ast.ImportFrom)):
+                    self.assertIsInstance(node, ast.ImportFrom)
+                    self.assertRegex(node.module, r"\Abackfilled\.[a-z]+\Z")
+                    other = node.module.split(".")[1]
+                    uses[name].append(other)
+                    for alias in node.names:
+                        self.assertIsNone(alias.asname)
+                        self.assertIn(alias.name, bound_in(TREES[other]))
+                        self.assertRegex(FILES[name].split(alias.name, 1)[1], rf"\b{alias.name}\b")
+        self.assertEqual(len(nodes((ast.Import, ast.ImportFrom))), sum(len(others) for others in uses.values()))
+        while uses:
+            free = [name for name in uses if not any(other in uses for other in uses[name])]
+            self.assertTrue(free, uses)
+            uses = {name: others for name, others in uses.items() if name not in free}
+
+    def test_module_level(self):
+        for name, tree in TREES.items():
+            bound = bound_in(tree)
+            self.assertEqual(len(bound), len(set(bound)), name)
+            for node in tree.body:
+                allowed = (ast.Expr, ast.ImportFrom, ast.FunctionDef, ast.ClassDef, ast.Assign)
+                self.assertIsInstance(node, allowed, name)
+
+    def test_decorators_and_double_underscores(self):
+        for name, node in functions():
+            self.assertIn([ast.unparse(one) for one in node.decorator_list], [[], ["property"]], name)
+            self.assertTrue(not node.name.startswith("__") or node.name in DOUBLE, node.name)
+        for name, node in nodes(ast.ClassDef):
+            self.assertEqual(node.decorator_list, [])
+
+    def test_annotations(self):
+        for name, node in functions():
+            self.assertIsNone(node.returns, name)
+        for name, node in nodes(ast.arg):
+            self.assertIsNone(node.annotation, name)
+
+    def test_names(self):
+        for name, node in nodes((ast.Name, ast.arg, ast.FunctionDef, ast.ClassDef, ast.Attribute)):
+            word = {ast.Name: "id", ast.arg: "arg", ast.Attribute: "attr"}.get(type(node), "name")
+            word = getattr(node, word)
+            self.assertTrue(word in DOUBLE or re.fullmatch(r"_|_?[a-zA-Z][a-zA-Z0-9_]*", word), (name, word))
+            if isinstance(node, ast.Attribute):
+                continue
+            loaded = isinstance(node, ast.Name) and isinstance(node.ctx, ast.Load)
+            if loaded:
+                self.assertNotEqual(word, "_")
+                self.assertTrue(not hasattr(builtins, word) or word in BUILTINS, (name, word))
+            else:
+                self.assertTrue(word in DOUBLE or word == "_" or not hasattr(builtins, word), (name, word))
+        for name, text in FILES.items():
+            code = "\n".join(line.split("#")[0] for line in re.sub(r'"""(.|\n)*?"""', "", text).splitlines())
+            self.assertIsNone(BARRED.search(code), (name, BARRED.search(code)))
+
+    def test_no_local_has_the_name_of_an_import_or_a_class(self):
+        for name, tree in TREES.items():
+            taken = [one for one in bound_in(tree, ast.ClassDef, ast.ImportFrom)]
+            for node in ast.walk(tree):
+                if isinstance(node, ast.arg):
+                    self.assertNotIn(node.arg, taken, name)
+                elif isinstance(node, ast.Name) and not isinstance(node.ctx, ast.Load):
+                    self.assertNotIn(node.id, taken, name)
+
+    def test_properties_and_attributes(self):
+        properties = [node.name for _, node in functions() if node.decorator_list]
+        methods = [one.name for _, node in nodes(ast.ClassDef) for one in node.body if isinstance(one, ast.FunctionDef)]
+        assigned = [node.attr for _, node in nodes(ast.Attribute) if isinstance(node.ctx, ast.Store)]
+        for word in properties:
+            self.assertEqual((assigned.count(word), methods.count(word)), (0, properties.count(word)))
+        self.assertNotIn("keys", [*assigned, *methods])
+        self.assertEqual([word for word in assigned if word in methods], [])
+        self.assertEqual([word for word in assigned if word in METHODS], [])
+
+    def test_methods_that_are_called(self):
+        own = [one.name for _, node in nodes(ast.ClassDef) for one in node.body if isinstance(one, ast.FunctionDef)]
+        for name, node in nodes(ast.Call):
+            if isinstance(node.func, ast.Attribute):
+                self.assertIn(node.func.attr, [*own, *METHODS], name)
+                self.assertEqual(node.keywords, [])
+
+    def test_sets_and_iterators_are_used_on_the_spot(self):
+        parents = {id(child): node for _, node in nodes(ast.AST) for child in ast.iter_child_nodes(node)}
+        for name, node in nodes((ast.Call, ast.SetComp)):
+            call = getattr(getattr(node, "func", None), "id", None)
+            if isinstance(node, ast.SetComp) or call == "set":
+                self.assertIn(getattr(parents[id(node)].func, "id", None), ("len", "sorted"), name)
+            if call in ("zip", "enumerate", "reversed"):
+                self.assertIsInstance(parents[id(node)], (ast.For, ast.comprehension), name)
+
+
+def bound_in(tree, *kinds):
+    """The names that a module binds at its top."""
+    bound = []
+    for node in tree.body:
+        if kinds and not isinstance(node, kinds):
+            continue
+        if isinstance(node, ast.ImportFrom):
+            bound.extend(alias.name for alias in node.names)
+        elif isinstance(node, (ast.FunctionDef, ast.ClassDef)):
+            bound.append(node.name)
+        elif isinstance(node, ast.Assign):
+            bound.extend(target.id for target in node.targets)
+    return bound
+
+
+if __name__ == "__main__":
+    unittest.main()

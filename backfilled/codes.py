@@ -51,7 +51,7 @@ def pieces_of(tree):
     word = tree[0]
     if word in STRENGTHS:
         # The tree is grouped from the left, so an equally strong part on the right needs brackets.
-        return [*guarded(tree[1], STRENGTHS[word]), word, *guarded(tree[2], STRENGTHS[word] + 1)]
+        return guarded(tree[1], STRENGTHS[word]) + [word] + guarded(tree[2], STRENGTHS[word] + 1)
     action = PIECES[word]
     return action(tree)
 
@@ -87,7 +87,7 @@ def last_pieces(code):
 
 def step_pieces(code):
     """The pieces of a step that is written as its word and what follows in the tree."""
-    return [code[1], "|", code[0], *code[2:]]
+    return [code[1], "|", code[0]] + list(code[2:])
 
 
 def with_pieces(code):
@@ -97,17 +97,17 @@ def with_pieces(code):
 
 def keep_pieces(code):
     """The pieces of a step that keeps columns."""
-    return [code[1], "|", "keep", *code[2]]
+    return [code[1], "|", "keep"] + list(code[2])
 
 
 def second_pieces(code):
     """The pieces of a step with a second code."""
-    return [code[1], "|", code[0], *source_pieces(code[2])]
+    return [code[1], "|", code[0]] + source_pieces(code[2])
 
 
 def group_pieces(code):
     """The pieces of a step that makes groups."""
-    pieces = [code[1], "|", "group", *code[2], ":"]
+    pieces = [code[1], "|", "group"] + list(code[2]) + [":"]
     for at, (name, word, column) in enumerate(code[3]):
         if at > 0:
             pieces.append(",")
@@ -119,7 +119,7 @@ def group_pieces(code):
 
 def not_pieces(condition):
     """The pieces of a condition that is turned."""
-    return ["not", *guarded(condition[1], STRONGEST)]
+    return ["not"] + guarded(condition[1], STRONGEST)
 
 
 def comparison_pieces(condition):

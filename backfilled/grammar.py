@@ -1,4 +1,8 @@
-"""The grammar of codes: each function reads one of its forms from a Reader."""
+"""The grammar of codes: each function reads one of its forms from a Reader.
+
+Those in STEPS read what stands behind the word of a step, and return what stands
+behind the code ahead in its tree.
+"""
 
 SUM_WORDS = ("count", "sum", "least", "greatest")
 COMPARISONS = ("=", "<", "<=")
@@ -33,27 +37,28 @@ def read_step(reader, code):
     word = reader.ahead()
     if word not in STEPS:
         reader.refuse()
-    reader.take(word)
-    action = STEPS[word]
-    return action(reader, code)
+    action = STEPS[reader.take(word)]
+    rest = action(reader)
+    return (word, code, *rest)
 
 
-def read_where(reader, code):
-    """The rest of a step that takes rows out."""
-    return ("where", code, read_condition(reader))
+def read_where(reader):
+    """The condition of a step."""
+    return [read_condition(reader)]
 
 
-def read_with(reader, code):
-    """The rest of a step that adds a column."""
+def read_with(reader):
+    """The name and the term of a new column."""
     name = reader.take("name")
     reader.take("=")
-    return ("with", code, name, read_term(reader))
+    return [name, read_term(reader)]
 
 
-def read_keep(reader, code):
-    """The rest of a step that keeps columns."""
+def read_keep(reader):
+    """The names of the columns that are kept."""
     first = reader.take("name")
-    return ("keep", code, (first, *read_names(reader)))
+    others = read_names(reader)
+    return [(first, *others)]
 
 
 def read_names(reader):
@@ -64,35 +69,25 @@ def read_names(reader):
     return names
 
 
-def read_rename(reader, code):
-    """The rest of a step that renames a column."""
+def read_rename(reader):
+    """The old and the new name of a column."""
     old = reader.take("name")
-    return ("rename", code, old, reader.take("name"))
+    return [old, reader.take("name")]
 
 
-def read_join(reader, code):
-    """The rest of a step that joins a second code."""
-    return ("join", code, read_source(reader))
+def read_second(reader):
+    """The second code of a step."""
+    return [read_source(reader)]
 
 
-def read_union(reader, code):
-    """The rest of a step that adds the rows of a second code."""
-    return ("union", code, read_source(reader))
-
-
-def read_minus(reader, code):
-    """The rest of a step that takes away the rows of a second code."""
-    return ("minus", code, read_source(reader))
-
-
-def read_group(reader, code):
-    """The rest of a step that makes one row of each group."""
+def read_group(reader):
+    """The names and the sums of groups."""
     names = tuple(read_names(reader))
     reader.take(":")
     sums = [read_sum(reader)]
     while reader.skip(","):
         sums.append(read_sum(reader))
-    return ("group", code, names, tuple(sums))
+    return [names, tuple(sums)]
 
 
 def read_sum(reader):
@@ -109,8 +104,8 @@ def read_sum(reader):
 
 
 STEPS = {
-    "where": read_where, "with": read_with, "keep": read_keep, "rename": read_rename, "join": read_join,
-    "union": read_union, "minus": read_minus, "group": read_group,
+    "where": read_where, "with": read_with, "keep": read_keep, "rename": read_rename, "join": read_second,
+    "union": read_second, "minus": read_second, "group": read_group,
 }
 
 

@@ -25,7 +25,7 @@ def last_shape(part, inner, tables):
     """Those of the last days of a table."""
     if part[1] not in tables or "day" in names_of(tables[part[1]]):
         return None
-    return [DAY_COLUMN, *tables[part[1]]]
+    return [DAY_COLUMN] + list(tables[part[1]])
 
 
 def where_shape(part, inner, tables):
@@ -40,7 +40,7 @@ def with_shape(part, inner, tables):
     kind = kind_of(part[3], inner[0])
     if kind is None or part[2] in names_of(inner[0]):
         return None
-    return [*inner[0], (part[2], kind)]
+    return inner[0] + [(part[2], kind)]
 
 
 def keep_shape(part, inner, tables):
@@ -81,7 +81,7 @@ def group_shape(part, inner, tables):
     """Those of the groups and their sums."""
     kinds = kinds_of(inner[0])
     sums = [(name, sum_kind(word, column, kinds)) for name, word, column in part[3]]
-    if not are_different([*part[2], *names_of(sums)]) or not all([name in kinds for name in part[2]]):
+    if not are_different(list(part[2]) + names_of(sums)) or not all([name in kinds for name in part[2]]):
         return None
     if None in [kind for _, kind in sums]:
         return None

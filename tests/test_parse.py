@@ -131,6 +131,11 @@ class ParseTest(unittest.TestCase):
         mixed = "(" * 9 + "t | where " + "[" * 6 + "(" * 6
         self.assertEqual(fields_of(self, BadText, parse, mixed), {"at": len(mixed) - 1})
 
+    def test_closed_brackets_are_not_open(self):
+        start = "(((t))) | where [[a = (1)]] | join "
+        self.assertEqual(parse(start + "(" * 20 + "u" + ")" * 20)[2], ("table", "u", 0))
+        self.assertEqual(fields_of(self, BadText, parse, start + "(" * 21), {"at": len(start) + 20})
+
     def test_many_nots(self):
         for many in (101, 140):
             tree = parse("t | where " + "not " * many + "a = 1")[2]

@@ -9,14 +9,14 @@ MOST_COLUMNS = 10
 
 def columns_of(code, tables):
     """The columns of the result of a tree, for a dict from names of tables to columns."""
-    return list(shapes_of(code, tables)[-1])
+    return list(shapes_of(inner_first(code), tables)[-1])
 
 
-def shapes_of(code, tables):
+def shapes_of(parts, tables):
     """The columns of all parts of a tree, inner ones first."""
     shapes = []
     waiting = []
-    for part in inner_first(code):
+    for part in parts:
         inner = take_last(waiting, len(parts_in(part)))
         columns = shape_behind(part, inner, tables)
         if columns is None or len(columns) > MOST_COLUMNS:
@@ -28,26 +28,22 @@ def shapes_of(code, tables):
 
 def needs_of(code, day):
     """The partitions, tuples (table, day), that a tree reads on a day, each once, in order."""
-    needs = {}
-    for part in inner_first(code):
-        for on in days_read(part, day):
-            needs[(part[1], on)] = True
-    return list(needs)
+    return [(name, day - back) for name, back in reads_of(inner_first(code)) if back <= day]
 
 
-def days_read(part, day):
-    """The days of its table that a part of a code reads itself on a day; the earliest one first."""
-    if part[0] == "table" and part[2] <= day:
-        return [day - part[2]]
+def reads_of(parts):
+    """The tables that parts of a tree read, and how many days earlier; each pair once, in order."""
+    reads = {}
+    for part in parts:
+        for back in days_back(part):
+            reads[(part[1], back)] = True
+    return list(reads)
+
+
+def days_back(part):
+    """How many days earlier a part of a code itself reads its table; the earliest day first."""
+    if part[0] == "table":
+        return [part[2]]
     if part[0] == "last":
-        return list(range(max(0, day - part[2] + 1), day + 1))
+        return list(range(part[2]))[::-1]
     return []
-
-
-def same_day_needs(code):
-    """The names of the tables that a tree reads on the very day that it is computed on."""
-    names = {}
-    for part in inner_first(code):
-        if part[0] == "last" or part[0] == "table" and part[2] == 0:
-            names[part[1]] = True
-    return list(names)

@@ -1,10 +1,10 @@
 """The log: entries that add tables, put and delete rows, and set the codes of derived tables."""
 
-from backfilled.checks import columns_of, same_day_needs
 from backfilled.codes import parse, show
 from backfilled.errors import (
     BadCode, BadColumns, BadDay, BadMoment, BadName, BadNumber, BadRow, LimitExceeded, NameTaken, UnknownTable,
 )
+from backfilled.plans import Plan
 from backfilled.tables import DerivedTable, RawTable
 from backfilled.values import is_columns, is_day, is_name, is_row, is_within
 
@@ -17,7 +17,7 @@ class Log:
     def __init__(self):
         self._entries = []
         self._tables = {}
-        # For each moment, from 0 on, what copies need beside the entry, and the last day.
+        # For each moment, from 0 on, the plan of the entry if it sets a code, and the last day.
         self._plans = [None]
         self._last_days = [None]
 
@@ -62,14 +62,13 @@ class Log:
         code = parse(text)
         if not is_day(day):
             raise BadDay(day)
-        columns = columns_of(code, self.tables())
-        if known is not None and list(known.shape) != columns:
+        plan = Plan(code, self._shapes(len(self._entries)), show(code))
+        if known is not None and known.shape != plan.shape:
             raise BadCode(None)
-        needs = tuple(same_day_needs(code))
-        if self._leads_to(needs, table):
+        if self._leads_to(plan.same_day_tables(), table):
             raise BadCode(None)
         self._check_room(table)
-        return self._keep(("code", table, show(code), day), (tuple(columns), needs))
+        return self._keep(("code", table, plan.text, day), plan)
 
     def __getitem__(self, at):
         if not is_within(at, 1, len(self._entries)):
@@ -91,20 +90,19 @@ class Log:
 
     def tables(self, moment=None):
         """A dict from the names of all tables to their columns, in the order in which they came."""
-        last = self._moment_for(moment)
-        return {name: list(known.shape) for name, known in self._tables.items() if known.moment <= last}
+        return {name: list(shape) for name, shape in self._shapes(self.moment_for(moment)).items()}
 
     def is_raw(self, table, moment=None):
         """Whether a table is a raw one."""
-        return isinstance(self._table(table, self._moment_for(moment)), RawTable)
+        return isinstance(self._table(table, self.moment_for(moment)), RawTable)
 
     def columns_at(self, table, moment=None):
         """The columns of a table."""
-        return list(self._table(table, self._moment_for(moment)).shape)
+        return list(self._table(table, self.moment_for(moment)).shape)
 
     def raw(self, table, day, moment=None):
         """The content of a raw table on a day."""
-        last = self._moment_for(moment)
+        last = self.moment_for(moment)
         known = self._raw_table(table, last)
         if not is_day(day):
             raise BadDay(day)
@@ -112,7 +110,8 @@ class Log:
 
     def code_at(self, table, day, moment=None):
         """The text of the code that holds for a derived table on a day, or None."""
-        return self._code_on(table, day, moment)[1]
+        plan = self._code_on(table, day, moment)[1]
+        return None if plan is None else plan.text
 
     def code_moment(self, table, day, moment=None):
         """The moment of the entry of the code that holds for a derived table on a day, or None."""
@@ -120,22 +119,60 @@ class Log:
 
     def last_day(self, moment=None):
         """The greatest day of all entries that put a row, or None."""
-        return self._last_days[self._moment_for(moment)]
+        return self._last_days[self.moment_for(moment)]
 
     def copy(self, moment=None):
         """An independent log with the first entries."""
         copied = Log()
-        for at in range(1, self._moment_for(moment) + 1):
+        for at in range(1, self.moment_for(moment) + 1):
             copied._keep(self._entries[at - 1], self._plans[at])
         return copied
 
-    def _moment_for(self, moment):
+    def moment_for(self, moment):
         """The moment that any value stands for: None for the last one."""
         if moment is None:
             return len(self._entries)
         if not is_within(moment, 0, len(self._entries)):
             raise BadMoment(moment)
         return moment
+
+    def question_plan(self, question, moment):
+        """The plan of any value as a question at a moment."""
+        code = parse(question)
+        return Plan(code, self._shapes(moment), show(code))
+
+    def plan_on(self, table, day, moment):
+        """The plan of the code that holds for a partition at a moment; None if it has none, or is of a raw table."""
+        return self._tables[table].plan_on(day, moment)
+
+    def content_on(self, table, day, moment):
+        """The content of a partition at a moment at which it has no plan."""
+        return self._tables[table].content_on(day, moment)
+
+    def change_moment(self, table, day, moment):
+        """The last moment, up to a moment, at which the rows or the plan of a partition may have changed."""
+        return self._tables[table].change_moment(day, moment)
+
+    def put_moments(self, table, day, moment):
+        """A dict from the keys of a raw table's rows on a day to the moments that put them, and the rows."""
+        return self._tables[table].put_moments(day, moment)
+
+    def plans_held(self, table, day):
+        """A dict from the texts of the codes that a derived table had on a day, at any moment, to their plans."""
+        return self._tables[table].plans_held(day)
+
+    def derived_tables(self, moment):
+        """The names of the derived tables at a moment, in order."""
+        return [name for name in self._shapes(moment) if isinstance(self._tables[name], DerivedTable)]
+
+    def days(self, moment):
+        """The days of the log at a moment."""
+        last = self._last_days[moment]
+        return [] if last is None else list(range(last + 1))
+
+    def _shapes(self, moment):
+        """A dict from the names of the tables at a moment to their columns, which are not to be changed."""
+        return {name: known.shape for name, known in self._tables.items() if known.moment <= moment}
 
     def _table(self, name, moment):
         """What is known of the table that any value names at a moment."""
@@ -152,7 +189,7 @@ class Log:
 
     def _code_on(self, name, day, moment):
         """The moment and the text of the code that holds for a derived table on a day, each perhaps None."""
-        last = self._moment_for(moment)
+        last = self.moment_for(moment)
         known = self._table(name, last)
         if isinstance(known, RawTable):
             raise UnknownTable(name)
@@ -176,7 +213,7 @@ class Log:
                 return True
             if name not in seen and isinstance(known, DerivedTable):
                 seen[name] = True
-                waiting.extend(known.same_day_tables())
+                waiting.extend([near for plan in known.plans() for near in plan.same_day_tables()])
         return False
 
     def _keep(self, entry, plan):
@@ -188,20 +225,20 @@ class Log:
         if entry[0] == "table":
             self._tables[entry[1]] = RawTable(moment, entry[2], entry[3])
         elif entry[0] == "put":
-            self._tables[entry[1]].put_row(moment, entry[2], entry[3])
+            known = self._tables[entry[1]]
+            known.change(moment, entry[2], entry[3][:known.key_count], entry[3])
             self._last_days[moment] = later_day(self._last_days[moment], entry[2])
         elif entry[0] == "delete":
-            self._tables[entry[1]].delete_key(moment, entry[2], entry[3])
+            self._tables[entry[1]].change(moment, entry[2], entry[3], None)
         else:
             self._keep_code(moment, entry, plan)
         return moment
 
     def _keep_code(self, moment, entry, plan):
-        """Notes a code with its columns and the tables that it needs on the same day."""
-        shape, needs = plan
+        """Notes the plan of a code."""
         if entry[1] not in self._tables:
-            self._tables[entry[1]] = DerivedTable(moment, shape)
-        self._tables[entry[1]].add_code(moment, entry[2], entry[3], needs)
+            self._tables[entry[1]] = DerivedTable(moment, plan.shape)
+        self._tables[entry[1]].add_code(moment, entry[3], plan)
 
 
 def told(entry):

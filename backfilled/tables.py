@@ -1,6 +1,10 @@
-"""The tables of a log, with all that its entries tell of them."""
+"""The tables of a log, with all that its entries tell of them.
 
-from backfilled.contents import Content
+Both classes have the same methods but for the changes that they note: a raw table has no plans,
+and a derived one no rows of its own.
+"""
+
+from backfilled.contents import Content, Sound
 
 
 class RawTable:
@@ -10,27 +14,47 @@ class RawTable:
         self.moment = moment
         self.shape = shape
         self.key_count = key_count
+        self._empty = Content(shape, Sound([]))
         self._changes = {}
+        # For each day the content behind each number of its changes; None if it was not asked for yet.
+        self._contents = {}
 
     def key_shape(self):
         """The columns of the key."""
-        return list(self.shape[:self.key_count])
+        return self.shape[:self.key_count]
 
-    def put_row(self, moment, day, row):
-        """Notes that an entry puts a row on a day."""
-        self._changes.setdefault(day, []).append((moment, row[:self.key_count], row))
+    def change(self, moment, day, key, row):
+        """Notes that an entry puts a row with a key on a day, or deletes it, if the row is None."""
+        self._changes.setdefault(day, []).append((moment, key, row))
+        self._contents.setdefault(day, [self._empty]).append(None)
 
-    def delete_key(self, moment, day, key):
-        """Notes that an entry deletes a key on a day."""
-        self._changes.setdefault(day, []).append((moment, key, None))
+    def plan_on(self, day, moment):
+        """No plan: rows are not computed."""
+        return None
 
     def content_on(self, day, moment):
         """The content on a day at a moment."""
-        rows = {}
-        for at, key, row in self._changes.get(day, []):
-            if at <= moment:
-                rows[key] = row
-        return Content(list(self.shape), [row for row in rows.values() if row is not None])
+        if day not in self._changes:
+            return self._empty
+        changes = self._changes[day]
+        contents = self._contents[day]
+        many = how_many_until(changes, moment)
+        if contents[many] is None:
+            rows = {key: row for _, key, row in changes[:many]}
+            contents[many] = Content(self.shape, Sound([row for row in rows.values() if row is not None]))
+        return contents[many]
+
+    def change_moment(self, day, moment):
+        """The last moment, up to a moment, of those that may have changed the content on a day."""
+        changes = self._changes.get(day, [])
+        many = how_many_until(changes, moment)
+        return changes[many - 1][0] if many > 0 else self.moment
+
+    def put_moments(self, day, moment):
+        """A dict from the keys of the rows on a day at a moment to the moments that put them, and the rows."""
+        changes = self._changes.get(day, [])
+        found = {key: (at, row) for at, key, row in changes[:how_many_until(changes, moment)]}
+        return {key: (at, row) for key, (at, row) in found.items() if row is not None}
 
 
 class DerivedTable:
@@ -39,22 +63,52 @@ class DerivedTable:
     def __init__(self, moment, shape):
         self.moment = moment
         self.shape = shape
+        self._empty = Content(shape, Sound([]))
         self._codes = []
-        self._needs = {}
 
-    def add_code(self, moment, text, day, needs):
-        """Notes a code from a day on, and the tables that it needs on the same day."""
-        self._codes.append((moment, text, day))
-        for name in needs:
-            self._needs[name] = True
+    def add_code(self, moment, day, plan):
+        """Notes the plan of a code from a day on."""
+        self._codes.append((moment, day, plan))
 
-    def same_day_tables(self):
-        """The names of the tables that any of its codes needs on the same day."""
-        return list(self._needs)
+    def plans(self):
+        """The plans of all its codes."""
+        return [plan for _, _, plan in self._codes]
+
+    def plans_held(self, day):
+        """A dict from the texts of all codes that held on a day at some moment to their plans."""
+        return {plan.text: plan for _, first, plan in self._codes if first <= day}
 
     def code_on(self, day, moment):
-        """The moment and the text of the code that holds on a day at a moment, each None if there is none."""
-        for at, text, first in self._codes[::-1]:
+        """The moment and the plan of the code that holds on a day at a moment, each None if there is none."""
+        for at, first, plan in self._codes[::-1]:
             if at <= moment and first <= day:
-                return (at, text)
+                return (at, plan)
         return (None, None)
+
+    def plan_on(self, day, moment):
+        """The plan of the code that holds on a day at a moment, or None."""
+        return self.code_on(day, moment)[1]
+
+    def content_on(self, day, moment):
+        """The content on a day on which no code holds."""
+        return self._empty
+
+    def change_moment(self, day, moment):
+        """The moment of the entry of the code that holds on a day at a moment, or of the table's first one."""
+        at, _ = self.code_on(day, moment)
+        return self.moment if at is None else at
+
+
+def how_many_until(changes, moment):
+    """How many of the changes, in the order of their moments, are not later than a moment."""
+    low = 0
+    high = len(changes)
+    if high > 0 and changes[-1][0] <= moment:
+        return high
+    while low < high:
+        middle = (low + high) // 2
+        if changes[middle][0] <= moment:
+            low = middle + 1
+        else:
+            high = middle
+    return low

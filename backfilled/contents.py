@@ -67,6 +67,10 @@ class Content:
         at = names.index(name)
         return [row[at] for row in self._rows]
 
+    def has_shape(self, shape):
+        """Whether a tuple has its columns."""
+        return self._columns == shape
+
     def _fits(self, other):
         """Whether any value is a content of the same columns."""
         return isinstance(other, Content) and self._columns == other._columns

@@ -94,11 +94,11 @@ class Log:
 
     def is_raw(self, table, moment=None):
         """Whether a table is a raw one."""
-        return isinstance(self._table(table, self.moment_for(moment)), RawTable)
+        return isinstance(self._known_table(table, self.moment_for(moment)), RawTable)
 
     def columns_at(self, table, moment=None):
         """The columns of a table."""
-        return list(self._table(table, self.moment_for(moment)).shape)
+        return list(self._known_table(table, self.moment_for(moment)).shape)
 
     def raw(self, table, day, moment=None):
         """The content of a raw table on a day."""
@@ -174,7 +174,7 @@ class Log:
         """A dict from the names of the tables at a moment to their columns, which are not to be changed."""
         return {name: known.shape for name, known in self._tables.items() if known.moment <= moment}
 
-    def _table(self, name, moment):
+    def _known_table(self, name, moment):
         """What is known of the table that any value names at a moment."""
         if not is_name(name) or name not in self._tables or self._tables[name].moment > moment:
             raise UnknownTable(name)
@@ -182,7 +182,7 @@ class Log:
 
     def _raw_table(self, name, moment):
         """What is known of the raw table that any value names at a moment."""
-        known = self._table(name, moment)
+        known = self._known_table(name, moment)
         if not isinstance(known, RawTable):
             raise UnknownTable(name)
         return known
@@ -190,7 +190,7 @@ class Log:
     def _code_on(self, name, day, moment):
         """The moment and the text of the code that holds for a derived table on a day, each perhaps None."""
         last = self.moment_for(moment)
-        known = self._table(name, last)
+        known = self._known_table(name, last)
         if isinstance(known, RawTable):
             raise UnknownTable(name)
         if not is_day(day):

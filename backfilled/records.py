@@ -16,3 +16,8 @@ class Record:
             isinstance(other, Record) and self.table == other.table and self.day == other.day
             and self.code == other.code and self.inputs == other.inputs and self.content == other.content
         )
+
+
+def contents_in(inputs):
+    """A dict from the partitions of inputs to their contents."""
+    return {(table, day): content for table, day, content in inputs}

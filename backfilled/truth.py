@@ -1,9 +1,8 @@
 """Computing from scratch: what every other way to an answer must agree with."""
 
-from backfilled.errors import BadDay
+from backfilled.asking import asked_part, asked_question
 from backfilled.plans import Plan
 from backfilled.scratch import Scratch
-from backfilled.values import is_day
 
 
 def evaluate(code, day, tables, read):
@@ -21,18 +20,12 @@ def evaluate(code, day, tables, read):
 
 def from_scratch(log, table, day, moment=None):
     """The content of a partition."""
-    log.columns_at(table, moment)
-    if not is_day(day):
-        raise BadDay(day)
-    scratch = Scratch(log, log.moment_for(moment))
+    scratch = Scratch(log, asked_part(log, table, day, moment))
     return scratch.content_of(table, day)
 
 
 def scratch_answer(log, question, day, moment=None):
     """The content of a question on a day."""
-    at = log.moment_for(moment)
-    plan = log.question_plan(question, at)
-    if not is_day(day):
-        raise BadDay(day)
+    plan, at = asked_question(log, question, day, moment)
     scratch = Scratch(log, at)
     return scratch.answer(plan, day)

@@ -18,14 +18,17 @@ METHODS = set(
     "join keys ljust lower lstrip partition pop remove replace reverse rfind rjust rpartition rsplit rstrip setdefault "
     "split splitlines startswith strip update upper values zfill".split()
 )
-DOUBLE = set("__init__ __eq__ __len__ __call__ __iter__ __add__ __sub__ __contains__ __getitem__".split())
+DOUBLE = set(
+    "__init__ __eq__ __len__ __call__ __iter__ __add__ __sub__ __contains__ __getitem__ __enter__ __exit__".split()
+)
 BARRED = re.compile(
     r"\b(type|typing|enum|Enum|Flag|Generic|Protocol|ABC|namedtuple|NamedTuple|TypedDict|abstractmethod|Meta|_wall\w*"
-    r"|_record|_outside|register|mro|elements|open|input|law|chr|global|async|lambda|eval|exec)\b"
+    r"|_record|_outside|register|mro|elements|input|law|chr|global|async|lambda|eval|exec)\b"
 )
+UNUSED = set("register mro elements open input law version_info with_traceback add_note args format".split())
 OUTSIDE = (
-    ast.GeneratorExp, ast.AnnAssign, ast.Global, ast.AsyncFunctionDef, ast.Await, ast.Try, ast.NamedExpr, ast.Lambda,
-    ast.Yield, ast.YieldFrom, ast.Div, ast.MatMult, ast.With, ast.Match, ast.Set, ast.Nonlocal,
+    ast.GeneratorExp, ast.AnnAssign, ast.Global, ast.AsyncFunctionDef, ast.Await, ast.NamedExpr, ast.Lambda,
+    ast.YieldFrom, ast.Div, ast.MatMult, ast.With, ast.Match, ast.Set, ast.Nonlocal,
 )
 
 
@@ -63,6 +66,32 @@ class LanguageTest(unittest.TestCase):
             self.assertNotIsInstance(node.value, (float, complex))
             if isinstance(node.value, str):
                 self.assertNotIn("%", node.value, name)
+
+    def test_only_own_errors_are_caught(self):
+        own = [node.name for node in TREES["errors"].body if isinstance(node, ast.ClassDef)]
+        for name, node in nodes(ast.Try):
+            self.assertEqual((node.finalbody, node.orelse), ([], []), name)
+            for handler in node.handlers:
+                self.assertIn(handler.type.id, own, name)
+                self.assertIsNone(handler.name)
+
+    def test_generators(self):
+        parents = {id(child): node for _, node in nodes(ast.AST) for child in ast.iter_child_nodes(node)}
+        made = [node.name for _, node in functions() if any(isinstance(one, ast.Yield) for one in ast.walk(node))]
+        self.assertEqual([len(made), sum(node.name in made for _, node in functions())], [len(set(made))] * 2)
+        for name, node in nodes(ast.Yield):
+            while not isinstance(node, ast.FunctionDef):
+                node = parents[id(node)]
+                self.assertIsInstance(node, (ast.Expr, ast.If, ast.While, ast.For, ast.FunctionDef), name)
+        for name, node in nodes(ast.Attribute):
+            self.assertNotIn(node.attr, made, name)
+
+    def test_exits(self):
+        for name, node in functions():
+            if node.name == "__exit__":
+                self.assertIsNotNone(node.args.vararg)
+                for one in node.body:
+                    self.assertRegex(ast.unparse(one), r"\Aself\.\w+ = (True|False|None|self\.\w+)\Z")
 
     def test_imports_name_the_file_that_defines(self):
         uses = {}
@@ -110,6 +139,7 @@ class LanguageTest(unittest.TestCase):
             word = {ast.Name: "id", ast.arg: "arg", ast.Attribute: "attr"}.get(type(node), "name")
             word = getattr(node, word)
             self.assertTrue(word in DOUBLE or re.fullmatch(r"_|_?[a-zA-Z][a-zA-Z0-9_]*", word), (name, word))
+            self.assertNotIn(word, UNUSED, name)
             if isinstance(node, ast.Attribute):
                 continue
             loaded = isinstance(node, ast.Name) and isinstance(node.ctx, ast.Load)

@@ -1,0 +1,167 @@
+"""Stores: a log, the records of what was computed from it, and the names of answers."""
+
+from backfilled.asking import asked_part
+from backfilled.benches import Bench
+from backfilled.books import Book
+from backfilled.courses import Agenda, Course
+from backfilled.errors import BadDay, BadName, UnknownName, UnknownTable
+from backfilled.runners import Claim
+from backfilled.trials import Trial
+from backfilled.values import is_day, is_name
+
+
+class Store:
+    """Computes partitions and answers of a log, each from what was computed before."""
+
+    def __init__(self, log):
+        self._log = log
+        self._book = Book()
+        self._bench = Bench(log, self._book)
+        self._claims = []
+        self._claimed = 0
+
+    @property
+    def log(self):
+        """The log."""
+        return self._log
+
+    @property
+    def made(self):
+        """How many records were made so far."""
+        return self._book.made_so_far()
+
+    def records(self):
+        """The list of the records there are, in the order in which they were made."""
+        return self._book.told()
+
+    def state_at(self, table, day, moment=None):
+        """The state of a partition."""
+        view = self._bench.view_at(asked_part(self._log, table, day, moment))
+        return view.state_of((table, day))
+
+    def content_at(self, table, day, moment=None):
+        """The content of a partition if it is fresh, otherwise None."""
+        view = self._bench.view_at(asked_part(self._log, table, day, moment))
+        return view.content_of((table, day))
+
+    def compute(self, table, day, moment=None):
+        """The content of a partition, computing what is due for it."""
+        return self._bench.compute(table, day, asked_part(self._log, table, day, moment))
+
+    def due(self, moment=None):
+        """The list of the partitions that are due, in order."""
+        view = self._bench.view_at(self._log.moment_for(moment))
+        return [part for part in view.derived_parts() if view.state_of(part) == "due"]
+
+    def is_done(self, moment=None):
+        """Whether all partitions of derived tables on the days of the log are fresh."""
+        view = self._bench.view_at(self._log.moment_for(moment))
+        return all([view.is_fresh(part) for part in view.derived_parts()])
+
+    def work(self, moment=None):
+        """A generator: computes the first partition that is due, and yields it, until none is due."""
+        begun = None
+        while True:
+            at = self._log.moment_for(moment)
+            if begun != (at, self._book.drops_so_far()):
+                begun = (at, self._book.drops_so_far())
+                agenda = Agenda(self._bench.view_at(at))
+            part = agenda.step()
+            if part is None:
+                return
+            yield part
+
+    def backfill(self, table, first, last):
+        """A generator: for each day computes what is due for a partition, and yields it."""
+        self._check_backfill(table, first, last)
+        day = first
+        begun = None
+        while day <= last:
+            stamp = (day, len(self._log), self._book.drops_so_far())
+            if begun != stamp:
+                begun = stamp
+                course = Course(self._bench.view_at(len(self._log)), [(table, day)])
+            part = course.step()
+            if part is None:
+                day += 1
+            else:
+                yield part
+
+    def claim(self, runner):
+        """A new claim of the first partition that is due and not claimed, or None."""
+        if not is_name(runner):
+            raise BadName(runner)
+        view = self._bench.view_at(len(self._log))
+        taken = self.claims()
+        for part in view.derived_parts():
+            if view.state_of(part) == "due" and not is_taken(taken, part, view):
+                self._claimed += 1
+                claim = Claim(self._book, self._claimed, runner, part, view.plan_of(part), view.inputs_of(part))
+                self._claims = taken + [claim]
+                return claim
+        return None
+
+    def claims(self):
+        """The list of the open claims, by number."""
+        return [claim for claim in self._claims if claim.state == "open"]
+
+    def crash(self, runner):
+        """Lets all open claims of a runner be gone, and returns how many they were."""
+        if not is_name(runner):
+            raise BadName(runner)
+        lost = [claim for claim in self.claims() if claim.runner == runner]
+        for claim in lost:
+            claim.give_up()
+        return len(lost)
+
+    def ask(self, question, day, moment=None, name=None):
+        """The answer of a question, computing what is due for it, perhaps with a name."""
+        return self._bench.ask(question, day, moment, name)
+
+    def names(self):
+        """The names of the answers, in the order in which they were given."""
+        return self._bench.names()
+
+    def again(self, name):
+        """The answer of a name, computing what is due for it."""
+        if not self._bench.is_given(name):
+            raise UnknownName(name)
+        return self._bench.again(name)
+
+    def forget(self, name):
+        """Takes the name of an answer away."""
+        if not self._bench.is_given(name):
+            raise UnknownName(name)
+        self._bench.forget(name)
+
+    def needed(self):
+        """The list of the records that are needed, in the order in which they were made."""
+        return self._book.of_numbers(self._bench.needed())
+
+    def drop(self):
+        """Drops all records that are not needed, and returns how many they were."""
+        return self._book.drop_all_but(self._bench.needed())
+
+    def trial(self, table, text, day=0):
+        """A trial of a code for a table from a day on."""
+        self._log.copy().set_code(table, text, day)
+        return Trial(self, self._book, table, text, day)
+
+    def _check_backfill(self, table, first, last):
+        """Raises what is wrong with the arguments of backfill."""
+        if self._log.is_raw(table):
+            raise UnknownTable(table)
+        for day in (first, last):
+            if not is_day(day):
+                raise BadDay(day)
+        if last < first:
+            raise BadDay(last)
+
+
+def is_taken(claims, part, view):
+    """Whether one of the claims is that of a partition as it is due in a view."""
+    code = view.plan_of(part).text
+    inputs = view.inputs_of(part)
+    return any([
+        (claim.table, claim.day) == part and claim.code == code and claim.inputs == inputs for claim in claims
+    ])

@@ -1,0 +1,115 @@
+"""Views: what is fresh, due or unknown, found out from records alone."""
+
+
+class View:
+    """The states of the partitions of a log at one moment, by the records in a book."""
+
+    def __init__(self, log, moment, book):
+        self._log = log
+        self._at = moment
+        self._book = book
+        self._contents = {}
+        self._numbers = {}
+        self._others = {}
+        self._needs = {}
+        self._made = book.made_so_far()
+        self._drops = book.drops_so_far()
+
+    def state_of(self, part):
+        """The state of a partition."""
+        self._settle(part)
+        return "fresh" if part in self._contents else self._others[part]
+
+    def is_fresh(self, part):
+        """Whether a partition is fresh."""
+        self._settle(part)
+        return part in self._contents
+
+    def content_of(self, part):
+        """The content of a partition if it is fresh, otherwise None."""
+        self._settle(part)
+        return self._contents.get(part)
+
+    def number_of(self, part):
+        """The number of the record by which a partition is fresh, or None if it is not, or by none."""
+        self._settle(part)
+        return self._numbers.get(part)
+
+    def plan_of(self, part):
+        """The plan of the code that holds for a partition, or None."""
+        return self._log.plan_on(part[0], part[1], self._at)
+
+    def needs_of_part(self, part):
+        """The partitions that a partition needs."""
+        if part not in self._needs:
+            plan = self.plan_of(part)
+            self._needs[part] = [] if plan is None else plan.needs_on(part[1])
+        return list(self._needs[part])
+
+    def inputs_of(self, part):
+        """The inputs of a partition all of whose needs are fresh."""
+        return tuple([(*need, self._contents[need]) for need in self._needs[part]])
+
+    def make(self, part):
+        """Makes the record of a partition that is due."""
+        number = self._book.make(part, self.plan_of(part), self.inputs_of(part))
+        self._note_fresh(part, number)
+
+    def answer(self, plan, day):
+        """The content of a question all of whose needs are fresh."""
+        return plan.content_from(day, self._contents)
+
+    def derived_parts(self):
+        """The partitions of all derived tables on the days of the log, in order."""
+        tables = self._log.derived_tables(self._at)
+        return [(table, day) for day in self._log.days(self._at) for table in tables]
+
+    def _settle(self, part):
+        """Finds out the state of a partition, if it is not known."""
+        self._catch_up()
+        if part in self._contents or part in self._others:
+            return
+        # A chain of needs may be longer than calls may stand within one another.
+        waiting = [part]
+        while waiting:
+            part = waiting[-1]
+            missing = [need for need in self.needs_of_part(part) if not self._is_known(need)]
+            if missing:
+                waiting.extend(missing)
+            else:
+                self._judge(part)
+                waiting.pop()
+
+    def _is_known(self, part):
+        """Whether the state of a partition is known."""
+        return part in self._contents or part in self._others
+
+    def _judge(self, part):
+        """Finds out the state of a partition from those of the ones that it needs."""
+        plan = self.plan_of(part)
+        if plan is None:
+            self._contents[part] = self._log.content_on(part[0], part[1], self._at)
+        elif [need for need in self._needs[part] if need not in self._contents]:
+            self._others[part] = "unknown"
+        else:
+            number = self._book.find(part, plan, self.inputs_of(part))
+            if number is None:
+                self._others[part] = "due"
+            else:
+                self._note_fresh(part, number)
+
+    def _note_fresh(self, part, number):
+        """Notes the record by which a partition is fresh."""
+        self._numbers[part] = number
+        self._contents[part] = self._book.record(number).content
+
+    def _catch_up(self):
+        """Forgets what dropping or making records may have changed."""
+        if self._drops != self._book.drops_so_far():
+            self._drops = self._book.drops_so_far()
+            self._contents = {}
+            self._numbers = {}
+            self._others = {}
+        if self._made != self._book.made_so_far():
+            self._made = self._book.made_so_far()
+            self._others = {}

@@ -149,16 +149,16 @@ class Log:
         """The content of a partition at a moment at which it has no plan."""
         return self._tables[table].content_on(day, moment)
 
-    def change_moment(self, table, day, moment):
-        """The last moment, up to a moment, at which the rows or the plan of a partition may have changed."""
-        return self._tables[table].change_moment(day, moment)
+    def change_moments(self, table, day):
+        """The moments, in order, that may have changed a partition's rows or plan; the first is its table's."""
+        return self._tables[table].change_moments(day)
 
     def put_moments(self, table, day, moment):
-        """A dict from the keys of a raw table's rows on a day to the moments that put them, and the rows."""
+        """A dict from a raw table's rows on a day at a moment to the moments that put them."""
         return self._tables[table].put_moments(day, moment)
 
     def plans_held(self, table, day):
-        """A dict from the texts of the codes that a derived table had on a day, at any moment, to their plans."""
+        """A dict from the texts of the codes that held for a partition at any moment to their plans."""
         return self._tables[table].plans_held(day)
 
     def derived_tables(self, moment):

@@ -30,6 +30,13 @@ class Scratch:
             self.content_of(table, on)
         return plan.content_from(day, self._contents)
 
+    def computed(self):
+        """A dict from the partitions that were asked for, or needed for these, to their contents.
+
+        Each stands behind those that it needs.
+        """
+        return dict(self._contents)
+
     def _missing(self, needs):
         """Those of the partitions that are not computed yet."""
         return [need for need in needs if need not in self._contents]

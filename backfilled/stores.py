@@ -147,6 +147,25 @@ class Store:
         self._log.copy().set_code(table, text, day)
         return Trial(self, self._book, table, text, day)
 
+    def named(self):
+        """The list of tuples (name, plan, day, moment) of the named answers, in the order of the names."""
+        return [(name, *self._bench.asked(name)) for name in self._bench.names()]
+
+    def check_name(self, name):
+        """Raises BadName or NameTaken if any value cannot become the name of an answer."""
+        self._bench.check_name(name)
+
+    def restore_name(self, name, plan, day, at):
+        """Gives a name to the answer of a question, without computing anything."""
+        self._bench.give_name(name, plan, day, at)
+
+    def restore_record(self, part, plan, inputs):
+        """Makes a record, if it is not there; returns whether it was made."""
+        is_missing = self._book.find(part, plan, inputs) is None
+        if is_missing:
+            self._book.make(part, plan, inputs)
+        return is_missing
+
     def _check_backfill(self, table, first, last):
         """Raises what is wrong with the arguments of backfill."""
         if self._log.is_raw(table):

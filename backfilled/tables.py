@@ -5,6 +5,7 @@ and a derived one no rows of its own.
 """
 
 from backfilled.contents import Content, Sound
+from backfilled.moments import how_many_until
 
 
 class RawTable:
@@ -15,7 +16,9 @@ class RawTable:
         self.shape = shape
         self.key_count = key_count
         self._empty = Content(shape, Sound([]))
+        # For each day the changes, tuples of a key and a row or None, and their moments.
         self._changes = {}
+        self._moments = {}
         # For each day the content behind each number of its changes; None if it was not asked for yet.
         self._contents = {}
 
@@ -25,36 +28,40 @@ class RawTable:
 
     def change(self, moment, day, key, row):
         """Notes that an entry puts a row with a key on a day, or deletes it, if the row is None."""
-        self._changes.setdefault(day, []).append((moment, key, row))
+        self._changes.setdefault(day, []).append((key, row))
+        self._moments.setdefault(day, []).append(moment)
         self._contents.setdefault(day, [self._empty]).append(None)
 
     def plan_on(self, day, moment):
         """No plan: rows are not computed."""
         return None
 
+    def plans_held(self, day):
+        """No plans."""
+        return {}
+
     def content_on(self, day, moment):
         """The content on a day at a moment."""
         if day not in self._changes:
             return self._empty
-        changes = self._changes[day]
         contents = self._contents[day]
-        many = how_many_until(changes, moment)
+        many = how_many_until(self._moments[day], moment)
         if contents[many] is None:
-            rows = {key: row for _, key, row in changes[:many]}
+            rows = {key: row for key, row in self._changes[day][:many]}
             contents[many] = Content(self.shape, Sound([row for row in rows.values() if row is not None]))
         return contents[many]
 
-    def change_moment(self, day, moment):
-        """The last moment, up to a moment, of those that may have changed the content on a day."""
-        changes = self._changes.get(day, [])
-        many = how_many_until(changes, moment)
-        return changes[many - 1][0] if many > 0 else self.moment
+    def change_moments(self, day):
+        """The moments, in order, that may have changed the content on a day; the first is the table's."""
+        return [self.moment] + self._moments.get(day, [])
 
     def put_moments(self, day, moment):
-        """A dict from the keys of the rows on a day at a moment to the moments that put them, and the rows."""
-        changes = self._changes.get(day, [])
-        found = {key: (at, row) for at, key, row in changes[:how_many_until(changes, moment)]}
-        return {key: (at, row) for key, (at, row) in found.items() if row is not None}
+        """A dict from the rows on a day at a moment to the moments that put them."""
+        many = how_many_until(self._moments.get(day, []), moment)
+        last = {}
+        for at, (key, row) in zip(self._moments.get(day, [])[:many], self._changes.get(day, [])):
+            last[key] = (at, row)
+        return {row: at for at, row in last.values() if row is not None}
 
 
 class DerivedTable:
@@ -93,22 +100,6 @@ class DerivedTable:
         """The content on a day on which no code holds."""
         return self._empty
 
-    def change_moment(self, day, moment):
-        """The moment of the entry of the code that holds on a day at a moment, or of the table's first one."""
-        at, _ = self.code_on(day, moment)
-        return self.moment if at is None else at
-
-
-def how_many_until(changes, moment):
-    """How many of the changes, in the order of their moments, are not later than a moment."""
-    low = 0
-    high = len(changes)
-    if high > 0 and changes[-1][0] <= moment:
-        return high
-    while low < high:
-        middle = (low + high) // 2
-        if changes[middle][0] <= moment:
-            low = middle + 1
-        else:
-            high = middle
-    return low
+    def change_moments(self, day):
+        """The moments, in order, that may have changed the code on a day; the first is the table's."""
+        return [self.moment] + [at for at, first, _ in self._codes if first <= day and at > self.moment]

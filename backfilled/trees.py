@@ -30,3 +30,15 @@ def take_last(stack, many):
     taken = stack[start:]
     del stack[start:]
     return taken
+
+
+def paths_in(tree):
+    """The paths of a tree and of all parts within it, in the order of inner_first."""
+    found = []
+    waiting = [(tree, ())]
+    while waiting:
+        part, path = waiting.pop()
+        found.append(path)
+        for at, inner in enumerate(parts_in(part)):
+            waiting.append((inner, path + (at,)))
+    return found[::-1]

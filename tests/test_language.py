@@ -16,7 +16,7 @@ BUILTINS = set(
 METHODS = set(
     "append clear copy count endswith extend find get index insert isalnum isalpha isdigit islower isspace isupper items "
     "join keys ljust lower lstrip partition pop remove replace reverse rfind rjust rpartition rsplit rstrip setdefault "
-    "split splitlines startswith strip update upper values zfill".split()
+    "split splitlines startswith strip update upper values zfill removeprefix isascii isprintable".split()
 )
 DOUBLE = set(
     "__init__ __eq__ __len__ __call__ __iter__ __add__ __sub__ __contains__ __getitem__ __enter__ __exit__".split()

@@ -1,0 +1,114 @@
+"""Recovering a store from the lines of its journal."""
+
+from backfilled.asking import asked_question
+from backfilled.codes import parse, show
+from backfilled.entries import add_entry
+from backfilled.errors import BackfilledError, BadText
+from backfilled.lines import entry_text, name_text, read_entry, read_name, read_record, record_text
+from backfilled.logs import Log
+from backfilled.past import Past
+from backfilled.stores import Store
+from backfilled.values import is_day, is_within
+
+ENTRIES = 0
+RECORDS = 1
+NAMES = 2
+
+
+class Recovery:
+    """A store that is made again, line by line: of entries, then of records, then of names."""
+
+    def __init__(self):
+        self._log = Log()
+        self._store = Store(self._log)
+        self._reached = ENTRIES
+        # Made when the first record is read, since the log does not grow any more then.
+        self._past = None
+
+    def store_now(self):
+        """The store."""
+        return self._store
+
+    def takes(self, text):
+        """Whether the text of a line can stand next, going on behind it if so."""
+        if text.startswith("record "):
+            return self._reached <= RECORDS and self._takes_record(text)
+        if text.startswith("name "):
+            return self._takes_name(text)
+        return self._reached == ENTRIES and self._takes_entry(text)
+
+    def _takes_entry(self, text):
+        """Whether a text is that of an entry that can be added."""
+        entry = read_entry(text)
+        if entry is None or None in entry or entry_text(entry) != text:
+            return False
+        if entry[0] == "code" and not is_shown(entry[2]):
+            return False
+        try:
+            add_entry(self._log, entry)
+        except BackfilledError:
+            return False
+        return True
+
+    def _takes_record(self, text):
+        """Whether a text is that of a record that is not there yet."""
+        told = read_record(text)
+        if told is None:
+            return False
+        table, day, moments, code = told
+        plan = plan_held(self._log, table, day, code)
+        if plan is None or record_text(table, day, moments, code) != text:
+            return False
+        inputs = self._inputs(plan.needs_on(day), moments)
+        if inputs is None or not self._store.restore_record((table, day), plan, inputs):
+            return False
+        self._reached = RECORDS
+        return True
+
+    def _inputs(self, needs, moments):
+        """The inputs that moments tell, or None if these are not the least ones of their contents."""
+        if len(needs) != len(moments):
+            return None
+        if self._past is None:
+            self._past = Past(self._log)
+        inputs = []
+        for need, moment in zip(needs, moments):
+            if not is_within(moment, 0, len(self._log)) or need[0] not in self._log.tables(moment):
+                return None
+            content = self._past.content_at(need, moment)
+            if self._past.least_moment(need, content) != moment:
+                return None
+            inputs.append((*need, content))
+        return tuple(inputs)
+
+    def _takes_name(self, text):
+        """Whether a text is that of an answer that can be named."""
+        told = read_name(text)
+        if told is None:
+            return False
+        name, day, moment, question = told
+        try:
+            plan, at = asked_question(self._log, question, day, moment)
+            self._store.check_name(name)
+        except BackfilledError:
+            return False
+        if name_text(name, day, at, plan.text) != text:
+            return False
+        self._store.restore_name(name, plan, day, at)
+        self._reached = NAMES
+        return True
+
+
+def is_shown(text):
+    """Whether a text is that of a code as it is shown."""
+    try:
+        return show(parse(text)) == text
+    except BadText:
+        return False
+
+
+def plan_held(log, table, day, text):
+    """The plan of a code that held for a partition at some moment; None if any values tell of no such code."""
+    if table not in log.tables() or not is_day(day):
+        return None
+    return log.plans_held(table, day).get(text)

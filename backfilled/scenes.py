@@ -1,0 +1,112 @@
+"""Scenes: what the lines of a paper may speak of on one day, with all rows there."""
+
+from backfilled.reasons import ways_of
+from backfilled.scratch import Scratch
+from backfilled.steps import in_order_of
+from backfilled.trees import paths_in
+from backfilled.values import is_day, is_integer, is_row
+
+
+class CodeScene:
+    """The parts of a code on a day, by their paths."""
+
+    def __init__(self, table, day, plan, contents):
+        self.table = table
+        self.day = day
+        self._parts = {}
+        found = plan.rows_from(day, contents)
+        for path, part, columns, rows in zip(paths_in(plan.tree), plan.parts, plan.shapes, found):
+            self._parts[path] = (part, columns, {row: True for row in sorted(rows)})
+        self._groups = {}
+
+    def columns_there(self, path):
+        """The columns of a part."""
+        return self._parts[path][1]
+
+    def place(self, path, row):
+        """The row of a part as lines tell it."""
+        return (self.table, self.day, path, row)
+
+    def ahead(self, path, row):
+        """The row of the code ahead of a part as lines tell it."""
+        return self.place(path + (0,), row)
+
+    def holds(self, path, row):
+        """Whether any values are a path and a row of the part there."""
+        if not is_path(path) or path not in self._parts:
+            return False
+        return is_row(row, self._parts[path][1]) and row in self._parts[path][2]
+
+    def ways(self, path, row):
+        """All ways in which a row of a part may come about."""
+        return ways_of(self, path, self._parts[path][0], row)
+
+    def members(self, path, names, key):
+        """The rows of the code ahead of a part that have these values in the columns of these names, in order."""
+        if path not in self._groups:
+            _, columns, rows = self._parts[path + (0,)]
+            groups = {}
+            for found, row in zip(in_order_of(names, columns, list(rows)), list(rows)):
+                groups.setdefault(found, []).append(row)
+            self._groups[path] = groups
+        return list(self._groups[path][key])
+
+
+class RawScene:
+    """The rows of a raw table on a day, with the moments that put them."""
+
+    def __init__(self, shape, moments):
+        self._shape = shape
+        self._moments = moments
+
+    def holds(self, path, row):
+        """Whether any values are the empty path and a row."""
+        return is_path(path) and path == () and is_row(row, self._shape) and row in self._moments
+
+    def ways(self, path, row):
+        """The only way in which a row came."""
+        return [("raw", [self._moments[row]])]
+
+
+class Scenes:
+    """The scenes of a question on a day at a moment."""
+
+    def __init__(self, log, plan, day, moment):
+        self.question_day = day
+        self._log = log
+        self._plan = plan
+        self._at = moment
+        self._tables = log.tables(moment)
+        self._scratch = Scratch(log, moment)
+        self._scenes = {}
+
+    def is_place(self, table, day):
+        """Whether any values are a table and a day of which lines may speak, or None and the question's day."""
+        if not is_day(day):
+            return False
+        if table is None:
+            return day == self.question_day
+        if not isinstance(table, str) or table not in self._tables:
+            return False
+        return self._log.is_raw(table, self._at) or self._log.plan_on(table, day, self._at) is not None
+
+    def scene(self, table, day):
+        """The scene of a table, or of the question, on a day."""
+        if (table, day) not in self._scenes:
+            self._scenes[(table, day)] = self._new_scene(table, day)
+        return self._scenes[(table, day)]
+
+    def _new_scene(self, table, day):
+        """The scene of a table, or of the question, on a day, made for the first time."""
+        plan = self._plan if table is None else self._log.plan_on(table, day, self._at)
+        if plan is None:
+            return RawScene(self._tables[table], self._log.put_moments(table, day, self._at))
+        contents = {}
+        for need in plan.needs_on(day):
+            contents[need] = self._scratch.content_of(need[0], need[1])
+        return CodeScene(table, day, plan, contents)
+
+
+def is_path(value):
+    """Whether any value is a tuple of integers, as paths are."""
+    return isinstance(value, tuple) and all([is_integer(step) for step in value])

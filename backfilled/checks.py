@@ -2,7 +2,7 @@
 
 from backfilled.errors import BadCode
 from backfilled.shapes import shape_behind
-from backfilled.trees import inner_first, parts_in, take_last
+from backfilled.trees import inner_first, many_in, take_last
 
 MOST_COLUMNS = 10
 
@@ -17,7 +17,7 @@ def shapes_of(parts, tables):
     shapes = []
     waiting = []
     for part in parts:
-        inner = take_last(waiting, len(parts_in(part)))
+        inner = take_last(waiting, many_in(part))
         columns = shape_behind(part, inner, tables)
         if columns is None or len(columns) > MOST_COLUMNS:
             raise BadCode(part)

@@ -1,8 +1,8 @@
 """Codes as texts and as trees."""
 
 from backfilled.errors import BadText
-from backfilled.grammar import read_code
-from backfilled.tokens import Reader
+from backfilled.grammar import read_code, take
+from backfilled.tokens import END, placed_tokens, tokens_of
 
 MOST_SIGNS = 600
 STRENGTHS = {"or": 1, "and": 2, "+": 1, "-": 1, "*": 2}
@@ -13,12 +13,22 @@ def parse(text):
     """The tree of the text of a code."""
     if not isinstance(text, str) or len(text) > MOST_SIGNS:
         raise BadText(None)
-    reader = Reader(text)
-    code = read_code(reader)
-    reader.take("end")
-    if len(show(code)) > MOST_SIGNS:
+    tokens = tokens_of(text)
+    ahead = tokens[::-1]
+    try:
+        code = read_code(ahead)
+        take(ahead, END)
+    except BadText:
+        raise BadText(place_of(text, len(tokens) - len(ahead))) from None
+    # Shown, the code has no more tokens, and none longer, so most codes are surely short enough.
+    if len(text) + len(tokens) > MOST_SIGNS and len(show(code)) > MOST_SIGNS:
         raise BadText(None)
     return code
+
+
+def place_of(text, number):
+    """The index of a token of a text, given by its number."""
+    return placed_tokens(text)[number][1]
 
 
 def show(code):
@@ -31,17 +41,8 @@ def show(code):
             tokens.append(piece)
         else:
             waiting.extend(pieces_of(piece)[::-1])
-    return spaced(tokens)
-
-
-def spaced(tokens):
-    """The text of tokens, with a space wherever one belongs between two."""
-    text = ""
-    for token in tokens:
-        if text and text[-1] not in "([" and token not in (")", "]", ",", ":"):
-            text = text + " "
-        text = text + token
-    return text
+    text = " ".join(tokens).replace("( ", "(").replace("[ ", "[")
+    return text.replace(" )", ")").replace(" ]", "]").replace(" ,", ",").replace(" :", ":")
 
 
 def pieces_of(tree):

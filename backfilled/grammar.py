@@ -1,106 +1,138 @@
-"""The grammar of codes: each function reads one of its forms from a Reader.
+"""The grammar of codes: each function reads one of its forms.
 
-Those in STEPS read what stands behind the word of a step, and return what stands
-behind the code ahead in its tree.
+What is read from is a list of the tokens that are ahead, the next one last. A token that cannot
+stand where it stands is left there: so it is known which one it is.
 """
+
+from backfilled.errors import BadText
+from backfilled.tokens import is_fixed
 
 SUM_WORDS = ("count", "sum", "least", "greatest")
 COMPARISONS = ("=", "<", "<=")
+TERM_SIGNS = ("+", "-", "*")
+CONDITION_WORDS = ("or", "and")
 MOST_DAYS = 30
 
 
-def read_code(reader):
+def refuse():
+    """Tells that the next token cannot stand here."""
+    raise BadText(None)
+
+
+def take(ahead, token):
+    """Goes on behind the next token, which must be this one."""
+    if ahead[-1] != token:
+        refuse()
+    ahead.pop()
+
+
+def is_next_name(ahead):
+    """Whether the next token is a name."""
+    return isinstance(ahead[-1], str) and not is_fixed(ahead[-1])
+
+
+def take_name(ahead):
+    """The next token, which must be a name, going on behind it."""
+    if not is_next_name(ahead):
+        refuse()
+    return ahead.pop()
+
+
+def take_days(ahead):
+    """The next token, which must be a number of days, going on behind it."""
+    if not isinstance(ahead[-1], int) or not 1 <= ahead[-1] <= MOST_DAYS:
+        refuse()
+    return ahead.pop()
+
+
+def read_code(ahead):
     """A source and its steps."""
-    code = read_source(reader)
-    while reader.skip("|"):
-        code = read_step(reader, code)
+    code = read_source(ahead)
+    while ahead[-1] == "|":
+        ahead.pop()
+        if ahead[-1] not in STEPS:
+            refuse()
+        word = ahead.pop()
+        action = STEPS[word]
+        code = action(ahead, word, code)
     return code
 
 
-def read_source(reader):
+def read_source(ahead):
     """A table on a day, its last days, or a code in brackets."""
-    if reader.ahead() == "(":
-        reader.enter("(")
-        code = read_code(reader)
-        reader.leave(")")
+    if ahead[-1] == "(":
+        ahead.pop()
+        code = read_code(ahead)
+        take(ahead, ")")
         return code
-    name = reader.take("name")
-    if reader.skip("-"):
-        return ("table", name, reader.take_number(1, MOST_DAYS))
-    if reader.skip("last"):
-        return ("last", name, reader.take_number(1, MOST_DAYS))
+    name = take_name(ahead)
+    if ahead[-1] == "-":
+        ahead.pop()
+        return ("table", name, take_days(ahead))
+    if ahead[-1] == "last":
+        ahead.pop()
+        return ("last", name, take_days(ahead))
     return ("table", name, 0)
 
 
-def read_step(reader, code):
-    """A step behind the code ahead of it."""
-    word = reader.ahead()
-    if word not in STEPS:
-        reader.refuse()
-    action = STEPS[reader.take(word)]
-    rest = action(reader)
-    return (word, code, *rest)
+def read_where(ahead, word, code):
+    """The step of a condition."""
+    return (word, code, read_condition(ahead))
 
 
-def read_where(reader):
-    """The condition of a step."""
-    return [read_condition(reader)]
+def read_with(ahead, word, code):
+    """The step of a new column."""
+    name = take_name(ahead)
+    take(ahead, "=")
+    return (word, code, name, read_term(ahead))
 
 
-def read_with(reader):
-    """The name and the term of a new column."""
-    name = reader.take("name")
-    reader.take("=")
-    return [name, read_term(reader)]
+def read_keep(ahead, word, code):
+    """The step of the columns that are kept."""
+    first = take_name(ahead)
+    return (word, code, (first, *read_names(ahead)))
 
 
-def read_keep(reader):
-    """The names of the columns that are kept."""
-    first = reader.take("name")
-    others = read_names(reader)
-    return [(first, *others)]
-
-
-def read_names(reader):
+def read_names(ahead):
     """The names that stand here, perhaps none."""
     names = []
-    while reader.ahead() == "name":
-        names.append(reader.take("name"))
+    while is_next_name(ahead):
+        names.append(ahead.pop())
     return names
 
 
-def read_rename(reader):
-    """The old and the new name of a column."""
-    old = reader.take("name")
-    return [old, reader.take("name")]
+def read_rename(ahead, word, code):
+    """The step of the old and the new name of a column."""
+    old = take_name(ahead)
+    return (word, code, old, take_name(ahead))
 
 
-def read_second(reader):
-    """The second code of a step."""
-    return [read_source(reader)]
+def read_second(ahead, word, code):
+    """A step with a second code."""
+    return (word, code, read_source(ahead))
 
 
-def read_group(reader):
-    """The names and the sums of groups."""
-    names = tuple(read_names(reader))
-    reader.take(":")
-    sums = [read_sum(reader)]
-    while reader.skip(","):
-        sums.append(read_sum(reader))
-    return [names, tuple(sums)]
+def read_group(ahead, word, code):
+    """The step of the names and the sums of groups."""
+    names = tuple(read_names(ahead))
+    take(ahead, ":")
+    sums = [read_sum(ahead)]
+    while ahead[-1] == ",":
+        ahead.pop()
+        sums.append(read_sum(ahead))
+    return (word, code, names, tuple(sums))
 
 
-def read_sum(reader):
+def read_sum(ahead):
     """What is told of each group in one column."""
-    name = reader.take("name")
-    reader.take("=")
-    word = reader.ahead()
-    if word not in SUM_WORDS:
-        reader.refuse()
-    reader.take(word)
+    name = take_name(ahead)
+    take(ahead, "=")
+    if ahead[-1] not in SUM_WORDS:
+        refuse()
+    word = ahead.pop()
     if word == "count":
         return (name, word, None)
-    return (name, word, reader.take("name"))
+    return (name, word, take_name(ahead))
 
 
 STEPS = {
@@ -109,76 +141,75 @@ STEPS = {
 }
 
 
-def read_chain(reader, signs, read_part):
-    """Parts that are joined by signs of one strength, grouped from the left."""
-    tree = read_part(reader)
-    while reader.ahead() in signs:
-        sign = reader.take(reader.ahead())
-        tree = (sign, tree, read_part(reader))
+def read_term(ahead):
+    """Parts joined by + and -, of factors joined by *."""
+    return read_chain(ahead, TERM_SIGNS, "*", read_factor)
+
+
+def read_condition(ahead):
+    """Conditions joined by or, and by and."""
+    return read_chain(ahead, CONDITION_WORDS, "and", read_single)
+
+
+def read_chain(ahead, signs, strong, read_part):
+    """Parts that are joined by signs, grouped from the left; one of the signs binds closer than the others."""
+    tree = read_part(ahead)
+    while ahead[-1] in signs:
+        sign = ahead.pop()
+        part = read_part(ahead)
+        while sign != strong and ahead[-1] == strong:
+            ahead.pop()
+            part = (strong, part, read_part(ahead))
+        tree = (sign, tree, part)
     return tree
 
 
-def read_condition(reader):
-    """Conditions joined by or."""
-    return read_chain(reader, ("or",), read_both)
-
-
-def read_both(reader):
-    """Conditions joined by and."""
-    return read_chain(reader, ("and",), read_not)
-
-
-def read_not(reader):
+def read_single(ahead):
     """A comparison or a condition in brackets, perhaps behind some not."""
     many = 0
-    while reader.skip("not"):
+    while ahead[-1] == "not":
+        ahead.pop()
         many += 1
-    condition = read_single(reader)
+    if ahead[-1] == "[":
+        ahead.pop()
+        condition = read_condition(ahead)
+        take(ahead, "]")
+    else:
+        condition = read_comparison(ahead)
     for _ in range(many):
         condition = ("not", condition)
     return condition
 
 
-def read_single(reader):
-    """A comparison or a condition in brackets."""
-    if reader.ahead() == "[":
-        reader.enter("[")
-        condition = read_condition(reader)
-        reader.leave("]")
-        return condition
-    first = read_term(reader)
-    sign = reader.ahead()
-    if sign not in COMPARISONS:
-        reader.refuse()
-    reader.take(sign)
-    return (sign, first, read_term(reader))
+def read_comparison(ahead):
+    """Two terms and the sign between them."""
+    first = read_term(ahead)
+    if ahead[-1] not in COMPARISONS:
+        refuse()
+    sign = ahead.pop()
+    return (sign, first, read_term(ahead))
 
 
-def read_term(reader):
-    """Parts joined by + and -."""
-    return read_chain(reader, ("+", "-"), read_product)
-
-
-def read_product(reader):
-    """Factors joined by *."""
-    return read_chain(reader, ("*",), read_factor)
-
-
-def read_factor(reader):
+def read_factor(ahead):
     """A number, a text, a column, the day, or a term in brackets."""
-    kind = reader.ahead()
-    if kind == "(":
-        reader.enter("(")
-        term = read_term(reader)
-        reader.leave(")")
+    token = ahead[-1]
+    if not isinstance(token, str):
+        return ahead.pop()
+    if token == "(":
+        ahead.pop()
+        term = read_term(ahead)
+        take(ahead, ")")
         return term
-    if kind == "-":
-        reader.take("-")
-        return -reader.take("number")
-    if kind == "number":
-        return reader.take("number")
-    if kind == "text":
-        return ("text", reader.take("text"))
-    if reader.skip("today"):
-        return ("today",)
-    return ("column", reader.take("name"))
+    if token == "-":
+        ahead.pop()
+        return -take_number(ahead)
+    if token == "today":
+        return (ahead.pop(),)
+    return ("column", take_name(ahead))
+
+
+def take_number(ahead):
+    """The next token, which must be a number, going on behind it."""
+    if not isinstance(ahead[-1], int):
+        refuse()
+    return ahead.pop()

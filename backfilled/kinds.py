@@ -1,6 +1,6 @@
 """The kinds of columns, terms and conditions."""
 
-from backfilled.trees import inner_first, parts_in, take_last
+from backfilled.trees import inner_first, many_in, take_last
 
 TRUTH = "truth"
 SUMMED = ("+", "-", "*")
@@ -22,7 +22,7 @@ def kind_of(tree, columns):
     kinds = kinds_of(columns)
     waiting = []
     for part in inner_first(tree):
-        inner = take_last(waiting, len(parts_in(part)))
+        inner = take_last(waiting, many_in(part))
         waiting.append(None if None in inner else kind_behind(part, inner, kinds))
     return waiting[0]
 

@@ -3,7 +3,7 @@
 from backfilled.checks import reads_of, shapes_of
 from backfilled.contents import Content, Sound
 from backfilled.steps import rows_behind
-from backfilled.trees import inner_first, parts_in, take_last
+from backfilled.trees import inner_first, many_in, take_last
 
 
 class Plan:
@@ -34,7 +34,7 @@ class Plan:
         found = []
         waiting = []
         for part, columns in zip(self.parts, self.shapes):
-            inner = take_last(waiting, len(parts_in(part)))
+            inner = take_last(waiting, many_in(part))
             rows = rows_behind(part, day, inner) if inner else rows_read(part, day, contents)
             waiting.append((columns, rows))
             found.append(rows)

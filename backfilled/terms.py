@@ -1,7 +1,7 @@
 """Working out terms and conditions, for all rows of a code at once."""
 
 from backfilled.kinds import names_of
-from backfilled.trees import inner_first, parts_in, take_last
+from backfilled.trees import inner_first, many_in, take_last
 
 
 def added(one, other):
@@ -55,7 +55,7 @@ def worked_out(tree, day, columns, rows):
     names = names_of(columns)
     waiting = []
     for part in inner_first(tree):
-        inner = take_last(waiting, len(parts_in(part)))
+        inner = take_last(waiting, many_in(part))
         if inner:
             waiting.append(combined(part[0], inner))
         elif not isinstance(part, int) and part[0] == "column":

@@ -1,35 +1,92 @@
-"""The tokens of the text of a code, and reading them one after another."""
+"""The tokens of the text of a code.
 
-from backfilled.errors import BadText
+A token is a word, a sign or a name, as a string, a number, as an integer, or a text, as the tree ("text", text).
+The last one is END, or NO_TOKEN, which stands where a character begins no token, or where nothing may stand.
+"""
+
 from backfilled.values import is_name, is_text
 from backfilled.words import DIGITS, LETTERS, SIGNS, WORDS
 
-NO_TOKEN = "none"
+END = ""
+NO_TOKEN = " "
 MOST_DIGITS = 40
 MOST_OPEN = 20
 
 
-def tokens_of(text):
-    """The tokens, tuples of a kind, a value and an index.
+def is_fixed(token):
+    """Whether a token is no name, number or text."""
+    return token in WORDS or token in SIGNS or token == END or token == NO_TOKEN
 
-    The kind of a word or a sign is itself. The last token is the end of the text,
-    or stands for the first character that begins no token.
-    """
-    tokens = []
-    at = skip_spaces(text, 0)
-    while at < len(text):
-        kind, value, behind = token_at(text, at)
-        tokens.append((kind, value, at))
-        if kind == NO_TOKEN:
-            return tokens
-        at = skip_spaces(text, behind)
-    tokens.append(("end", None, len(text)))
+
+def tokens_of(text):
+    """The list of the tokens of a text."""
+    tokens = plain_tokens(text)
+    if NO_TOKEN in tokens:
+        tokens = [token for token, _ in placed_tokens(text)]
+    if text.count("(") + text.count("[") > MOST_OPEN:
+        return within_depth(tokens)
     return tokens
 
 
-def skip_spaces(text, at):
-    """The index of the first character from an index on that is no space."""
-    return run_end(text, at, " ")
+def plain_tokens(text):
+    """The tokens of a text, found quickly; NO_TOKEN is among them if it is not plain that all are right."""
+    if not text.isascii() or not text.isprintable() or "_" in text:
+        return [NO_TOKEN]
+    pieces = text.split("'")
+    tokens = words_in(pieces[0])
+    for at in range(1, len(pieces), 2):
+        if at + 1 == len(pieces) or not is_text(pieces[at]):
+            return [NO_TOKEN]
+        tokens.append(("text", pieces[at]))
+        tokens.extend(words_in(pieces[at + 1]))
+    tokens.append(END)
+    return tokens
+
+
+def words_in(piece):
+    """The tokens of a piece of a text without quotes."""
+    spaced = piece.replace("<=", " _ ").replace("|", " | ").replace("(", " ( ").replace(")", " ) ")
+    spaced = spaced.replace("[", " [ ").replace("]", " ] ").replace(",", " , ").replace(":", " : ")
+    spaced = spaced.replace("=", " = ").replace("<", " < ").replace("+", " + ").replace("-", " - ").replace("*", " * ")
+    return [word if word in WORDS or word in SIGNS else token_for(word) for word in spaced.split()]
+
+
+def token_for(word):
+    """The name or number that a run of signs is, or NO_TOKEN."""
+    if word == "_":
+        return "<="
+    if is_name(word):
+        return word
+    if word.isdigit() and len(word) <= MOST_DIGITS and (word == "0" or not word.startswith("0")):
+        return int(word)
+    return NO_TOKEN
+
+
+def within_depth(tokens):
+    """The tokens, up to the first bracket that would be one too many that are open at once."""
+    depth = 0
+    for at, token in enumerate(tokens):
+        if token in ("(", "["):
+            depth += 1
+        elif token in (")", "]"):
+            depth -= 1
+        if depth > MOST_OPEN:
+            return tokens[:at] + [NO_TOKEN]
+    return tokens
+
+
+def placed_tokens(text):
+    """The list of tuples of the tokens of a text and their indexes."""
+    found = []
+    at = run_end(text, 0, " ")
+    while at < len(text):
+        token, behind = token_at(text, at)
+        found.append((token, at))
+        if token == NO_TOKEN:
+            return found
+        at = run_end(text, behind, " ")
+    found.append((END, len(text)))
+    return found
 
 
 def run_end(text, at, signs):
@@ -38,97 +95,31 @@ def run_end(text, at, signs):
 
 
 def token_at(text, at):
-    """The token that begins at an index: its kind, its value and the index behind it."""
+    """The token that begins at an index, and the index behind it."""
     sign = text[at]
     if sign in LETTERS + DIGITS:
         return run_at(text, at)
     if sign == "'":
         return quoted_at(text, at)
     if text.startswith("<=", at):
-        return ("<=", "<=", at + 2)
+        return ("<=", at + 2)
     if sign in SIGNS:
-        return (sign, sign, at + 1)
-    return (NO_TOKEN, None, at)
+        return (sign, at + 1)
+    return (NO_TOKEN, at)
 
 
 def run_at(text, at):
-    """The name, word or number that begins at an index."""
+    """The name, word or number that begins at an index, and the index behind it."""
     if at > 0 and text[at - 1] in LETTERS + DIGITS:
-        return (NO_TOKEN, None, at)
-    if text[at] in DIGITS:
-        return number_at(text, at)
-    end = run_end(text, at, LETTERS)
+        return (NO_TOKEN, at)
+    end = run_end(text, at, DIGITS if text[at] in DIGITS else LETTERS)
     run = text[at:end]
-    if run in WORDS:
-        return (run, run, end)
-    if is_name(run):
-        return ("name", run, end)
-    return (NO_TOKEN, None, at)
-
-
-def number_at(text, at):
-    """The number that begins at an index."""
-    end = run_end(text, at, DIGITS)
-    run = text[at:end]
-    if len(run) > MOST_DIGITS or run.startswith("0") and run != "0":
-        return (NO_TOKEN, None, at)
-    return ("number", int(run), end)
+    return (run if run in WORDS else token_for(run), end)
 
 
 def quoted_at(text, at):
-    """The text in quotes that begins at an index."""
+    """The text in quotes that begins at an index, and the index behind it."""
     end = text.find("'", at + 1)
     if end < 0 or not is_text(text[at + 1:end]):
-        return (NO_TOKEN, None, at)
-    return ("text", text[at + 1:end], end + 1)
-
-
-class Reader:
-    """The tokens of a text, read one after another."""
-
-    def __init__(self, text):
-        self._tokens = tokens_of(text)
-        self._next = 0
-        self._depth = 0
-
-    def ahead(self):
-        """The kind of the next token."""
-        return self._tokens[self._next][0]
-
-    def refuse(self):
-        """Tells that the next token cannot stand here."""
-        raise BadText(self._tokens[self._next][2])
-
-    def take(self, kind):
-        """The value of the next token, which must be of a kind, going on behind it."""
-        if self.ahead() != kind:
-            self.refuse()
-        value = self._tokens[self._next][1]
-        self._next += 1
-        return value
-
-    def take_number(self, least, greatest):
-        """The next number, which must be within bounds, going on behind it."""
-        kind, value, _ = self._tokens[self._next]
-        if kind != "number" or not least <= value <= greatest:
-            self.refuse()
-        return self.take("number")
-
-    def skip(self, kind):
-        """Whether the next token is of a kind, going on behind it if so."""
-        found = self.ahead() == kind
-        if found:
-            self._next += 1
-        return found
-
-    def enter(self, bracket):
-        """Goes on behind an open bracket."""
-        if self._depth == MOST_OPEN:
-            self.refuse()
-        self.take(bracket)
-        self._depth += 1
-
-    def leave(self, bracket):
-        """Goes on behind a bracket that closes."""
-        self.take(bracket)
-        self._depth -= 1
+        return (NO_TOKEN, at)
+    return (("text", text[at + 1:end]), end + 1)

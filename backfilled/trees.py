@@ -1,16 +1,20 @@
 """Going through trees without calls within one another: trees may be deep."""
 
-LEAVES = ("table", "last", "text", "column", "today")
-DOUBLES = ("join", "union", "minus", "and", "or", "=", "<", "<=", "+", "-", "*")
+# How many parts a tree has directly within it, if it is not one.
+MANY_INNER = {
+    "table": 0, "last": 0, "text": 0, "column": 0, "today": 0, "join": 2, "union": 2, "minus": 2, "and": 2,
+    "or": 2, "=": 2, "<": 2, "<=": 2, "+": 2, "-": 2, "*": 2,
+}
 
 
 def parts_in(tree):
     """The codes directly within a code; the conditions and terms directly within one of these."""
-    if isinstance(tree, int) or tree[0] in LEAVES:
-        return []
-    if tree[0] in DOUBLES:
-        return [tree[1], tree[2]]
-    return [tree[1]]
+    return tree[1:1 + many_in(tree)] if isinstance(tree, tuple) else ()
+
+
+def many_in(tree):
+    """How many parts a tree has directly within it."""
+    return MANY_INNER.get(tree[0], 1) if isinstance(tree, tuple) else 0
 
 
 def inner_first(tree):
@@ -20,7 +24,8 @@ def inner_first(tree):
     while waiting:
         part = waiting.pop()
         found.append(part)
-        waiting.extend(parts_in(part))
+        if isinstance(part, tuple):
+            waiting.extend(part[1:1 + MANY_INNER.get(part[0], 1)])
     return found[::-1]
 
 

@@ -1,23 +1,23 @@
 """What is an integer, a name, a value, a day, columns and a row."""
 
-from backfilled.words import DIGITS, LETTERS, WORDS
+from backfilled.words import LETTERS, TEXT_SIGNS, WORDS
 
 KINDS = ("number", "text")
 
 
 def is_integer(value):
     """Whether any value is an integer: True and False are none."""
-    return isinstance(value, int) and not isinstance(value, bool)
+    return isinstance(value, int) and value is not True and value is not False
 
 
 def is_within(value, least, greatest):
     """Whether any value is an integer within bounds."""
-    return is_integer(value) and least <= value <= greatest
+    return isinstance(value, int) and value is not True and value is not False and least <= value <= greatest
 
 
 def is_text(value):
     """Whether any value is a value of the kind text."""
-    return isinstance(value, str) and len(value) <= 20 and not value.strip(LETTERS + DIGITS + " ")
+    return isinstance(value, str) and len(value) <= 20 and not value.strip(TEXT_SIGNS)
 
 
 def is_name(value):
@@ -55,11 +55,14 @@ def is_row(value, columns):
     """Whether any value is a row of columns."""
     if not isinstance(value, tuple) or len(value) != len(columns):
         return False
-    return all([is_of_kind(item, kind) for item, (_, kind) in zip(value, columns)])
+    for item, (_, kind) in zip(value, columns):
+        if not is_of_kind(item, kind):
+            return False
+    return True
 
 
 def is_of_kind(value, kind):
     """Whether any value is one of a kind."""
-    if kind == "number":
-        return is_integer(value)
-    return is_text(value)
+    if kind == "text":
+        return is_text(value)
+    return isinstance(value, int) and value is not True and value is not False

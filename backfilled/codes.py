@@ -2,7 +2,8 @@
 
 from backfilled.errors import BadText
 from backfilled.grammar import read_code, take
-from backfilled.tokens import END, placed_tokens, tokens_of
+from backfilled.tokens import placed_tokens, tokens_of
+from backfilled.words import END
 
 MOST_SIGNS = 600
 STRENGTHS = {"or": 1, "and": 2, "+": 1, "-": 1, "*": 2}
@@ -20,10 +21,19 @@ def parse(text):
         take(ahead, END)
     except BadText:
         raise BadText(place_of(text, len(tokens) - len(ahead))) from None
-    # Shown, the code has no more tokens, and none longer, so most codes are surely short enough.
-    if len(text) + len(tokens) > MOST_SIGNS and len(show(code)) > MOST_SIGNS:
+    if most_shown(text, tokens) > MOST_SIGNS and len(show(code)) > MOST_SIGNS:
         raise BadText(None)
     return code
+
+
+def most_shown(text, tokens):
+    """How many signs the code of a text has at most when it is shown: with all its tokens, and spaces between them."""
+    if len(text) + len(tokens) <= MOST_SIGNS:
+        return MOST_SIGNS
+    quoted = sum([token[1].count(" ") for token in tokens if isinstance(token, tuple)])
+    # There is no space behind or ahead of these.
+    glued = sum([text.count(sign) for sign in "()[],:"])
+    return len(text) - text.count(" ") + quoted + len(tokens) - 2 - glued
 
 
 def place_of(text, number):
@@ -33,36 +43,34 @@ def place_of(text, number):
 
 def show(code):
     """The text of a tree."""
+    # The last tokens are found first.
     tokens = []
     waiting = [code]
     while waiting:
         piece = waiting.pop()
         if isinstance(piece, str):
             tokens.append(piece)
+        elif isinstance(piece, int):
+            tokens.append(str(piece))
         else:
-            waiting.extend(pieces_of(piece)[::-1])
-    text = " ".join(tokens).replace("( ", "(").replace("[ ", "[")
+            action = PIECES[piece[0]]
+            waiting.extend(action(piece))
+    text = " ".join(tokens[::-1]).replace("( ", "(").replace("[ ", "[")
     return text.replace(" )", ")").replace(" ]", "]").replace(" ,", ",").replace(" :", ":")
 
 
-def pieces_of(tree):
-    """The tokens and inner trees that a tree is written with, in order."""
-    if isinstance(tree, int):
-        return [str(tree)]
-    word = tree[0]
-    if word in STRENGTHS:
-        # The tree is grouped from the left, so an equally strong part on the right needs brackets.
-        return guarded(tree[1], STRENGTHS[word]) + [word] + guarded(tree[2], STRENGTHS[word] + 1)
-    action = PIECES[word]
-    return action(tree)
+def chain_pieces(tree):
+    """The pieces of parts that are joined by a sign."""
+    strength = STRENGTHS[tree[0]]
+    # The tree is grouped from the left, so an equally strong part on the right needs brackets.
+    return guarded(tree[1], strength) + [tree[0]] + guarded(tree[2], strength + 1)
 
 
 def guarded(part, least):
     """The pieces of a part of a term or a condition, in brackets if it is weaker than the least strength."""
-    word = "" if isinstance(part, int) else part[0]
-    if STRENGTHS.get(word, STRONGEST) >= least:
+    if isinstance(part, int) or STRENGTHS.get(part[0], STRONGEST) >= least:
         return [part]
-    if word in ("and", "or"):
+    if part[0] in ("and", "or"):
         return ["[", part, "]"]
     return ["(", part, ")"]
 
@@ -88,7 +96,7 @@ def last_pieces(code):
 
 def step_pieces(code):
     """The pieces of a step that is written as its word and what follows in the tree."""
-    return [code[1], "|", code[0]] + list(code[2:])
+    return [code[1], "|", code[0], *code[2:]]
 
 
 def with_pieces(code):
@@ -98,7 +106,7 @@ def with_pieces(code):
 
 def keep_pieces(code):
     """The pieces of a step that keeps columns."""
-    return [code[1], "|", "keep"] + list(code[2])
+    return [code[1], "|", "keep", *code[2]]
 
 
 def second_pieces(code):
@@ -108,7 +116,7 @@ def second_pieces(code):
 
 def group_pieces(code):
     """The pieces of a step that makes groups."""
-    pieces = [code[1], "|", "group"] + list(code[2]) + [":"]
+    pieces = [code[1], "|", "group", *code[2], ":"]
     for at, (name, word, column) in enumerate(code[3]):
         if at > 0:
             pieces.append(",")
@@ -143,5 +151,6 @@ PIECES = {
     "keep": keep_pieces, "rename": step_pieces, "join": second_pieces, "union": second_pieces,
     "minus": second_pieces, "group": group_pieces, "not": not_pieces, "=": comparison_pieces,
     "<": comparison_pieces, "<=": comparison_pieces, "text": text_pieces, "column": name_pieces,
-    "today": name_pieces,
+    "today": name_pieces, "or": chain_pieces, "and": chain_pieces, "+": chain_pieces, "-": chain_pieces,
+    "*": chain_pieces,
 }

@@ -5,7 +5,7 @@ stand where it stands is left there: so it is known which one it is.
 """
 
 from backfilled.errors import BadText
-from backfilled.tokens import is_fixed
+from backfilled.words import FIXED
 
 SUM_WORDS = ("count", "sum", "least", "greatest")
 COMPARISONS = ("=", "<", "<=")
@@ -28,12 +28,12 @@ def take(ahead, token):
 
 def is_next_name(ahead):
     """Whether the next token is a name."""
-    return isinstance(ahead[-1], str) and not is_fixed(ahead[-1])
+    return ahead[-1] not in FIXED and isinstance(ahead[-1], str)
 
 
 def take_name(ahead):
     """The next token, which must be a name, going on behind it."""
-    if not is_next_name(ahead):
+    if ahead[-1] in FIXED or not isinstance(ahead[-1], str):
         refuse()
     return ahead.pop()
 

@@ -1,10 +1,13 @@
 """The kinds of columns, terms and conditions."""
 
-from backfilled.trees import inner_first, many_in, take_last
+from backfilled.trees import inner_first
 
 TRUTH = "truth"
-SUMMED = ("+", "-", "*")
-COMPARED = ("=", "<", "<=")
+# What signs and words between two parts of one kind make of it.
+BETWEEN = {
+    "+": "number", "-": "number", "*": "number", "=": "truth", "<": "truth", "<=": "truth", "and": "truth",
+    "or": "truth",
+}
 
 
 def names_of(columns):
@@ -22,24 +25,22 @@ def kind_of(tree, columns):
     kinds = kinds_of(columns)
     waiting = []
     for part in inner_first(tree):
-        inner = take_last(waiting, many_in(part))
-        waiting.append(None if None in inner else kind_behind(part, inner, kinds))
+        word = part[0] if isinstance(part, tuple) else "number"
+        if word == "column":
+            waiting.append(kinds.get(part[1]))
+        elif word in BETWEEN:
+            second = waiting.pop()
+            waiting[-1] = kind_between(word, waiting[-1], second)
+        elif word != "not":
+            waiting.append("text" if word == "text" else "number")
+        if waiting[-1] is None:
+            return None
     return waiting[0]
 
 
-def kind_behind(part, inner, kinds):
-    """The kind of a term or a condition whose inner parts have these kinds."""
-    if isinstance(part, int):
-        return "number"
-    word = part[0]
-    if word == "column":
-        return kinds.get(part[1])
-    if word in SUMMED:
-        return "number" if inner == ["number", "number"] else None
-    if word in COMPARED:
-        return TRUTH if inner[0] == inner[1] else None
-    if word == "text":
-        return "text"
-    if word == "today":
-        return "number"
-    return TRUTH
+def kind_between(word, first, second):
+    """The kind of two parts, of these kinds, with a sign or a word between them; None if it is not valid."""
+    kind = BETWEEN[word]
+    if first != second or kind == "number" and first != kind:
+        return None
+    return kind

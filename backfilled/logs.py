@@ -17,8 +17,7 @@ class Log:
     def __init__(self):
         self._entries = []
         self._tables = {}
-        # For each moment, from 0 on, the plan of the entry if it sets a code, and the last day.
-        self._plans = [None]
+        # For each moment, from 0 on, the last day.
         self._last_days = [None]
 
     def add_table(self, name, columns, keys=1):
@@ -32,7 +31,9 @@ class Log:
         if not is_within(keys, 1, len(columns)):
             raise BadNumber(keys)
         self._check_room(name)
-        return self._keep(("table", name, tuple(columns), keys), None)
+        moment = self._keep(("table", name, tuple(columns), keys), None)
+        self._tables[name] = RawTable(moment, tuple(columns), keys)
+        return moment
 
     def put(self, table, day, row):
         """Puts a row into a raw table on a day; returns the moment."""
@@ -41,7 +42,9 @@ class Log:
             raise BadDay(day)
         if not is_row(row, known.shape):
             raise BadRow(row)
-        return self._keep(("put", table, day, row), None)
+        moment = self._keep(("put", table, day, row), day)
+        known.change(moment, day, row[:known.key_count], row)
+        return moment
 
     def delete(self, table, day, key):
         """Deletes the row with a key from a raw table on a day; returns the moment."""
@@ -50,7 +53,9 @@ class Log:
             raise BadDay(day)
         if not is_row(key, known.key_shape()):
             raise BadRow(key)
-        return self._keep(("delete", table, day, key), None)
+        moment = self._keep(("delete", table, day, key), None)
+        known.change(moment, day, key, None)
+        return moment
 
     def set_code(self, table, text, day=0):
         """Sets the code of a derived table from a day on; returns the moment."""
@@ -68,7 +73,11 @@ class Log:
         if self._leads_to(plan.same_day_tables(), table):
             raise BadCode(None)
         self._check_room(table)
-        return self._keep(("code", table, plan.text, day), plan)
+        moment = self._keep(("code", table, plan.text, day), None)
+        if known is None:
+            self._tables[table] = DerivedTable(moment, plan.shape)
+        self._tables[table].add_code(moment, day, plan)
+        return moment
 
     def __getitem__(self, at):
         if not is_within(at, 1, len(self._entries)):
@@ -123,9 +132,11 @@ class Log:
 
     def copy(self, moment=None):
         """An independent log with the first entries."""
+        last = self.moment_for(moment)
         copied = Log()
-        for at in range(1, self.moment_for(moment) + 1):
-            copied._keep(self._entries[at - 1], self._plans[at])
+        copied._entries = self._entries[:last]
+        copied._last_days = self._last_days[:last + 1]
+        copied._tables = {name: known.until(last) for name, known in self._tables.items() if known.moment <= last}
         return copied
 
     def moment_for(self, moment):
@@ -176,7 +187,7 @@ class Log:
 
     def _known_table(self, name, moment):
         """What is known of the table that any value names at a moment."""
-        if not is_name(name) or name not in self._tables or self._tables[name].moment > moment:
+        if not isinstance(name, str) or name not in self._tables or self._tables[name].moment > moment:
             raise UnknownTable(name)
         return self._tables[name]
 
@@ -216,29 +227,12 @@ class Log:
                 waiting.extend([near for plan in known.plans() for near in plan.same_day_tables()])
         return False
 
-    def _keep(self, entry, plan):
-        """Adds an entry that was checked, and returns its moment."""
+    def _keep(self, entry, day):
+        """Adds an entry that was checked, with the day on which it puts a row, or None; returns its moment."""
+        last = self._last_days[-1]
         self._entries.append(entry)
-        self._plans.append(plan)
-        self._last_days.append(self._last_days[-1])
-        moment = len(self._entries)
-        if entry[0] == "table":
-            self._tables[entry[1]] = RawTable(moment, entry[2], entry[3])
-        elif entry[0] == "put":
-            known = self._tables[entry[1]]
-            known.change(moment, entry[2], entry[3][:known.key_count], entry[3])
-            self._last_days[moment] = later_day(self._last_days[moment], entry[2])
-        elif entry[0] == "delete":
-            self._tables[entry[1]].change(moment, entry[2], entry[3], None)
-        else:
-            self._keep_code(moment, entry, plan)
-        return moment
-
-    def _keep_code(self, moment, entry, plan):
-        """Notes the plan of a code."""
-        if entry[1] not in self._tables:
-            self._tables[entry[1]] = DerivedTable(moment, plan.shape)
-        self._tables[entry[1]].add_code(moment, entry[3], plan)
+        self._last_days.append(last if day is None else later_day(last, day))
+        return len(self._entries)
 
 
 def told(entry):

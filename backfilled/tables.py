@@ -22,6 +22,17 @@ class RawTable:
         # For each day the content behind each number of its changes; None if it was not asked for yet.
         self._contents = {}
 
+    def until(self, moment):
+        """The table as it was at a moment."""
+        copied = RawTable(self.moment, self.shape, self.key_count)
+        for day, moments in self._moments.items():
+            many = how_many_until(moments, moment)
+            if many > 0:
+                copied._moments[day] = moments[:many]
+                copied._changes[day] = self._changes[day][:many]
+                copied._contents[day] = self._contents[day][:many + 1]
+        return copied
+
     def key_shape(self):
         """The columns of the key."""
         return self.shape[:self.key_count]
@@ -72,6 +83,12 @@ class DerivedTable:
         self.shape = shape
         self._empty = Content(shape, Sound([]))
         self._codes = []
+
+    def until(self, moment):
+        """The table as it was at a moment."""
+        copied = DerivedTable(self.moment, self.shape)
+        copied._codes = [code for code in self._codes if code[0] <= moment]
+        return copied
 
     def add_code(self, moment, day, plan):
         """Notes the plan of a code from a day on."""

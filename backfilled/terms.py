@@ -52,6 +52,8 @@ ACTIONS = {
 
 def worked_out(tree, day, columns, rows):
     """The values of a term, or the truths of a condition, on a day, one for each row of columns."""
+    if not rows:
+        return []
     names = names_of(columns)
     waiting = []
     for part in inner_first(tree):

@@ -4,18 +4,12 @@ A token is a word, a sign or a name, as a string, a number, as an integer, or a 
 The last one is END, or NO_TOKEN, which stands where a character begins no token, or where nothing may stand.
 """
 
-from backfilled.values import is_name, is_text
-from backfilled.words import DIGITS, LETTERS, SIGNS, WORDS
+from backfilled.values import is_text
+from backfilled.words import DIGITS, END, FIXED, LETTERS, NO_TOKEN
 
-END = ""
-NO_TOKEN = " "
+MOST_LETTERS = 8
 MOST_DIGITS = 40
 MOST_OPEN = 20
-
-
-def is_fixed(token):
-    """Whether a token is no name, number or text."""
-    return token in WORDS or token in SIGNS or token == END or token == NO_TOKEN
 
 
 def tokens_of(text):
@@ -48,15 +42,15 @@ def words_in(piece):
     spaced = piece.replace("<=", " _ ").replace("|", " | ").replace("(", " ( ").replace(")", " ) ")
     spaced = spaced.replace("[", " [ ").replace("]", " ] ").replace(",", " , ").replace(":", " : ")
     spaced = spaced.replace("=", " = ").replace("<", " < ").replace("+", " + ").replace("-", " - ").replace("*", " * ")
-    return [word if word in WORDS or word in SIGNS else token_for(word) for word in spaced.split()]
+    return [word if word in FIXED else token_for(word) for word in spaced.split()]
 
 
 def token_for(word):
-    """The name or number that a run of signs is, or NO_TOKEN."""
+    """The name or number that a run of signs is, if it is no word and no sign, or NO_TOKEN."""
+    if word.isalpha() and word.islower():
+        return word if len(word) <= MOST_LETTERS else NO_TOKEN
     if word == "_":
         return "<="
-    if is_name(word):
-        return word
     if word.isdigit() and len(word) <= MOST_DIGITS and (word == "0" or not word.startswith("0")):
         return int(word)
     return NO_TOKEN
@@ -103,9 +97,7 @@ def token_at(text, at):
         return quoted_at(text, at)
     if text.startswith("<=", at):
         return ("<=", at + 2)
-    if sign in SIGNS:
-        return (sign, at + 1)
-    return (NO_TOKEN, at)
+    return (sign if sign in FIXED else NO_TOKEN, at + 1)
 
 
 def run_at(text, at):
@@ -114,7 +106,7 @@ def run_at(text, at):
         return (NO_TOKEN, at)
     end = run_end(text, at, DIGITS if text[at] in DIGITS else LETTERS)
     run = text[at:end]
-    return (run if run in WORDS else token_for(run), end)
+    return (run if run in FIXED else token_for(run), end)
 
 
 def quoted_at(text, at):

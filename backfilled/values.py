@@ -1,6 +1,6 @@
 """What is an integer, a name, a value, a day, columns and a row."""
 
-from backfilled.words import LETTERS, TEXT_SIGNS, WORDS
+from backfilled.words import FIXED, LETTERS, TEXT_SIGNS
 
 KINDS = ("number", "text")
 
@@ -22,7 +22,7 @@ def is_text(value):
 
 def is_name(value):
     """Whether any value is a name."""
-    return isinstance(value, str) and 1 <= len(value) <= 8 and not value.strip(LETTERS) and value not in WORDS
+    return isinstance(value, str) and 1 <= len(value) <= 8 and not value.strip(LETTERS) and value not in FIXED
 
 
 def is_value(value):
@@ -56,13 +56,9 @@ def is_row(value, columns):
     if not isinstance(value, tuple) or len(value) != len(columns):
         return False
     for item, (_, kind) in zip(value, columns):
-        if not is_of_kind(item, kind):
+        if kind == "text":
+            if not is_text(item):
+                return False
+        elif not isinstance(item, int) or item is True or item is False:
             return False
     return True
-
-
-def is_of_kind(value, kind):
-    """Whether any value is one of a kind."""
-    if kind == "text":
-        return is_text(value)
-    return isinstance(value, int) and value is not True and value is not False

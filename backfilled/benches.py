@@ -62,9 +62,9 @@ class Bench:
         """Whether any value is a name of an answer."""
         return is_name(name) and name in self._named
 
-    def asked(self, name):
-        """The plan, the day and the moment of the answer of a name."""
-        return self._named[name]
+    def named(self):
+        """The list of tuples (name, plan, day, moment) of the named answers, in the order of the names."""
+        return [(name, plan, day, at) for name, (plan, day, at) in self._named.items()]
 
     def again(self, name):
         """The answer of a name, computing what is due for it."""

@@ -7,19 +7,12 @@ class Book:
     """Records, numbered in the order in which they were made."""
 
     def __init__(self):
+        # How many records were made, those that were dropped included, and how many times records were dropped.
+        self.made_count = 0
+        self.drop_count = 0
         self._records = {}
         # For each table, day and code, the numbers of its records.
         self._places = {}
-        self._made = 0
-        self._drops = 0
-
-    def made_so_far(self):
-        """How many records were made, those that were dropped included."""
-        return self._made
-
-    def drops_so_far(self):
-        """How many times records were dropped."""
-        return self._drops
 
     def told(self):
         """The list of the records."""
@@ -44,9 +37,9 @@ class Book:
 
     def keep(self, record):
         """Adds a record that was just made, and returns its number."""
-        self._made += 1
-        self._note(self._made, record)
-        return self._made
+        self.made_count += 1
+        self._note(self.made_count, record)
+        return self.made_count
 
     def of_numbers(self, numbers):
         """The list of the records that have one of the numbers, a dict."""
@@ -60,7 +53,7 @@ class Book:
         self._places = {}
         for number, record in kept.items():
             self._note(number, record)
-        self._drops += 1
+        self.drop_count += 1
         return many
 
     def _note(self, number, record):

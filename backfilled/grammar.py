@@ -90,7 +90,8 @@ def read_with(ahead, word, code):
 def read_keep(ahead, word, code):
     """The step of the columns that are kept."""
     first = take_name(ahead)
-    return (word, code, (first, *read_names(ahead)))
+    others = read_names(ahead)
+    return (word, code, (first, *others))
 
 
 def read_names(ahead):

@@ -28,7 +28,7 @@ class Store:
     @property
     def made(self):
         """How many records were made so far."""
-        return self._book.made_so_far()
+        return self._book.made_count
 
     def records(self):
         """The list of the records there are, in the order in which they were made."""
@@ -63,8 +63,8 @@ class Store:
         begun = None
         while True:
             at = self._log.moment_for(moment)
-            if begun != (at, self._book.drops_so_far()):
-                begun = (at, self._book.drops_so_far())
+            if begun != (at, self._book.drop_count):
+                begun = (at, self._book.drop_count)
                 agenda = Agenda(self._bench.view_at(at))
             part = agenda.step()
             if part is None:
@@ -77,7 +77,7 @@ class Store:
         day = first
         begun = None
         while day <= last:
-            stamp = (day, len(self._log), self._book.drops_so_far())
+            stamp = (day, len(self._log), self._book.drop_count)
             if begun != stamp:
                 begun = stamp
                 course = Course(self._bench.view_at(len(self._log)), [(table, day)])
@@ -149,7 +149,7 @@ class Store:
 
     def named(self):
         """The list of tuples (name, plan, day, moment) of the named answers, in the order of the names."""
-        return [(name, *self._bench.asked(name)) for name in self._bench.names()]
+        return self._bench.named()
 
     def check_name(self, name):
         """Raises BadName or NameTaken if any value cannot become the name of an answer."""

@@ -12,8 +12,8 @@ class View:
         self._numbers = {}
         self._others = {}
         self._needs = {}
-        self._made = book.made_so_far()
-        self._drops = book.drops_so_far()
+        self._made = book.made_count
+        self._drops = book.drop_count
 
     def state_of(self, part):
         """The state of a partition."""
@@ -105,11 +105,11 @@ class View:
 
     def _catch_up(self):
         """Forgets what dropping or making records may have changed."""
-        if self._drops != self._book.drops_so_far():
-            self._drops = self._book.drops_so_far()
+        if self._drops != self._book.drop_count:
+            self._drops = self._book.drop_count
             self._contents = {}
             self._numbers = {}
             self._others = {}
-        if self._made != self._book.made_so_far():
-            self._made = self._book.made_so_far()
+        if self._made != self._book.made_count:
+            self._made = self._book.made_count
             self._others = {}

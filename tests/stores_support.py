@@ -23,6 +23,16 @@ def sales_log():
     return log
 
 
+def chain_log():
+    """A log whose derived table needs all days ahead of each day."""
+    log = Log()
+    log.add_table("t", [("a", "number")])
+    log.put("t", 0, (1,))
+    log.set_code("u", "t")
+    log.set_code("u", "u - 1 | union t", 1)
+    return log
+
+
 class LogMaker:
     """Grows a log by random entries, from a seed."""
 

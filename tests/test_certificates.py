@@ -8,10 +8,9 @@ from backfilled.certificates import certificate, check_certificate
 from backfilled.codes import parse, show
 from backfilled.checks import needs_of
 from backfilled.errors import BadCode, BadDay, BadMoment, BadText
-from backfilled.logs import Log
 from backfilled.stores import Store
 from backfilled.truth import evaluate, scratch_answer
-from stores_support import LogMaker, sales_log
+from stores_support import LogMaker, chain_log, sales_log
 from tests_support import ODD_VALUES, ValidCodes, fields_of
 
 
@@ -186,11 +185,7 @@ class CertificateTest(unittest.TestCase):
             self.assertTrue(check_certificate(self.log, again.question, 1, again.moment, again.content.rows, value))
 
     def test_a_chain_through_all_days(self):
-        log = Log()
-        log.add_table("t", [("a", "number")])
-        log.put("t", 0, (1,))
-        log.set_code("u", "t")
-        log.set_code("u", "u - 1 | union t", 1)
+        log = chain_log()
         value = certificate(log, Store(log).ask("u", 999))
         self.assertEqual(len(value), 2000)
         self.assertTrue(check_certificate(log, "u", 999, None, [(1,)], value))

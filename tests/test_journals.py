@@ -9,7 +9,7 @@ from backfilled.journals import check_number, journal, recover
 from backfilled.logs import Log
 from backfilled.records import Record
 from backfilled.stores import Store
-from stores_support import LogMaker, fields, sales_log
+from stores_support import LogMaker, chain_log, fields, sales_log
 from tests_support import ODD_VALUES, fields_of
 
 ENTRIES = [
@@ -188,11 +188,7 @@ class RecoverTest(unittest.TestCase):
         self.check_back(again)
 
     def test_a_long_chain(self):
-        log = Log()
-        log.add_table("t", [("a", "number")])
-        log.put("t", 0, (1,))
-        log.set_code("u", "t")
-        log.set_code("u", "u - 1 | union t", 1)
+        log = chain_log()
         store = Store(log)
         store.ask("u", 999, name="far")
         self.check_back(store)

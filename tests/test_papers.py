@@ -9,7 +9,7 @@ from backfilled.errors import BadCode, BadDay, BadMoment, BadText
 from backfilled.logs import Log
 from backfilled.papers import check_paper, paper_for
 from backfilled.truth import evaluate, from_scratch, scratch_answer
-from stores_support import COLUMNS, LogMaker, sales_log
+from stores_support import COLUMNS, LogMaker, chain_log, sales_log
 from tests_support import ODD_VALUES, ValidCodes, fields_of, naive_columns
 
 
@@ -201,11 +201,7 @@ class KindsTest(unittest.TestCase):
         self.assertFalse(check_paper(self.log, "sales", 0, ("east", 5), new, 6))
 
     def test_chains(self):
-        log = Log()
-        log.add_table("t", [("a", "number")])
-        log.put("t", 0, (1,))
-        log.set_code("u", "t")
-        log.set_code("u", "u - 1 | union t", 1)
+        log = chain_log()
         paper = paper_for(log, "u", 999, (1,))
         self.assertEqual((len(paper), paper[0]), (2001, ("t", 0, (), (1,), ("raw", 2))))
         self.assertTrue(check_paper(log, "u", 999, (1,), paper))

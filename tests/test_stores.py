@@ -9,7 +9,7 @@ from backfilled.logs import Log
 from backfilled.records import Record
 from backfilled.stores import Store
 from backfilled.truth import from_scratch
-from stores_support import COLUMNS, LogMaker, fields, sales_log
+from stores_support import COLUMNS, LogMaker, chain_log, fields, sales_log
 from tests_support import ODD_VALUES, fields_of
 
 ALL = [("big", 0), ("many", 0), ("big", 1), ("many", 1)]
@@ -144,11 +144,7 @@ class StatesTest(unittest.TestCase):
         self.assertEqual(self.store.made, 0)
 
     def test_a_chain_through_all_days(self):
-        log = Log()
-        log.add_table("t", [("a", "number")])
-        log.put("t", 0, (1,))
-        log.set_code("u", "t")
-        log.set_code("u", "u - 1 | union t", 1)
+        log = chain_log()
         store = Store(log)
         self.assertEqual(store.state_at("u", 999), "unknown")
         self.assertEqual((store.compute("u", 999).rows, store.made), ([(1,)], 1000))

@@ -1,21 +1,20 @@
 """Certificates: what shows anyone that an answer is right."""
 
 from backfilled.asking import asked_question
-from backfilled.scratch import Scratch
+from backfilled.uses import needs_first
 from backfilled.values import is_day, is_row
 
 
 def certificate(log, answer):
     """A certificate of an answer that a store of a log gave."""
     plan, at = asked_question(log, answer.question, answer.day, answer.moment)
-    scratch = Scratch(log, at)
-    scratch.answer(plan, answer.day)
-    return [step_for(log, at, part, content.rows) for part, content in scratch.computed().items()]
+    return [step_for(log, at, part) for part in needs_first(log, plan.needs_on(answer.day), at)]
 
 
-def step_for(log, at, part, rows):
-    """The step of a partition with these rows."""
+def step_for(log, at, part):
+    """The step of a partition."""
     table, day = part
+    rows = log.past().content_at(part, at).rows
     if log.is_raw(table, at):
         return (table, day, rows)
     return (table, day, log.code_at(table, day, at), rows)

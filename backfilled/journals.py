@@ -2,7 +2,6 @@
 
 from backfilled.errors import InvalidText
 from backfilled.lines import entry_text, name_text, record_text
-from backfilled.past import Past
 from backfilled.recovery import Recovery, plan_held
 
 DIVISOR = 9999991
@@ -50,16 +49,16 @@ def whole_line(index, text):
 
 def record_texts(store):
     """The texts of the lines of all records that are written."""
-    past = Past(store.log)
-    texts = [text_of_record(store.log, past, record) for record in store.records()]
+    texts = [text_of_record(store.log, record) for record in store.records()]
     return [text for text in texts if text is not None]
 
 
-def text_of_record(log, past, record):
+def text_of_record(log, record):
     """The text of the line of a record, or None if it is not written."""
     plan = plan_held(log, record.table, record.day, record.code)
     if plan is None or not record.content.has_shape(plan.shape):
         return None
+    past = log.past()
     moments = [past.least_moment((table, day), content) for table, day, content in record.inputs]
     if None in moments:
         return None

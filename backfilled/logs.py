@@ -4,6 +4,7 @@ from backfilled.codes import parse, show
 from backfilled.errors import (
     BadCode, BadColumns, BadDay, BadMoment, BadName, BadNumber, BadRow, LimitExceeded, NameTaken, UnknownTable,
 )
+from backfilled.past import Past
 from backfilled.plans import Plan
 from backfilled.tables import DerivedTable, RawTable
 from backfilled.values import is_columns, is_day, is_name, is_row, is_within
@@ -19,6 +20,7 @@ class Log:
         self._tables = {}
         # For each moment, from 0 on, the last day.
         self._last_days = [None]
+        self._past = Past(self)
 
     def add_table(self, name, columns, keys=1):
         """Adds a raw table whose first columns are its key; returns the moment."""
@@ -146,6 +148,10 @@ class Log:
         if not is_within(moment, 0, len(self._entries)):
             raise BadMoment(moment)
         return moment
+
+    def past(self):
+        """The contents from scratch at all moments, each computed when it is asked for."""
+        return self._past
 
     def question_plan(self, question, moment):
         """The plan of any value as a question at a moment."""

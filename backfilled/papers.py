@@ -81,10 +81,7 @@ def is_right(scenes, paper, number):
     if not scenes.is_place(table, day) or not isinstance(reason, tuple) or not reason:
         return False
     scene = scenes.scene(table, day)
-    if not isinstance(reason[0], str) or not scene.holds(path, row):
-        return False
-    told = told_way(paper, number, reason)
-    return told is not None and told in scene.ways(path, row)
+    return scene.holds(path, row) and told_way(paper, number, reason) in scene.ways(path, row)
 
 
 def told_way(paper, number, reason):

@@ -6,7 +6,6 @@ from backfilled.entries import add_entry
 from backfilled.errors import BackfilledError, BadText
 from backfilled.lines import entry_text, name_text, read_entry, read_name, read_record, record_text
 from backfilled.logs import Log
-from backfilled.past import Past
 from backfilled.stores import Store
 from backfilled.values import is_day, is_within
 
@@ -22,8 +21,6 @@ class Recovery:
         self._log = Log()
         self._store = Store(self._log)
         self._reached = ENTRIES
-        # Made when the first record is read, since the log does not grow any more then.
-        self._past = None
 
     def store_now(self):
         """The store."""
@@ -69,14 +66,13 @@ class Recovery:
         """The inputs that moments tell, or None if these are not the least ones of their contents."""
         if len(needs) != len(moments):
             return None
-        if self._past is None:
-            self._past = Past(self._log)
+        past = self._log.past()
         inputs = []
         for need, moment in zip(needs, moments):
             if not is_within(moment, 0, len(self._log)) or need[0] not in self._log.tables(moment):
                 return None
-            content = self._past.content_at(need, moment)
-            if self._past.least_moment(need, content) != moment:
+            content = past.content_at(need, moment)
+            if past.least_moment(need, content) != moment:
                 return None
             inputs.append((*need, content))
         return tuple(inputs)

@@ -1,7 +1,6 @@
 """Scenes: what the lines of a paper may speak of on one day, with all rows there."""
 
 from backfilled.reasons import ways_of
-from backfilled.scratch import Scratch
 from backfilled.steps import in_order_of
 from backfilled.trees import paths_in
 from backfilled.values import is_day, is_integer, is_row
@@ -61,7 +60,7 @@ class RawScene:
 
     def holds(self, path, row):
         """Whether any values are the empty path and a row."""
-        return is_path(path) and path == () and is_row(row, self._shape) and row in self._moments
+        return path == () and is_row(row, self._shape) and row in self._moments
 
     def ways(self, path, row):
         """The only way in which a row came."""
@@ -77,7 +76,6 @@ class Scenes:
         self._plan = plan
         self._at = moment
         self._tables = log.tables(moment)
-        self._scratch = Scratch(log, moment)
         self._scenes = {}
 
     def is_place(self, table, day):
@@ -101,9 +99,8 @@ class Scenes:
         plan = self._plan if table is None else self._log.plan_on(table, day, self._at)
         if plan is None:
             return RawScene(self._tables[table], self._log.put_moments(table, day, self._at))
-        contents = {}
-        for need in plan.needs_on(day):
-            contents[need] = self._scratch.content_of(need[0], need[1])
+        past = self._log.past()
+        contents = {need: past.content_at(need, self._at) for need in plan.needs_on(day)}
         return CodeScene(table, day, plan, contents)
 
 

@@ -26,9 +26,9 @@ class RawTable:
         """The table as it was at a moment."""
         many = {day: how_many_until(moments, moment) for day, moments in self._moments.items()}
         copied = RawTable(self.moment, self.shape, self.key_count)
-        copied._moments = {day: self._moments[day][:end] for day, end in many.items() if end > 0}
-        copied._changes = {day: self._changes[day][:end] for day, end in many.items() if end > 0}
-        copied._contents = {day: self._contents[day][:end + 1] for day, end in many.items() if end > 0}
+        copied._moments = {day: self._moments[day][:end] for day, end in many.items()}
+        copied._changes = {day: self._changes[day][:end] for day, end in many.items()}
+        copied._contents = {day: self._contents[day][:end + 1] for day, end in many.items()}
         return copied
 
     def key_shape(self):

@@ -2,7 +2,6 @@
 
 from backfilled.asking import asked_part, asked_question
 from backfilled.plans import Plan
-from backfilled.scratch import Scratch
 
 
 def evaluate(code, day, tables, read):
@@ -20,12 +19,11 @@ def evaluate(code, day, tables, read):
 
 def from_scratch(log, table, day, moment=None):
     """The content of a partition."""
-    scratch = Scratch(log, asked_part(log, table, day, moment))
-    return scratch.content_of(table, day)
+    at = asked_part(log, table, day, moment)
+    return log.past().content_at((table, day), at)
 
 
 def scratch_answer(log, question, day, moment=None):
     """The content of a question on a day."""
     plan, at = asked_question(log, question, day, moment)
-    scratch = Scratch(log, at)
-    return scratch.answer(plan, day)
+    return log.past().answer_at(plan, day, at)

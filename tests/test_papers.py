@@ -183,6 +183,9 @@ class KindsTest(unittest.TestCase):
         paper = [("sales", 5, (), ("east", True), ("raw", 7)), (None, 5, (), ("east", True), ("row", 0))]
         self.assertFalse(check_paper(self.log, "sales", 5, ("east", True), paper))
         self.assertFalse(check_paper(self.log, "sales", 5, ("east", 1), paper))
+        right = paper_for(self.log, "sales", 5, ("east", 1))
+        self.assertTrue(check_paper(self.log, "sales", 5, ("east", 1), right))
+        self.assertFalse(check_paper(self.log, "sales", 5, ("east", True), right))
 
     def test_moments(self):
         self.log.put("sales", 0, ("east", 9))
@@ -239,6 +242,8 @@ class CheckTest(unittest.TestCase):
         self.assertFalse(check([]))
         self.assertFalse(check(tuple(raw + read + last)))
         self.assertFalse(check([*raw[:3], ("sales", 0, (), ("south", 1), ("raw", 4)), *read, *last]))
+        for path in ((0,), (1,), (0, 0), [], None, 0):
+            self.assertFalse(check([*raw, *read, ("sales", 0, path, ("south", 1), ("raw", 5)), *last]))
 
     def test_groups(self):
         question = "sales | where 1 < amount | group amount: n = count"

@@ -26,10 +26,8 @@ class Past:
         return plan.content_from(day, {need: self.content_at(need, moment) for need in plan.needs_on(day)})
 
     def least_moment(self, part, content):
-        """The least moment at which the table of a partition is there, and it has a content; or None."""
+        """The least moment at which a partition of a table of the log is there and has a content, or None."""
         self._catch_up()
-        if part[0] not in self._log.tables():
-            return None
         self._learn(part)
         for moment in self._moments[part]:
             if self.content_at(part, moment) == content:

@@ -9,6 +9,7 @@ from backfilled.journals import check_number, journal, recover
 from backfilled.logs import Log
 from backfilled.records import Record
 from backfilled.stores import Store
+from backfilled.truth import from_scratch
 from stores_support import LogMaker, chain_log, fields, sales_log
 from tests_support import ODD_VALUES, fields_of
 
@@ -36,6 +37,21 @@ def naive_number(index, text):
 def written(lines):
     """Lines with their check numbers."""
     return "".join(f"{text} #{naive_number(index, text):07d}\n" for index, text in enumerate(lines))
+
+
+def naive_record(log, record):
+    """The text of the line of a record, None if it is not written; each moment is looked at as the last one of a log."""
+    logs = [log.copy(moment) for moment in range(len(log) + 1)]
+    there = [one for one in logs if record.table in one.tables() and not one.is_raw(record.table)]
+    if record.code not in [one.code_at(record.table, record.day) for one in there]:
+        return None
+    told = []
+    for table, day, content in record.inputs:
+        found = [len(one) for one in logs if table in one.tables() and from_scratch(one, table, day) == content]
+        if not found:
+            return None
+        told.append(str(found[0]))
+    return f"record {record.table} {record.day} {','.join(told) or '-'} {record.code}"
 
 
 def state(store):
@@ -90,6 +106,13 @@ class LinesTest(unittest.TestCase):
         self.log.set_code("none", "both - 5")
         self.store.compute("none", 3)
         self.assertEqual(texts(self.store)[-1], "record none 3 - both - 5")
+
+    def test_journals_of_a_log_that_grows(self):
+        self.store.compute("big", 0)
+        self.assertEqual(texts(self.store), [*ENTRIES, RECORDS[0]])
+        self.log.put("sales", 0, ("north", 9))
+        self.store.compute("big", 0)
+        self.assertEqual(texts(self.store)[6:], [RECORDS[0], "record big 0 6 sales | where 3 < amount"])
 
     def test_least_moments_of_empty_contents_and_of_codes(self):
         self.log.set_code("later", "sales | keep shop", 2)
@@ -177,6 +200,24 @@ class RecoverTest(unittest.TestCase):
                 maker.grow(3)
                 if chance.random() < 0.3:
                     store.drop()
+            self.check_back(store)
+
+    def test_records_are_told_in_the_words_of_the_document(self):
+        for seed in range(40):
+            chance = random.Random(seed)
+            maker = LogMaker(seed)
+            store = Store(maker.grow(6))
+            for _ in range(4):
+                maker.grow(3)
+                for _ in store.work(chance.choice([None, chance.randrange(len(store.log) + 1)])):
+                    pass
+                codes = [entry for entry in store.log.entries() if entry[0] == "code"]
+                if codes:
+                    table, text, day = chance.choice(codes)[1:]
+                    with store.trial(table, text, chance.randrange(3)) as trial:
+                        trial.ask(table, chance.randrange(4))
+            wanted = [told for told in [naive_record(store.log, record) for record in store.records()] if told]
+            self.assertEqual([line for line in texts(store) if line.startswith("record ")], wanted)
             self.check_back(store)
 
     def test_a_store_that_goes_on(self):

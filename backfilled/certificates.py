@@ -40,7 +40,7 @@ def check_certificate(log, question, day, moment, rows, value):
 
 def is_partition(log, at, step):
     """Whether any value is a tuple of as many items as a step has, of a table at a moment and a day."""
-    if not isinstance(step, tuple) or len(step) < 3:
+    if not isinstance(step, tuple) or len(step) not in (3, 4):
         return False
     if not isinstance(step[0], str) or step[0] not in log.tables(at) or not is_day(step[1]):
         return False

@@ -167,7 +167,7 @@ class Log:
         return self._tables[table].content_on(day, moment)
 
     def change_moments(self, table, day):
-        """The moments, in order, that may have changed a partition's rows or plan; the first is its table's."""
+        """The moments, in order, that may have changed a partition's rows or plan, ahead of them its table's."""
         return self._tables[table].change_moments(day)
 
     def put_moments(self, table, day, moment):

@@ -61,7 +61,7 @@ class RawTable:
         return contents[many]
 
     def change_moments(self, day):
-        """The moments, in order, that may have changed the content on a day; the first is the table's."""
+        """The moments, in order, that may have changed the content on a day, ahead of them the table's."""
         return [self.moment] + self._moments.get(day, [])
 
     def put_moments(self, day, moment):
@@ -116,5 +116,5 @@ class DerivedTable:
         return self._empty
 
     def change_moments(self, day):
-        """The moments, in order, that may have changed the code on a day; the first is the table's."""
-        return [self.moment] + [at for at, first, _ in self._codes if first <= day and at > self.moment]
+        """The moments, in order, that may have changed the code on a day, ahead of them the table's."""
+        return [self.moment] + [at for at, first, _ in self._codes if first <= day]

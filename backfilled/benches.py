@@ -79,7 +79,7 @@ class Bench:
         """A dict of the numbers of the records that are needed."""
         found = {}
         view = self.view_at(len(self._log))
-        for part in view.derived_parts():
+        for part in view.all_parts():
             found[view.number_of(part)] = True
         for plan, day, at in self._named.values():
             for part in uses_of(self._log, plan, day, at):

@@ -3,7 +3,7 @@
 from backfilled.asking import asked_part
 from backfilled.benches import Bench
 from backfilled.books import Book
-from backfilled.courses import Agenda, Course
+from backfilled.courses import Course
 from backfilled.errors import BadDay, BadName, UnknownName, UnknownTable
 from backfilled.runners import Claim
 from backfilled.trials import Trial
@@ -51,25 +51,22 @@ class Store:
     def due(self, moment=None):
         """The list of the partitions that are due, in order."""
         view = self._bench.view_at(self._log.moment_for(moment))
-        return [part for part in view.derived_parts() if view.state_of(part) == "due"]
+        return [part for part in view.all_parts() if view.state_of(part) == "due"]
 
     def is_done(self, moment=None):
         """Whether all partitions of derived tables on the days of the log are fresh."""
         view = self._bench.view_at(self._log.moment_for(moment))
-        return all([view.is_fresh(part) for part in view.derived_parts()])
+        return all([view.is_fresh(part) for part in view.all_parts()])
 
     def work(self, moment=None):
         """A generator: computes the first partition that is due, and yields it, until none is due."""
-        begun = None
         while True:
-            at = self._log.moment_for(moment)
-            if begun != (at, self._book.drop_count):
-                begun = (at, self._book.drop_count)
-                agenda = Agenda(self._bench.view_at(at))
-            part = agenda.step()
-            if part is None:
+            view = self._bench.view_at(self._log.moment_for(moment))
+            at = view.first_due(0)
+            if at is None:
                 return
-            yield part
+            view.make(view.all_parts()[at])
+            yield view.all_parts()[at]
 
     def backfill(self, table, first, last):
         """A generator: for each day computes what is due for a partition, and yields it."""
@@ -93,13 +90,10 @@ class Store:
             raise BadName(runner)
         view = self._bench.view_at(len(self._log))
         taken = self.claims()
-        for part in view.derived_parts():
-            if view.state_of(part) == "due" and not is_taken(taken, part, view):
-                self._claimed += 1
-                claim = Claim(self._book, self._claimed, runner, part, view.plan_of(part), view.inputs_of(part))
-                self._claims = taken + [claim]
-                return claim
-        return None
+        at = view.first_due(0)
+        while at is not None and is_taken(taken, view.all_parts()[at], view):
+            at = view.first_due(at + 1)
+        return None if at is None else self._new_claim(runner, view.all_parts()[at], view)
 
     def claims(self):
         """The list of the open claims, by number."""
@@ -165,6 +159,13 @@ class Store:
         if is_missing:
             self._book.make(part, plan, inputs)
         return is_missing
+
+    def _new_claim(self, runner, part, view):
+        """The claim of a partition that is due in a view, with the next number."""
+        self._claimed += 1
+        claim = Claim(self._book, self._claimed, runner, part, view.plan_of(part), view.inputs_of(part))
+        self._claims = self.claims() + [claim]
+        return claim
 
     def _check_backfill(self, table, first, last):
         """Raises what is wrong with the arguments of backfill."""

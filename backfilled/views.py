@@ -12,6 +12,9 @@ class View:
         self._numbers = {}
         self._others = {}
         self._needs = {}
+        # The partitions that the work is to make fresh, once they were asked for, and how many at their beginning are.
+        self._parts = None
+        self._fresh_many = 0
         self._made = book.made_count
         self._drops = book.drop_count
 
@@ -59,10 +62,23 @@ class View:
         """The content of a question all of whose needs are fresh."""
         return plan.content_from(day, self._contents)
 
-    def derived_parts(self):
+    def all_parts(self):
         """The partitions of all derived tables on the days of the log, in order."""
-        tables = self._log.derived_tables(self._at)
-        return [(table, day) for day in self._log.days(self._at) for table in tables]
+        if self._parts is None:
+            tables = self._log.derived_tables(self._at)
+            self._parts = [(table, day) for day in self._log.days(self._at) for table in tables]
+        return self._parts
+
+    def first_due(self, start):
+        """The index of the first one of these partitions, from an index on, that is due; None if there is none."""
+        parts = self.all_parts()
+        self._catch_up()
+        while self._fresh_many < len(parts) and self.is_fresh(parts[self._fresh_many]):
+            self._fresh_many += 1
+        for at in range(max(start, self._fresh_many), len(parts)):
+            if self.state_of(parts[at]) == "due":
+                return at
+        return None
 
     def _settle(self, part):
         """Finds out the state of a partition, if it is not known."""
@@ -110,6 +126,7 @@ class View:
             self._contents = {}
             self._numbers = {}
             self._others = {}
+            self._fresh_many = 0
         if self._made != self._book.made_count:
             self._made = self._book.made_count
             self._others = {}

@@ -198,6 +198,19 @@ class ParseTest(unittest.TestCase):
     def test_brackets_that_are_not_shown_may_make_it_fit(self):
         self.assertEqual(len("t | with x = " + "(" * 20 + "a" + ")" * 20 + " + a" * 136), 598)
         self.assertEqual(len(show(parse("t | with x = " + "(" * 20 + "a" + ")" * 20 + " + a" * 136))), 558)
+        many = "(" * 10 + "a" + ")" * 10 + "+a" * 146
+        self.assertEqual(len(show(parse("t|with xxx=" + many))), 600)
+        self.assertEqual(fields_of(self, BadText, parse, "t|with xxxx=" + many), {"at": None})
+        signs = "-5" + "+- 5" * 99
+        self.assertEqual(len(show(parse("t|with xxx=" + signs + "+a" * 22))), 600)
+        self.assertEqual(fields_of(self, BadText, parse, "t|with xxxx=" + signs + "+a" * 22), {"at": None})
+
+    def test_spaces_in_texts_count(self):
+        many = "and ".join(["a='" + " " * 20 + "'"] * 19)
+        self.assertEqual(len(show(parse("t|where " + many))), 594)
+        many = "and ".join(["a='" + " " * 20 + "'"] * 20)
+        self.assertLess(len("t|where " + many), 600)
+        self.assertEqual(fields_of(self, BadText, parse, "t|where " + many), {"at": None})
 
     def test_any_way_to_write_a_tree(self):
         codes = Codes(11)

@@ -18,6 +18,7 @@ METHODS = set(
     "join keys ljust lower lstrip partition pop remove replace reverse rfind rjust rpartition rsplit rstrip setdefault "
     "split splitlines startswith strip update upper values zfill removeprefix isascii isprintable".split()
 )
+CHANGING = set("append clear extend insert pop remove reverse setdefault update".split())
 DOUBLE = set(
     "__init__ __eq__ __len__ __call__ __iter__ __add__ __sub__ __contains__ __getitem__ __enter__ __exit__".split()
 )
@@ -177,6 +178,59 @@ class LanguageTest(unittest.TestCase):
             if isinstance(node.func, ast.Attribute):
                 self.assertIn(node.func.attr, [*own, *METHODS], name)
                 self.assertEqual(node.keywords, [])
+
+    def test_stars_and_identity(self):
+        for name, node in nodes(ast.Starred):
+            self.assertIsInstance(node.value, (ast.Name, ast.Attribute, ast.Subscript), (name, node.lineno))
+        for name, node in nodes(ast.Compare):
+            for sign, other in zip(node.ops, node.comparators):
+                if isinstance(sign, (ast.Is, ast.IsNot)):
+                    self.assertIn(ast.unparse(other), ("None", "True", "False"), (name, node.lineno))
+
+    def test_attributes_that_are_read_are_assigned(self):
+        called = {id(node.func) for _, node in nodes(ast.Call)}
+        assigned = {node.attr for _, node in nodes(ast.Attribute) if isinstance(node.ctx, ast.Store)}
+        properties = {node.name for _, node in functions() if node.decorator_list}
+        for name, node in nodes(ast.Attribute):
+            if isinstance(node.ctx, ast.Load) and id(node) not in called:
+                self.assertIn(node.attr, assigned | properties, (name, node.lineno))
+
+    def test_classes_are_called_or_asked_for(self):
+        own = {node.name for _, node in nodes(ast.ClassDef)}
+        parents = {id(child): node for _, node in nodes(ast.AST) for child in ast.iter_child_nodes(node)}
+        for name, node in nodes(ast.Name):
+            if node.id in own:
+                above = parents[id(node)]
+                if isinstance(above, ast.Call):
+                    self.assertTrue(above.func is node or above.func.id == "isinstance", (name, node.lineno))
+                else:
+                    self.assertIsInstance(above, (ast.ClassDef, ast.ExceptHandler), (name, node.lineno))
+
+    def test_calls_pass_what_functions_take(self):
+        takes = {}
+        for _, tree in TREES.items():
+            for node in tree.body:
+                if isinstance(node, ast.FunctionDef):
+                    takes[node.name] = [node.args]
+                for one in node.body if isinstance(node, ast.ClassDef) else []:
+                    if isinstance(one, ast.FunctionDef):
+                        takes.setdefault(node.name if one.name == "__init__" else one.name, []).append(one.args)
+        for name, node in nodes(ast.Call):
+            word = getattr(node.func, "id", getattr(node.func, "attr", None))
+            if word in takes and word not in METHODS:
+                own = isinstance(node.func, ast.Name) and word[0].islower()
+                ways = [(len(one.args) - (not own), len(one.defaults)) for one in takes[word]]
+                fits = [most - few <= len(node.args) <= most for most, few in ways]
+                self.assertTrue(any(fits), (name, node.lineno, word))
+
+    def test_loops_do_not_change_what_they_go_over(self):
+        for name, node in nodes(ast.For):
+            over = {ast.unparse(one) for one in ast.walk(node.iter) if isinstance(one, (ast.Name, ast.Attribute))}
+            for one in [inner for line in node.body for inner in ast.walk(line)]:
+                if isinstance(one, ast.Call) and isinstance(one.func, ast.Attribute) and one.func.attr in CHANGING:
+                    self.assertNotIn(ast.unparse(one.func.value), over, (name, one.lineno))
+                if isinstance(one, ast.Subscript) and not isinstance(one.ctx, ast.Load):
+                    self.assertNotIn(ast.unparse(one.value), over, (name, one.lineno))
 
     def test_sets_and_iterators_are_used_on_the_spot(self):
         parents = {id(child): node for _, node in nodes(ast.AST) for child in ast.iter_child_nodes(node)}

@@ -5,7 +5,7 @@ from backfilled.asking import asked_question
 from backfilled.contents import Content
 from backfilled.entries import with_entry
 from backfilled.errors import BadCode, BadColumns, BadMoment, LimitExceeded
-from backfilled.truth import scratch_answer
+from backfilled.plans import Plan
 
 MOST_ENTRIES = 8
 
@@ -53,15 +53,15 @@ def content_in(value):
 def explanation(log, question, day, first, last):
     """The moments of as few entries as possible that explain the difference between two moments."""
     check_moments(log, first, last)
-    asked_question(log, question, day, last)
+    plan, at = asked_question(log, question, day, last)
     if last - first > MOST_ENTRIES:
         raise LimitExceeded(MOST_ENTRIES)
-    goal = scratch_answer(log, question, day, last)
+    goal = log.past().answer_at(plan, day, at)
     # All lists of one length, in order, with the logs that they make.
     lists = [([], log.copy(first))]
     while True:
         for moments, made in lists:
-            if shows(made, question, day, goal):
+            if content_of_tree(made, plan.tree, day) == goal:
                 return moments
         lists = longer_lists(log, lists, first, last)
 
@@ -76,12 +76,13 @@ def check_moments(log, first, last):
         raise BadMoment(last)
 
 
-def shows(log, question, day, goal):
-    """Whether a question is valid in a log, and has this content there."""
+def content_of_tree(log, code, day):
+    """The content of a tree on a day at the last moment of a log, or None if it is not valid there."""
     try:
-        return scratch_answer(log, question, day) == goal
+        plan = Plan(code, log.tables())
     except BadCode:
-        return False
+        return None
+    return log.past().answer_at(plan, day, len(log))
 
 
 def longer_lists(log, lists, first, last):

@@ -13,6 +13,7 @@ class Plan:
         self.tree = code
         self.text = text
         self.parts = inner_first(code)
+        self._counts = [many_in(part) for part in self.parts]
         self.shapes = shapes_of(self.parts, tables)
         self.shape = tuple(self.shapes[-1])
         self.reads = reads_of(self.parts)
@@ -33,9 +34,11 @@ class Plan:
         """The rows of each of the parts on a day, for the same dict."""
         found = []
         waiting = []
-        for part, columns in zip(self.parts, self.shapes):
-            inner = take_last(waiting, many_in(part))
-            rows = rows_behind(part, day, inner) if inner else rows_read(part, day, contents)
+        for part, columns, many in zip(self.parts, self.shapes, self._counts):
+            if many == 0:
+                rows = rows_read(part, day, contents)
+            else:
+                rows = rows_behind(part, day, take_last(waiting, many))
             waiting.append((columns, rows))
             found.append(rows)
         return found

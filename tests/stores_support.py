@@ -5,6 +5,7 @@ import random
 from backfilled.checks import needs_of
 from backfilled.codes import parse, show
 from backfilled.errors import BackfilledError
+from backfilled.journals import journal
 from backfilled.logs import Log
 from backfilled.truth import evaluate, from_scratch
 from tests_support import ValidCodes
@@ -193,3 +194,19 @@ class Model:
 def fields(record):
     """A record as the model keeps it."""
     return (record.table, record.day, record.code, record.inputs, record.content)
+
+
+def texts(store):
+    """The texts of the lines of a journal."""
+    return [line.rpartition(" ")[0] for line in journal(store).split("\n")[:-1]]
+
+
+def naive_number(index, text):
+    """The check number, worked out as one sum."""
+    signs = [index, *[ord(sign) for sign in text]][::-1]
+    return sum(sign * 257 ** at for at, sign in enumerate(signs)) % 9999991
+
+
+def written(lines):
+    """Lines with their check numbers."""
+    return "".join(f"{text} #{naive_number(index, text):07d}\n" for index, text in enumerate(lines))

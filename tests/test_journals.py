@@ -10,7 +10,7 @@ from backfilled.logs import Log
 from backfilled.records import Record
 from backfilled.stores import Store
 from backfilled.truth import from_scratch
-from stores_support import LogMaker, chain_log, fields, sales_log
+from stores_support import LogMaker, chain_log, fields, naive_number, sales_log, texts, written
 from tests_support import ODD_VALUES, fields_of
 
 ENTRIES = [
@@ -21,22 +21,6 @@ RECORDS = [
     "record big 0 2 sales | where 3 < amount", "record many 0 4 big | group: many = count",
     "record big 1 3 sales | where 3 < amount", "record many 1 4 big | group: many = count",
 ]
-
-
-def texts(store):
-    """The texts of the lines of a journal."""
-    return [line.rpartition(" ")[0] for line in journal(store).split("\n")[:-1]]
-
-
-def naive_number(index, text):
-    """The check number, worked out as one sum."""
-    signs = [index, *[ord(sign) for sign in text]][::-1]
-    return sum(sign * 257 ** at for at, sign in enumerate(signs)) % 9999991
-
-
-def written(lines):
-    """Lines with their check numbers."""
-    return "".join(f"{text} #{naive_number(index, text):07d}\n" for index, text in enumerate(lines))
 
 
 def naive_record(log, record):

@@ -29,7 +29,8 @@ class Past:
         """The least moment at which a partition of a table of the log is there and has a content, or None."""
         self._catch_up()
         self._learn(part)
-        for moment in self._moments[part]:
+        moments = list(self._moments[part])
+        for moment in moments:
             if self.content_at(part, moment) == content:
                 return moment
         return None

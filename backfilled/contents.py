@@ -51,7 +51,7 @@ class Content:
     def __sub__(self, other):
         if not self._fits(other):
             raise BadColumns(other)
-        there = other._there
+        there = {row: True for row in other._rows}
         return Content(self._columns, Sound([row for row in self._rows if row not in there]))
 
     def __add__(self, other):

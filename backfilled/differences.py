@@ -56,12 +56,13 @@ def explanation(log, question, day, first, last):
     plan, at = asked_question(log, question, day, last)
     if last - first > MOST_ENTRIES:
         raise LimitExceeded(MOST_ENTRIES)
+    tables = log.tables(at)
     goal = log.past().answer_at(plan, day, at)
     # All lists of one length, in order, with the logs that they make.
     lists = [([], log.copy(first))]
     while True:
         for moments, made in lists:
-            if content_of_tree(made, plan.tree, day) == goal:
+            if content_there(made, plan, tables, day) == goal:
                 return moments
         lists = longer_lists(log, lists, first, last)
 
@@ -76,13 +77,16 @@ def check_moments(log, first, last):
         raise BadMoment(last)
 
 
-def content_of_tree(log, code, day):
-    """The content of a tree on a day at the last moment of a log, or None if it is not valid there."""
+def content_there(log, plan, tables, day):
+    """The content of a question on a day at the last moment of a log, or None if it is not valid there.
+
+    Its plan was made for some tables, and serves any log that has just these.
+    """
     try:
-        plan = Plan(code, log.tables())
+        there = plan if log.tables() == tables else Plan(plan.tree, log.tables())
     except BadCode:
         return None
-    return log.past().answer_at(plan, day, len(log))
+    return log.past().answer_at(there, day, len(log))
 
 
 def longer_lists(log, lists, first, last):

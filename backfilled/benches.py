@@ -2,7 +2,6 @@
 
 from backfilled.answers import Answer
 from backfilled.asking import asked_question
-from backfilled.courses import Course
 from backfilled.errors import BadName, NameTaken
 from backfilled.uses import uses_of
 from backfilled.values import is_name
@@ -19,6 +18,8 @@ class Bench:
         self._book = book
         self._views = {}
         self._named = {}
+        # How many times a name was given or taken away.
+        self.name_changes = 0
 
     def view_at(self, at):
         """The view of a moment."""
@@ -31,8 +32,7 @@ class Bench:
     def compute(self, table, day, at):
         """The content of a partition at a moment, computing what is due for it."""
         view = self.view_at(at)
-        course = Course(view, [(table, day)])
-        course.go()
+        view.make_all([(table, day)])
         return view.content_of((table, day))
 
     def ask(self, question, day, moment, name):
@@ -53,6 +53,7 @@ class Bench:
     def give_name(self, name, plan, day, at):
         """Gives a name to the answer of a question at a moment."""
         self._named[name] = (plan, day, at)
+        self.name_changes += 1
 
     def names(self):
         """The list of the names, in the order in which they were given."""
@@ -74,6 +75,7 @@ class Bench:
     def forget(self, name):
         """Takes a name away."""
         del self._named[name]
+        self.name_changes += 1
 
     def needed(self):
         """A dict of the numbers of the records that are needed."""
@@ -89,6 +91,5 @@ class Bench:
     def _answer(self, plan, day, at, name):
         """The answer of a question with a name, computing what is due for it."""
         view = self.view_at(at)
-        course = Course(view, plan.needs_on(day))
-        course.go()
+        view.make_all(plan.needs_on(day))
         return Answer(self._log, plan, day, at, name, view.answer(plan, day))

@@ -4,59 +4,79 @@ from backfilled.records import Record, contents_in
 
 
 class Book:
-    """Records, numbered in the order in which they were made."""
+    """Records, numbered in the order in which they came."""
 
     def __init__(self):
         # How many records were made, those that were dropped included, and how many times records were dropped.
         self.made_count = 0
         self.drop_count = 0
+        # The number of the last record.
+        self.last = 0
+        # Records by their numbers; None in the place of one whose content nobody asked for yet.
         self._records = {}
-        # For each table, day and code, the numbers of its records.
+        self._waiting = {}
+        # For each table, day and code, tuples of the number, the inputs and the columns of its records.
         self._places = {}
 
     def told(self):
         """The list of the records."""
-        return list(self._records.values())
+        return [self.record(number) for number in list(self._records)]
 
     def record(self, number):
         """The record of a number."""
+        if self._records[number] is None:
+            part, plan, inputs = self._waiting.pop(number)
+            content = plan.content_from(part[1], contents_in(inputs))
+            self._records[number] = Record(part[0], part[1], plan.text, inputs, content)
         return self._records[number]
 
     def find(self, part, plan, inputs):
         """The number of the record of a partition by a plan from inputs, or None."""
-        for number in self._places.get((part[0], part[1], plan.text), []):
-            record = self._records[number]
-            if record.inputs == inputs and record.content.has_shape(plan.shape):
+        for number, known, columns in self._places.get((part[0], part[1], plan.text), []):
+            if known == inputs and columns == plan.shape:
                 return number
         return None
 
     def make(self, part, plan, inputs):
         """Computes the record of a partition, and returns its number."""
         content = plan.content_from(part[1], contents_in(inputs))
-        return self.keep(Record(part[0], part[1], plan.text, inputs, content))
+        self.made_count += 1
+        return self._note(Record(part[0], part[1], plan.text, inputs, content), part, plan.text, inputs, plan.shape)
+
+    def make_later(self, part, plan, inputs):
+        """Makes the record of a partition, whose content is computed when somebody asks for it."""
+        self.made_count += 1
+        self._waiting[self._note(None, part, plan.text, inputs, plan.shape)] = (part, plan, inputs)
 
     def keep(self, record):
-        """Adds a record that was just made, and returns its number."""
-        self.made_count += 1
-        self._note(self.made_count, record)
-        return self.made_count
+        """Adds a record that was made elsewhere."""
+        part = (record.table, record.day)
+        self._note(record, part, record.code, record.inputs, tuple(record.content.columns))
 
     def of_numbers(self, numbers):
         """The list of the records that have one of the numbers, a dict."""
-        return [record for number, record in self._records.items() if number in numbers]
+        return [self.record(number) for number in list(self._records) if number in numbers]
 
     def drop_all_but(self, numbers):
         """Drops the records that have none of the numbers, a dict; returns how many they were."""
-        kept = {number: record for number, record in self._records.items() if number in numbers}
-        many = len(self._records) - len(kept)
-        self._records = {}
-        self._places = {}
-        for number, record in kept.items():
-            self._note(number, record)
+        dropped = {number: True for number in self._records if number not in numbers}
+        self._records = {number: record for number, record in self._records.items() if number not in dropped}
+        self._waiting = {number: told for number, told in self._waiting.items() if number not in dropped}
+        places = {}
+        for place, known in self._places.items():
+            kept = [item for item in known if item[0] not in dropped]
+            if kept:
+                places[place] = kept
+        self._places = places
         self.drop_count += 1
-        return many
+        return len(dropped)
 
-    def _note(self, number, record):
-        """Notes a record under its number."""
-        self._records[number] = record
-        self._places.setdefault((record.table, record.day, record.code), []).append(number)
+    def _note(self, record, part, text, inputs, shape):
+        """Notes a record, or None in its place, and returns its number."""
+        self.last += 1
+        self._records[self.last] = record
+        place = (part[0], part[1], text)
+        if place not in self._places:
+            self._places[place] = []
+        self._places[place].append((self.last, inputs, shape))
+        return self.last

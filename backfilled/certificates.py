@@ -1,23 +1,24 @@
 """Certificates: what shows anyone that an answer is right."""
 
 from backfilled.asking import asked_question
-from backfilled.uses import needs_first
 from backfilled.values import is_day, is_row
 
 
 def certificate(log, answer):
     """A certificate of an answer that a store of a log gave."""
     plan, at = asked_question(log, answer.question, answer.day, answer.moment)
-    return [step_for(log, at, part) for part in needs_first(log, plan.needs_on(answer.day), at)]
+    links = log.links_at(at)
+    past = log.past()
+    raw = log.raw_tables(at)
+    parts = links.needs_first(plan.needs_on(answer.day), {}, {})
+    return [step_for(part, links.plan_of(part), past.content_at(part, at).rows, part[0] in raw) for part in parts]
 
 
-def step_for(log, at, part):
-    """The step of a partition."""
-    table, day = part
-    rows = log.past().content_at(part, at).rows
-    if log.is_raw(table, at):
-        return (table, day, rows)
-    return (table, day, log.code_at(table, day, at), rows)
+def step_for(part, plan, rows, is_raw):
+    """The step of a partition with its plan and its rows."""
+    if is_raw:
+        return (*part, rows)
+    return (*part, None if plan is None else plan.text, rows)
 
 
 def check_certificate(log, question, day, moment, rows, value):
@@ -25,39 +26,57 @@ def check_certificate(log, question, day, moment, rows, value):
     plan, at = asked_question(log, question, day, moment)
     if not isinstance(value, list):
         return False
-    contents = {}
+    checker = Checker(log, at)
     for step in value:
-        if not is_partition(log, at, step):
+        if not checker.takes(step):
             return False
-        content = content_of_step(log, at, step, contents)
+    return checker.shows(plan, day, rows)
+
+
+class Checker:
+    """Goes through the steps of a certificate, and keeps the contents of which they are right."""
+
+    def __init__(self, log, moment):
+        self._log = log
+        self._at = moment
+        self._links = log.links_at(moment)
+        # For each table how many items its steps have.
+        raw = log.raw_tables(moment)
+        self._lengths = {table: 3 if table in raw else 4 for table in log.tables(moment)}
+        self._contents = {}
+
+    def takes(self, step):
+        """Whether any value is a right step behind those ahead, going on behind it if so."""
+        if not isinstance(step, tuple) or len(step) not in (3, 4) or not isinstance(step[0], str):
+            return False
+        if self._lengths.get(step[0]) != len(step) or not is_day(step[1]):
+            return False
+        content = self._content_for(step)
         if content is None or not are_rows(step[-1], content):
             return False
-        contents[(step[0], step[1])] = content
-    if not all([need in contents for need in plan.needs_on(day)]):
-        return False
-    return are_rows(rows, plan.content_from(day, contents))
+        self._contents[(step[0], step[1])] = content
+        return True
 
+    def shows(self, plan, day, rows):
+        """Whether a question computes any value, as its rows, from what the steps tell."""
+        content = self._content_by(plan, day, plan.needs_on(day))
+        return content is not None and are_rows(rows, content)
 
-def is_partition(log, at, step):
-    """Whether any value is a tuple of as many items as a step has, of a table at a moment and a day."""
-    if not isinstance(step, tuple) or len(step) not in (3, 4):
-        return False
-    if not isinstance(step[0], str) or step[0] not in log.tables(at) or not is_day(step[1]):
-        return False
-    return len(step) == (3 if log.is_raw(step[0], at) else 4)
+    def _content_for(self, step):
+        """The content that a step should have; None if its text, or what the steps ahead tell, is not right."""
+        part = (step[0], step[1])
+        plan = self._links.plan_of(part)
+        text = None if len(step) == 3 else step[2]
+        if plan is None:
+            return self._log.content_on(part[0], part[1], self._at) if text is None else None
+        if not isinstance(text, str) or text != plan.text:
+            return None
+        return self._content_by(plan, step[1], self._links.needs_of(part))
 
-
-def content_of_step(log, at, step, contents):
-    """The content that a step should have, given those of the steps ahead; None if these or its text are not right."""
-    plan = log.plan_on(step[0], step[1], at)
-    if plan is None:
-        is_told = len(step) == 3 or step[2] is None
-        return log.content_on(step[0], step[1], at) if is_told else None
-    if not isinstance(step[2], str) or step[2] != plan.text:
-        return None
-    if not all([need in contents for need in plan.needs_on(step[1])]):
-        return None
-    return plan.content_from(step[1], contents)
+    def _content_by(self, plan, day, needs):
+        """The content that a plan computes from what the steps tell of its needs; None if they do not tell of all."""
+        inputs = [self._contents.get(need) for need in needs]
+        return None if None in inputs else plan.content_from(day, inputs)
 
 
 def are_rows(value, content):

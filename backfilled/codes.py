@@ -8,6 +8,9 @@ from backfilled.words import END
 MOST_SIGNS = 600
 STRENGTHS = {"or": 1, "and": 2, "+": 1, "-": 1, "*": 2}
 STRONGEST = 3
+# The signs between spaces, and those that end a word, in a text that is shown.
+SPACED = {"|": True, "=": True, "<": True, "<=": True, "+": True, "*": True}
+ENDS = {",": True, ":": True}
 
 
 def parse(text):
@@ -39,6 +42,21 @@ def most_shown(text, tokens):
 def place_of(text, number):
     """The index of a token of a text, given by its number."""
     return placed_tokens(text)[number][1]
+
+
+def shown(text, code):
+    """What show writes for the tree of a text."""
+    return text if is_plain(text) else show(code)
+
+
+def is_plain(text):
+    """Whether it is plain that show writes the text of a code as it is, since it has no brackets and no minus."""
+    if "(" in text or "[" in text or "-" in text:
+        return False
+    return all([
+        word.isalnum() or word in SPACED or word[-1:] in ENDS and word[:-1].isalnum()
+        or word[:1] == "'" and word[1:-1].isalnum() and word[-1] == "'" for word in text.split(" ")
+    ])
 
 
 def show(code):

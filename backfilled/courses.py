@@ -21,8 +21,3 @@ class Course:
                     return part
                 self._waiting.extend(missing[::-1])
         return None
-
-    def go(self):
-        """Computes all that is due."""
-        while self.step() is not None:
-            pass

@@ -144,17 +144,17 @@ STEPS = {
 
 def read_term(ahead):
     """Parts joined by + and -, of factors joined by *."""
-    return read_chain(ahead, TERM_SIGNS, "*", read_factor)
+    first = read_factor(ahead)
+    return read_chain(ahead, first, TERM_SIGNS, "*", read_factor) if ahead[-1] in TERM_SIGNS else first
 
 
 def read_condition(ahead):
     """Conditions joined by or, and by and."""
-    return read_chain(ahead, CONDITION_WORDS, "and", read_single)
+    return read_chain(ahead, read_single(ahead), CONDITION_WORDS, "and", read_single)
 
 
-def read_chain(ahead, signs, strong, read_part):
-    """Parts that are joined by signs, grouped from the left; one of the signs binds closer than the others."""
-    tree = read_part(ahead)
+def read_chain(ahead, tree, signs, strong, read_part):
+    """A part and others that are joined by signs, grouped from the left; one sign binds closer than the others."""
     while ahead[-1] in signs:
         sign = ahead.pop()
         part = read_part(ahead)

@@ -27,20 +27,15 @@ def kind_of(tree, columns):
     for part in inner_first(tree):
         word = part[0] if isinstance(part, tuple) else "number"
         if word == "column":
-            waiting.append(kinds.get(part[1]))
+            if part[1] not in kinds:
+                return None
+            waiting.append(kinds[part[1]])
         elif word in BETWEEN:
             second = waiting.pop()
-            waiting[-1] = kind_between(word, waiting[-1], second)
+            kind = BETWEEN[word]
+            if waiting[-1] != second or kind == "number" and second != kind:
+                return None
+            waiting[-1] = kind
         elif word != "not":
             waiting.append("text" if word == "text" else "number")
-        if waiting[-1] is None:
-            return None
     return waiting[0]
-
-
-def kind_between(word, first, second):
-    """The kind of two parts, of these kinds, with a sign or a word between them; None if it is not valid."""
-    kind = BETWEEN[word]
-    if first != second or kind == "number" and first != kind:
-        return None
-    return kind

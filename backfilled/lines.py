@@ -1,7 +1,7 @@
 """The texts of the lines of journals.
 
-What is read from a line need not be right: a line stands in a journal only if what was read from it,
-written again, is this very line.
+What is read from a line is read only if it is written as journals write it; whether it can stand in
+a journal is not looked at here, nor whether codes are written as they are shown.
 """
 
 MOST_DIGITS = 40
@@ -39,38 +39,30 @@ def read_entry(text):
     word, *rest = text.split(" ", 3)
     if len(rest) != 3:
         return None
-    if word == "table":
-        return read_table(rest[0], rest[1], rest[2])
-    day = read_number(rest[1])
+    if word in ("put", "delete"):
+        values = [read_value(item) for item in rest[2].split(",")]
+        return None if None in values else (word, rest[0], read_number(rest[1]), tuple(values))
     if word == "code":
-        return ("code", rest[0], rest[2], day)
-    values = [read_value(item) for item in rest[2].split(",")]
-    if word not in ("put", "delete") or None in values:
-        return None
-    return (word, rest[0], day, tuple(values))
-
-
-def read_table(name, keys, columns):
-    """The entry of a table, or None."""
-    found = [tuple(item.split(":")) for item in columns.split(",")]
-    if not all([len(column) == 2 for column in found]):
-        return None
-    return ("table", name, found, read_number(keys))
+        return (word, rest[0], rest[2], read_number(rest[1]))
+    if word == "table":
+        columns = [tuple(item.split(":")) for item in rest[2].split(",")]
+        return (word, rest[0], columns, read_number(rest[1]))
+    return None
 
 
 def read_value(text):
     """A value, or None."""
-    if text.startswith("'") and text.endswith("'") and len(text) > 1:
-        return text[1:-1]
+    if text[:1] == "'":
+        return text[1:-1] if len(text) > 1 and text[-1] == "'" else None
     return read_number(text)
 
 
 def read_number(text):
-    """A number, or None."""
-    digits = text.removeprefix("-")
-    if len(digits) > MOST_DIGITS or not digits.isascii() or not digits.isdigit():
+    """An integer of at most 40 digits, without leading zeros, perhaps with a minus ahead, but not -0; or None."""
+    digits = text[1:] if text[:1] == "-" else text
+    if not digits.isdigit() or not digits.isascii() or len(digits) > MOST_DIGITS:
         return None
-    return int(text)
+    return None if digits[0] == "0" and text != "0" else int(text)
 
 
 def read_record(text):
@@ -85,6 +77,7 @@ def read_record(text):
 def read_name(text):
     """The name, the day, the moment and the question that the text of a line tells of an answer; or None."""
     word, *rest = text.split(" ", 4)
-    if word != "name" or len(rest) != 4:
+    moment = read_number(rest[2]) if len(rest) == 4 else None
+    if word != "name" or moment is None:
         return None
-    return (rest[0], read_number(rest[1]), read_number(rest[2]), rest[3])
+    return (rest[0], read_number(rest[1]), moment, rest[3])

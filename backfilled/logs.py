@@ -1,10 +1,11 @@
 """The log: entries that add tables, put and delete rows, and set the codes of derived tables."""
 
-from backfilled.codes import parse, show
+from backfilled.codes import parse, shown
 from backfilled.errors import (
     BadCode, BadColumns, BadDay, BadMoment, BadName, BadNumber, BadRow, LimitExceeded, NameTaken, UnknownTable,
 )
-from backfilled.past import Past
+from backfilled.links import Links
+from backfilled.past import Memory, Past
 from backfilled.plans import Plan
 from backfilled.tables import DerivedTable, RawTable
 from backfilled.values import is_columns, is_day, is_name, is_row, is_within
@@ -18,9 +19,11 @@ class Log:
     def __init__(self):
         self._entries = []
         self._tables = {}
-        # For each moment, from 0 on, the last day.
+        self._derived = {}
+        # For each moment, from 0 on, the last day, and the links between partitions.
         self._last_days = [None]
-        self._past = Past(self)
+        self._links = [Links(self._derived, 0)]
+        self._memory = Memory()
 
     def add_table(self, name, columns, keys=1):
         """Adds a raw table whose first columns are its key; returns the moment."""
@@ -39,7 +42,7 @@ class Log:
 
     def put(self, table, day, row):
         """Puts a row into a raw table on a day; returns the moment."""
-        known = self._raw_table(table, len(self._entries))
+        known = self._raw_table(table)
         if not is_day(day):
             raise BadDay(day)
         if not is_row(row, known.shape):
@@ -50,7 +53,7 @@ class Log:
 
     def delete(self, table, day, key):
         """Deletes the row with a key from a raw table on a day; returns the moment."""
-        known = self._raw_table(table, len(self._entries))
+        known = self._raw_table(table)
         if not is_day(day):
             raise BadDay(day)
         if not is_row(key, known.key_shape()):
@@ -61,6 +64,10 @@ class Log:
 
     def set_code(self, table, text, day=0):
         """Sets the code of a derived table from a day on; returns the moment."""
+        return self.add_code(table, self.code_plan(table, text, day), day)
+
+    def code_plan(self, table, text, day):
+        """The plan of a code that can be set now."""
         if not is_name(table):
             raise BadName(table)
         known = self._tables.get(table)
@@ -69,16 +76,22 @@ class Log:
         code = parse(text)
         if not is_day(day):
             raise BadDay(day)
-        plan = Plan(code, self._shapes(len(self._entries)), show(code))
+        plan = Plan(code, self._shapes(len(self._entries)), shown(text, code))
         if known is not None and known.shape != plan.shape:
             raise BadCode(None)
         if self._leads_to(plan.same_day_tables(), table):
             raise BadCode(None)
         self._check_room(table)
+        return plan
+
+    def add_code(self, table, plan, day):
+        """Sets a code that was checked; returns the moment."""
         moment = self._keep(("code", table, plan.text, day), None)
-        if known is None:
-            self._tables[table] = DerivedTable(moment, plan.shape)
-        self._tables[table].add_code(moment, day, plan)
+        if table not in self._tables:
+            self._derived[table] = DerivedTable(moment, plan.shape)
+            self._tables[table] = self._derived[table]
+        self._derived[table].add_code(moment, day, plan)
+        self._links[moment] = Links(self._derived, moment)
         return moment
 
     def __getitem__(self, at):
@@ -114,7 +127,9 @@ class Log:
     def raw(self, table, day, moment=None):
         """The content of a raw table on a day."""
         last = self.moment_for(moment)
-        known = self._raw_table(table, last)
+        known = self._raw_table(table)
+        if known.moment > last:
+            raise UnknownTable(table)
         if not is_day(day):
             raise BadDay(day)
         return known.content_on(day, last)
@@ -138,7 +153,11 @@ class Log:
         copied = Log()
         copied._entries = self._entries[:last]
         copied._last_days = self._last_days[:last + 1]
+        copied._links = self._links[:last + 1]
         copied._tables = {name: known.until(last) for name, known in self._tables.items() if known.moment <= last}
+        for name, known in copied._tables.items():
+            if isinstance(known, DerivedTable):
+                copied._derived[name] = known
         return copied
 
     def moment_for(self, moment):
@@ -151,20 +170,28 @@ class Log:
 
     def past(self):
         """The contents from scratch at all moments, each computed when it is asked for."""
-        return self._past
+        return Past(self, self._memory)
 
     def question_plan(self, question, moment):
         """The plan of any value as a question at a moment."""
         code = parse(question)
-        return Plan(code, self._shapes(moment), show(code))
+        return Plan(code, self._shapes(moment), shown(question, code))
 
-    def plan_on(self, table, day, moment):
-        """The plan of the code that holds for a partition at a moment; None if it has none, or is of a raw table."""
-        return self._tables[table].plan_on(day, moment)
+    def links_at(self, moment):
+        """The plans and the needs of partitions at a moment."""
+        return self._links[moment]
+
+    def is_table(self, name, moment):
+        """Whether any value is the name of a table at a moment."""
+        return isinstance(name, str) and name in self._tables and self._tables[name].moment <= moment
 
     def content_on(self, table, day, moment):
         """The content of a partition at a moment at which it has no plan."""
         return self._tables[table].content_on(day, moment)
+
+    def first_content(self, table, day, moment):
+        """The content of a raw table on a day at a moment that is the least one of it, or None if it is not."""
+        return self._tables[table].first_content(day, moment)
 
     def change_moments(self, table, day):
         """The moments, in order, that may have changed a partition's rows or plan, ahead of them its table's."""
@@ -178,9 +205,13 @@ class Log:
         """A dict from the texts of the codes that held for a partition at any moment to their plans."""
         return self._tables[table].plans_held(day)
 
+    def raw_tables(self, moment):
+        """The names of the raw tables at a moment, in order."""
+        return [name for name in self._shapes(moment) if name not in self._derived]
+
     def derived_tables(self, moment):
         """The names of the derived tables at a moment, in order."""
-        return [name for name in self._shapes(moment) if isinstance(self._tables[name], DerivedTable)]
+        return [name for name, known in self._derived.items() if known.moment <= moment]
 
     def days(self, moment):
         """The days of the log at a moment."""
@@ -193,13 +224,13 @@ class Log:
 
     def _known_table(self, name, moment):
         """What is known of the table that any value names at a moment."""
-        if not isinstance(name, str) or name not in self._tables or self._tables[name].moment > moment:
+        if not self.is_table(name, moment):
             raise UnknownTable(name)
         return self._tables[name]
 
-    def _raw_table(self, name, moment):
-        """What is known of the raw table that any value names at a moment."""
-        known = self._known_table(name, moment)
+    def _raw_table(self, name):
+        """What is known of the raw table that any value names."""
+        known = self._tables.get(name) if isinstance(name, str) else None
         if not isinstance(known, RawTable):
             raise UnknownTable(name)
         return known
@@ -225,19 +256,19 @@ class Log:
         seen = {}
         while waiting:
             name = waiting.pop()
-            known = self._tables[name]
             if name == table:
                 return True
-            if name not in seen and isinstance(known, DerivedTable):
+            if name not in seen and name in self._derived:
                 seen[name] = True
-                waiting.extend([near for plan in known.plans() for near in plan.same_day_tables()])
+                waiting.extend([near for plan in self._derived[name].plans() for near in plan.same_day_tables()])
         return False
 
     def _keep(self, entry, day):
         """Adds an entry that was checked, with the day on which it puts a row, or None; returns its moment."""
         last = self._last_days[-1]
         self._entries.append(entry)
-        self._last_days.append(last if day is None else later_day(last, day))
+        self._last_days.append(day if last is None or day is not None and last < day else last)
+        self._links.append(self._links[-1])
         return len(self._entries)
 
 
@@ -246,10 +277,3 @@ def told(entry):
     if entry[0] == "table":
         return ("table", entry[1], list(entry[2]), entry[3])
     return entry
-
-
-def later_day(one, other):
-    """The later one of two days, of which the first one may be None."""
-    if one is None or one < other:
-        return other
-    return one

@@ -9,7 +9,7 @@ def paper_for(log, question, day, row, moment=None):
     """A paper of a row of a question, or None if any value is no row of its content."""
     plan, at = asked_question(log, question, day, moment)
     scenes = Scenes(log, plan, day, at)
-    if not scenes.scene(None, day).holds((), row):
+    if not scenes.question_scene().holds((), row):
         return None
     writer = Writer(scenes)
     return writer.lines_for((None, day, (), row))
@@ -19,7 +19,7 @@ def check_paper(log, question, day, row, paper, moment=None):
     """Whether any value is a paper of any value, a row of a question."""
     plan, at = asked_question(log, question, day, moment)
     scenes = Scenes(log, plan, day, at)
-    if not isinstance(paper, list) or not scenes.scene(None, day).holds((), row):
+    if not isinstance(paper, list) or not scenes.question_scene().holds((), row):
         return False
     for number in range(len(paper)):
         if not is_right(scenes, paper, number):

@@ -1,91 +1,106 @@
 """The past of a log: the contents from scratch of its partitions at all moments."""
 
-from backfilled.moments import how_many_until
+
+class Memory:
+    """What was found out of a log so far; what was at a moment stays true while the log grows."""
+
+    def __init__(self):
+        # For each moment that was asked for, the contents of partitions of derived tables.
+        self.contents = {}
+        # For these partitions the moments, in order, at which they may have got another content, up to this one.
+        self.moments = {}
+        self.last = 0
+        # The scenes of papers at the moment that was asked for last.
+        self.scenes = {}
+        self.scenes_moment = None
 
 
 class Past:
-    """What was found out of a log so far; what was at a moment stays true while the log grows."""
+    """A log with what is remembered of it.
 
-    def __init__(self, log):
+    The log itself has the memory alone: if it had its past, which has the log, neither would be freed at once.
+    """
+
+    def __init__(self, log, memory):
         self._log = log
-        self._contents = {}
-        # For partitions the moments, in order, from which on they may have another content, up to this one.
-        self._moments = {}
-        self._last = 0
+        self._memory = memory
 
     def content_at(self, part, moment):
         """The content of a partition at a moment at which its table is there."""
-        self._catch_up()
-        key = self._begun(part, moment)
-        if key not in self._contents:
-            self._compute(part, moment)
-        return self._contents[key]
+        contents = self._memory.contents.setdefault(moment, {})
+        if part not in contents:
+            self._compute([part], moment, contents)
+        return contents[part]
 
     def answer_at(self, plan, day, moment):
         """The content of a question on a day at a moment."""
-        return plan.content_from(day, {need: self.content_at(need, moment) for need in plan.needs_on(day)})
+        return plan.content_from(day, self.contents_at(plan.needs_on(day), moment))
+
+    def contents_at(self, parts, moment):
+        """The list of the contents of partitions at a moment at which their tables are there."""
+        contents = self._memory.contents.setdefault(moment, {})
+        self._compute(parts, moment, contents)
+        return [contents[part] for part in parts]
 
     def least_moment(self, part, content):
         """The least moment at which a partition of a table of the log is there and has a content, or None."""
-        self._catch_up()
-        self._learn(part)
-        moments = list(self._moments[part])
-        for moment in moments:
+        for moment in self._change_moments(part):
             if self.content_at(part, moment) == content:
                 return moment
         return None
 
-    def _catch_up(self):
-        """Forgets what entries that came meanwhile may have changed."""
-        if self._last != len(self._log):
-            self._last = len(self._log)
-            self._moments = {}
+    def first_content(self, part, moment):
+        """The content of a partition at a moment that is the least one of this content, or None if it is not."""
+        if self._log.is_raw(part[0]):
+            return self._log.first_content(part[0], part[1], moment)
+        moments = self._change_moments(part)
+        if moment not in moments:
+            return None
+        content = self.content_at(part, moment)
+        for earlier in moments:
+            if earlier < moment and self.content_at(part, earlier) == content:
+                return None
+        return content
 
-    def _compute(self, goal, moment):
-        """Computes the content of a partition at a moment, and of those that it needs."""
-        # A chain of needs may be longer than calls may stand within one another.
-        waiting = [goal]
-        while waiting:
-            part = waiting[-1]
-            plan = self._log.plan_on(part[0], part[1], moment)
-            needs = [] if plan is None else plan.needs_on(part[1])
-            missing = [need for need in needs if self._begun(need, moment) not in self._contents]
-            if missing:
-                waiting.extend(missing)
+    def scenes_at(self, moment):
+        """The scenes of papers at a moment that are kept: a dict that is to be added to."""
+        if self._memory.scenes_moment != moment:
+            self._memory.scenes_moment = moment
+            self._memory.scenes = {}
+        return self._memory.scenes
+
+    def _compute(self, goals, moment, contents):
+        """Computes the contents of partitions at a moment, and of those that they need, into a dict."""
+        links = self._log.links_at(moment)
+        missing = links.needs_first(goals, contents, {})
+        for part in missing:
+            plan = links.plan_of(part)
+            if plan is None:
+                contents[part] = self._log.content_on(part[0], part[1], moment)
             else:
-                self._note_content(part, moment, plan, needs)
-                waiting.pop()
+                contents[part] = plan.content_from(part[1], [contents[need] for need in links.needs_of(part)])
 
-    def _note_content(self, part, moment, plan, needs):
-        """Notes the content of a partition at a moment, if it is not known."""
-        key = self._begun(part, moment)
-        if key in self._contents:
-            return
-        if plan is None:
-            self._contents[key] = self._log.content_on(part[0], part[1], moment)
-        else:
-            inputs = {need: self._contents[self._begun(need, moment)] for need in needs}
-            self._contents[key] = plan.content_from(part[1], inputs)
+    def _change_moments(self, goal):
+        """The moments, in order, at which the content of a partition may have changed, ahead of them its table's.
 
-    def _begun(self, part, moment):
-        """The key of a content: the partition, and the moment from which on it is surely the same up to a moment."""
-        if part not in self._moments:
-            self._learn(part)
-        moments = self._moments[part]
-        return (part[0], part[1], moments[how_many_until(moments, moment) - 1])
-
-    def _learn(self, goal):
-        """Finds out the moments from which on a partition, and those that it needs, may have another content."""
-        waiting = [goal]
+        The list is not to be changed.
+        """
+        memory = self._memory
+        if memory.last != len(self._log):
+            memory.last = len(self._log)
+            memory.moments = {}
+        # A chain of needs may be longer than calls may stand within one another.
+        waiting = [] if goal in memory.moments else [goal]
         while waiting:
             part = waiting[-1]
-            needs = [] if part in self._moments else self._needs_ever(part)
-            missing = [need for need in needs if need not in self._moments]
+            needs = [] if part in memory.moments else self._needs_ever(part)
+            missing = [need for need in needs if need not in memory.moments]
             if missing:
                 waiting.extend(missing)
             else:
                 self._note_moments(part, needs)
                 waiting.pop()
+        return memory.moments[goal]
 
     def _needs_ever(self, part):
         """The partitions that a partition needs by any of the codes that held there."""
@@ -94,9 +109,10 @@ class Past:
 
     def _note_moments(self, part, needs):
         """Notes the moments of a partition from those of the ones that it needs."""
-        if part not in self._moments:
+        moments = self._memory.moments
+        if part not in moments:
             found = self._log.change_moments(part[0], part[1])
             start = found[0]
             for need in needs:
-                found = found + [moment for moment in self._moments[need] if moment > start]
-            self._moments[part] = sorted(set(found))
+                found = found + [moment for moment in moments[need] if moment > start]
+            moments[part] = sorted(set(found)) if needs else found

@@ -19,5 +19,5 @@ class Record:
 
 
 def contents_in(inputs):
-    """A dict from the partitions of inputs to their contents."""
-    return {(table, day): content for table, day, content in inputs}
+    """The list of the contents of inputs."""
+    return [content for _, _, content in inputs]

@@ -1,13 +1,12 @@
 """Recovering a store from the lines of its journal."""
 
 from backfilled.asking import asked_question
-from backfilled.codes import parse, show
 from backfilled.entries import add_entry
-from backfilled.errors import BackfilledError, BadText
-from backfilled.lines import entry_text, name_text, read_entry, read_name, read_record, record_text
+from backfilled.errors import BackfilledError
+from backfilled.lines import name_text, read_entry, read_name, read_record
 from backfilled.logs import Log
 from backfilled.stores import Store
-from backfilled.values import is_day, is_within
+from backfilled.values import is_day
 
 ENTRIES = 0
 RECORDS = 1
@@ -37,14 +36,20 @@ class Recovery:
     def _takes_entry(self, text):
         """Whether a text is that of an entry that can be added."""
         entry = read_entry(text)
-        if entry is None or None in entry or entry_text(entry) != text:
-            return False
-        if entry[0] == "code" and not is_shown(entry[2]):
+        if entry is None:
             return False
         try:
-            add_entry(self._log, entry)
+            return self._takes_code(entry) if entry[0] == "code" else add_entry(self._log, entry) > 0
         except BackfilledError:
             return False
+
+    def _takes_code(self, entry):
+        """Whether an entry has the text of a code as it is shown, adding it if so."""
+        _, table, text, day = entry
+        plan = self._log.code_plan(table, text, day)
+        if plan.text != text:
+            return False
+        self._log.add_code(table, plan, day)
         return True
 
     def _takes_record(self, text):
@@ -54,9 +59,7 @@ class Recovery:
             return False
         table, day, moments, code = told
         plan = plan_held(self._log, table, day, code)
-        if plan is None or record_text(table, day, moments, code) != text:
-            return False
-        inputs = self._inputs(plan.needs_on(day), moments)
+        inputs = None if plan is None else self._inputs(plan.needs_on(day), moments)
         if inputs is None or not self._store.restore_record((table, day), plan, inputs):
             return False
         self._reached = RECORDS
@@ -67,15 +70,10 @@ class Recovery:
         if len(needs) != len(moments):
             return None
         past = self._log.past()
-        inputs = []
-        for need, moment in zip(needs, moments):
-            if not is_within(moment, 0, len(self._log)) or need[0] not in self._log.tables(moment):
-                return None
-            content = past.content_at(need, moment)
-            if past.least_moment(need, content) != moment:
-                return None
-            inputs.append((*need, content))
-        return tuple(inputs)
+        contents = [past.first_content(need, moment) for need, moment in zip(needs, moments)]
+        if None in contents:
+            return None
+        return tuple([(*need, content) for need, content in zip(needs, contents)])
 
     def _takes_name(self, text):
         """Whether a text is that of an answer that can be named."""
@@ -95,16 +93,8 @@ class Recovery:
         return True
 
 
-def is_shown(text):
-    """Whether a text is that of a code as it is shown."""
-    try:
-        return show(parse(text)) == text
-    except BadText:
-        return False
-
-
 def plan_held(log, table, day, text):
     """The plan of a code that held for a partition at some moment; None if any values tell of no such code."""
-    if table not in log.tables() or not is_day(day):
+    if not log.is_table(table, len(log)) or not is_day(day):
         return None
     return log.plans_held(table, day).get(text)

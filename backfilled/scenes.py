@@ -2,20 +2,19 @@
 
 from backfilled.reasons import ways_of
 from backfilled.steps import in_order_of
-from backfilled.trees import paths_in
 from backfilled.values import is_day, is_integer, is_row
 
 
 class CodeScene:
     """The parts of a code on a day, by their paths."""
 
-    def __init__(self, table, day, plan, contents):
+    def __init__(self, table, day, plan, inputs):
         self.table = table
         self.day = day
         self._parts = {}
-        found = plan.rows_from(day, contents)
-        for path, part, columns, rows in zip(paths_in(plan.tree), plan.parts, plan.shapes, found):
-            self._parts[path] = (part, columns, {row: True for row in sorted(rows)})
+        found = plan.rows_from(day, inputs)
+        for path, part, columns, rows in zip(plan.paths(), plan.parts, plan.shapes, found):
+            self._parts[path] = (part, columns, {row: True for row in rows})
         self._groups = {}
 
     def columns_there(self, path):
@@ -45,7 +44,8 @@ class CodeScene:
         if path not in self._groups:
             _, columns, rows = self._parts[path + (0,)]
             groups = {}
-            for found, row in zip(in_order_of(names, columns, list(rows)), list(rows)):
+            ordered = sorted(rows)
+            for found, row in zip(in_order_of(names, columns, ordered), ordered):
                 groups.setdefault(found, []).append(row)
             self._groups[path] = groups
         return list(self._groups[path][key])
@@ -75,8 +75,12 @@ class Scenes:
         self._log = log
         self._plan = plan
         self._at = moment
+        self._links = log.links_at(moment)
         self._tables = log.tables(moment)
-        self._scenes = {}
+        self._raw = log.raw_tables(moment)
+        # Whoever writes a paper often wants it checked: the scenes of tables are kept with the log.
+        self._scenes = log.past().scenes_at(moment)
+        self._own_scene = None
 
     def is_place(self, table, day):
         """Whether any values are a table and a day of which lines may speak, or None and the question's day."""
@@ -86,22 +90,32 @@ class Scenes:
             return day == self.question_day
         if not isinstance(table, str) or table not in self._tables:
             return False
-        return self._log.is_raw(table, self._at) or self._log.plan_on(table, day, self._at) is not None
+        return table in self._raw or self._links.plan_of((table, day)) is not None
 
     def scene(self, table, day):
         """The scene of a table, or of the question, on a day."""
+        if table is None:
+            return self.question_scene()
         if (table, day) not in self._scenes:
             self._scenes[(table, day)] = self._new_scene(table, day)
         return self._scenes[(table, day)]
 
+    def question_scene(self):
+        """The scene of the question."""
+        if self._own_scene is None:
+            self._own_scene = self._code_scene(None, self.question_day, self._plan)
+        return self._own_scene
+
     def _new_scene(self, table, day):
-        """The scene of a table, or of the question, on a day, made for the first time."""
-        plan = self._plan if table is None else self._log.plan_on(table, day, self._at)
+        """The scene of a table on a day, made for the first time."""
+        plan = self._links.plan_of((table, day))
         if plan is None:
             return RawScene(self._tables[table], self._log.put_moments(table, day, self._at))
-        past = self._log.past()
-        contents = {need: past.content_at(need, self._at) for need in plan.needs_on(day)}
-        return CodeScene(table, day, plan, contents)
+        return self._code_scene(table, day, plan)
+
+    def _code_scene(self, table, day, plan):
+        """The scene of a plan on a day."""
+        return CodeScene(table, day, plan, self._log.past().contents_at(plan.needs_on(day), self._at))
 
 
 def is_path(value):

@@ -1,12 +1,13 @@
-"""What each step makes of rows.
+"""What the parts of codes make of rows.
 
-Each function behind which MAKERS stands takes a part of a code, a day, and a list of pairs
-of the columns and the rows of the codes within the part; it returns a list of rows.
-Rows come in any order, but each once, since a content is a set.
+Each function of MAKERS takes a part of a code, the columns of the codes within it, and the places of
+the contents of the tables that are read, and returns a function that makes the rows of the part: of
+a day and, for a table, of the list of contents, each None if the day is ahead of day 0; for a step,
+of the rows of the codes within it. Rows come in any order, but each once, since a content is a set.
 """
 
 from backfilled.kinds import kinds_of, names_of
-from backfilled.terms import worked_out
+from backfilled.terms import orders_for, worked_out
 
 
 def each_once(rows):
@@ -14,90 +15,145 @@ def each_once(rows):
     return list({row: True for row in rows})
 
 
-def picked(row, places):
-    """The values at some places of a row."""
-    return tuple([row[at] for at in places])
+def picking(names, columns):
+    """A function that makes, of rows of columns, those of the values of these names alone, in this order."""
+    own = names_of(columns)
+    places = [own.index(name) for name in names]
+    if len(places) == 1:
+        return picking_one(places[0])
+
+    def pick_all(rows):
+        return [tuple([row[at] for at in places]) for row in rows]
+    return pick_all
+
+
+def picking_one(at):
+    """A function that makes, of rows, those of the value at one place alone."""
+    def pick_one(rows):
+        return [(row[at],) for row in rows]
+    return pick_one
 
 
 def in_order_of(names, columns, rows):
     """Rows of columns, with the values of these names alone, in this order."""
-    own = names_of(columns)
-    places = [own.index(name) for name in names]
-    return [picked(row, places) for row in rows]
+    pick = picking(names, columns)
+    return pick(rows)
 
 
-def where_rows(part, day, inner):
-    """Those for which a condition holds."""
-    columns, rows = inner[0]
-    truths = worked_out(part[2], day, columns, rows)
-    return [row for row, truth in zip(rows, truths) if truth]
+def table_maker(part, inner, places):
+    """For those of a table on a day."""
+    at = places[(part[1], part[2])]
+
+    def table_rows(day, contents):
+        return [] if contents[at] is None else contents[at].rows
+    return table_rows
 
 
-def with_rows(part, day, inner):
-    """Those with one more value each."""
-    columns, rows = inner[0]
-    worked = worked_out(part[3], day, columns, rows)
-    return [(*row, value) for row, value in zip(rows, worked)]
+def last_maker(part, inner, places):
+    """For those of the last days of a table, each with its day ahead."""
+    spots = [(back, places[(part[1], back)]) for back in range(part[2])]
+
+    def last_rows(day, contents):
+        return [(day - back, *row) for back, at in spots if back <= day for row in contents[at].rows]
+    return last_rows
 
 
-def keep_rows(part, day, inner):
-    """Those of the kept columns."""
-    columns, rows = inner[0]
-    return each_once(in_order_of(part[2], columns, rows))
+def where_maker(part, inner, places):
+    """For those for which a condition holds."""
+    orders = orders_for(part[2], inner[0])
+
+    def where_rows(day, rows):
+        truths = worked_out(orders, day, rows) if rows else []
+        return [row for row, truth in zip(rows, truths) if truth]
+    return where_rows
 
 
-def rename_rows(part, day, inner):
-    """The same."""
-    return inner[0][1]
+def with_maker(part, inner, places):
+    """For those with one more value each."""
+    orders = orders_for(part[3], inner[0])
+
+    def with_rows(day, rows):
+        values = worked_out(orders, day, rows) if rows else []
+        return [(*row, value) for row, value in zip(rows, values)]
+    return with_rows
 
 
-def join_rows(part, day, inner):
-    """Those of both codes that have equal values in all common columns."""
-    (first, first_rows), (second, second_rows) = inner
+def keep_maker(part, inner, places):
+    """For those of the kept columns."""
+    pick = picking(part[2], inner[0])
+
+    def keep_rows(day, rows):
+        return each_once(pick(rows))
+    return keep_rows
+
+
+def rename_maker(part, inner, places):
+    """For the same ones."""
+    def rename_rows(day, rows):
+        return rows
+    return rename_rows
+
+
+def join_maker(part, inner, places):
+    """For those of both codes that have equal values in all common columns."""
+    first, second = inner
     kinds = kinds_of(first)
     common = [name for name in names_of(second) if name in kinds]
-    others = [name for name in names_of(second) if name not in kinds]
-    partners = {}
-    keys = in_order_of(common, second, second_rows)
-    for key, rest in zip(keys, in_order_of(others, second, second_rows)):
-        partners.setdefault(key, []).append(rest)
-    keys = in_order_of(common, first, first_rows)
-    return [(*row, *rest) for key, row in zip(keys, first_rows) for rest in partners.get(key, [])]
+    pick_first = picking(common, first)
+    pick_second = picking(common, second)
+    pick_others = picking([name for name in names_of(second) if name not in kinds], second)
+
+    def join_rows(day, first_rows, second_rows):
+        partners = {}
+        for key, rest in zip(pick_second(second_rows), pick_others(second_rows)):
+            partners.setdefault(key, []).append(rest)
+        keys = pick_first(first_rows)
+        return [(*row, *rest) for key, row in zip(keys, first_rows) for rest in partners.get(key, [])]
+    return join_rows
 
 
-def union_rows(part, day, inner):
-    """Those of both codes."""
-    (first, first_rows), (second, second_rows) = inner
-    return each_once(first_rows + in_order_of(names_of(first), second, second_rows))
+def union_maker(part, inner, places):
+    """For those of both codes."""
+    pick = picking(names_of(inner[0]), inner[1])
+
+    def union_rows(day, first_rows, second_rows):
+        return each_once(first_rows + pick(second_rows))
+    return union_rows
 
 
-def minus_rows(part, day, inner):
-    """Those that the second code does not have."""
-    (first, first_rows), (second, second_rows) = inner
-    gone = {row: True for row in in_order_of(names_of(first), second, second_rows)}
-    return [row for row in first_rows if row not in gone]
+def minus_maker(part, inner, places):
+    """For those that the second code does not have."""
+    pick = picking(names_of(inner[0]), inner[1])
+
+    def minus_rows(day, first_rows, second_rows):
+        gone = {row: True for row in pick(second_rows)}
+        return [row for row in first_rows if row not in gone]
+    return minus_rows
 
 
-def group_rows(part, day, inner):
-    """One for each group."""
-    columns, rows = inner[0]
-    groups = {}
-    for key, row in zip(in_order_of(part[2], columns, rows), rows):
-        groups.setdefault(key, []).append(row)
-    return [key + sums_of(part[3], columns, members) for key, members in groups.items()]
+def group_maker(part, inner, places):
+    """For one for each group."""
+    pick = picking(part[2], inner[0])
+    sums = sums_over(part[3], inner[0])
+
+    def group_rows(day, rows):
+        groups = {}
+        for key, row in zip(pick(rows), rows):
+            groups.setdefault(key, []).append(row)
+        return [key + tuple([summed(word, at, members) for word, at in sums]) for key, members in groups.items()]
+    return group_rows
 
 
-def sums_of(sums, columns, rows):
-    """What sums tell of the rows of a group."""
+def sums_over(sums, columns):
+    """The words of sums over columns, with the places of their columns, None for a count."""
     names = names_of(columns)
-    return tuple([summed(word, column, names, rows) for _, word, column in sums])
+    return [(word, None if column is None else names.index(column)) for _, word, column in sums]
 
 
-def summed(word, column, names, rows):
-    """What a sum tells of one column of the rows of a group."""
+def summed(word, at, rows):
+    """What a sum tells of the values at one place of the rows of a group."""
     if word == "count":
         return len(rows)
-    at = names.index(column)
     found = [row[at] for row in rows]
     if word == "sum":
         return sum(found)
@@ -107,12 +163,15 @@ def summed(word, column, names, rows):
 
 
 MAKERS = {
-    "where": where_rows, "with": with_rows, "keep": keep_rows, "rename": rename_rows,
-    "join": join_rows, "union": union_rows, "minus": minus_rows, "group": group_rows,
+    "table": table_maker, "last": last_maker, "where": where_maker, "with": with_maker, "keep": keep_maker,
+    "rename": rename_maker, "join": join_maker, "union": union_maker, "minus": minus_maker, "group": group_maker,
 }
 
 
-def rows_behind(part, day, inner):
-    """The rows that a step makes of the codes within it."""
+def maker_for(part, inner, places):
+    """The function that makes the rows of a part of a code.
+
+    It is given the columns of the codes within it, and the places of the contents of the tables that are read.
+    """
     action = MAKERS[part[0]]
-    return action(part, day, inner)
+    return action(part, inner, places)

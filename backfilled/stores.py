@@ -19,6 +19,9 @@ class Store:
         self._bench = Bench(log, self._book)
         self._claims = []
         self._claimed = 0
+        # The journal that was written or read last, and what it was true of.
+        self._journal = None
+        self._journal_stamp = None
 
     @property
     def log(self):
@@ -138,7 +141,7 @@ class Store:
 
     def trial(self, table, text, day=0):
         """A trial of a code for a table from a day on."""
-        self._log.copy().set_code(table, text, day)
+        self._log.code_plan(table, text, day)
         return Trial(self, self._book, table, text, day)
 
     def named(self):
@@ -157,8 +160,21 @@ class Store:
         """Makes a record, if it is not there; returns whether it was made."""
         is_missing = self._book.find(part, plan, inputs) is None
         if is_missing:
-            self._book.make(part, plan, inputs)
+            self._book.make_later(part, plan, inputs)
         return is_missing
+
+    def kept_journal(self):
+        """The journal that was kept last if it is that of the store as it is now, otherwise None."""
+        return self._journal if self._journal_stamp == self._stamp() else None
+
+    def keep_journal(self, text):
+        """Keeps the journal of the store as it is now."""
+        self._journal = text
+        self._journal_stamp = self._stamp()
+
+    def _stamp(self):
+        """What changes whenever the log, the records or the names do."""
+        return (len(self._log), self._book.last, self._book.drop_count, self._bench.name_changes)
 
     def _new_claim(self, runner, part, view):
         """The claim of a partition that is due in a view, with the next number."""

@@ -16,19 +16,16 @@ class RawTable:
         self.shape = shape
         self.key_count = key_count
         self._empty = Content(shape, Sound([]))
-        # For each day the changes, tuples of a key and a row or None, and their moments.
-        self._changes = {}
-        self._moments = {}
-        # For each day the content behind each number of its changes; None if it was not asked for yet.
-        self._contents = {}
+        # For each day the moments of its changes, these, tuples of a key and a row or None, and the content
+        # behind each number of them, None if it was not asked for yet.
+        self._days = {}
 
     def until(self, moment):
         """The table as it was at a moment."""
-        many = {day: how_many_until(moments, moment) for day, moments in self._moments.items()}
         copied = RawTable(self.moment, self.shape, self.key_count)
-        copied._moments = {day: self._moments[day][:end] for day, end in many.items()}
-        copied._changes = {day: self._changes[day][:end] for day, end in many.items()}
-        copied._contents = {day: self._contents[day][:end + 1] for day, end in many.items()}
+        for day, (moments, changes, contents) in self._days.items():
+            many = how_many_until(moments, moment)
+            copied._days[day] = (moments[:many], changes[:many], contents[:many + 1])
         return copied
 
     def key_shape(self):
@@ -37,40 +34,53 @@ class RawTable:
 
     def change(self, moment, day, key, row):
         """Notes that an entry puts a row with a key on a day, or deletes it, if the row is None."""
-        self._changes.setdefault(day, []).append((key, row))
-        self._moments.setdefault(day, []).append(moment)
-        self._contents.setdefault(day, [self._empty]).append(None)
-
-    def plan_on(self, day, moment):
-        """No plan: rows are not computed."""
-        return None
+        if day not in self._days:
+            self._days[day] = ([], [], [self._empty])
+        moments, changes, contents = self._days[day]
+        moments.append(moment)
+        changes.append((key, row))
+        contents.append(None)
 
     def plans_held(self, day):
-        """No plans."""
+        """No plans: rows are not computed."""
         return {}
 
     def content_on(self, day, moment):
         """The content on a day at a moment."""
-        if day not in self._changes:
+        if day not in self._days:
             return self._empty
-        contents = self._contents[day]
-        many = how_many_until(self._moments[day], moment)
-        if contents[many] is None:
-            rows = {key: row for key, row in self._changes[day][:many]}
-            contents[many] = Content(self.shape, Sound([row for row in rows.values() if row is not None]))
-        return contents[many]
+        return self._content_behind(day, how_many_until(self._days[day][0], moment))
 
     def change_moments(self, day):
         """The moments, in order, that may have changed the content on a day, ahead of them the table's."""
-        return [self.moment] + self._moments.get(day, [])
+        return [self.moment] + (self._days[day][0] if day in self._days else [])
+
+    def first_content(self, day, moment):
+        """The content on a day at a moment that is the least one of this content, or None if it is not."""
+        if moment == self.moment:
+            return self._empty
+        if day not in self._days or moment not in self._days[day][0]:
+            return None
+        many = self._days[day][0].index(moment) + 1
+        content = self._content_behind(day, many)
+        same = [ahead for ahead in range(many) if self._content_behind(day, ahead) == content]
+        return None if same else content
 
     def put_moments(self, day, moment):
         """A dict from the rows on a day at a moment to the moments that put them."""
-        many = how_many_until(self._moments.get(day, []), moment)
-        last = {}
-        for at, (key, row) in zip(self._moments.get(day, [])[:many], self._changes.get(day, [])):
-            last[key] = (at, row)
+        if day not in self._days:
+            return {}
+        moments, changes, _ = self._days[day]
+        last = {key: (at, row) for at, (key, row) in zip(moments, changes) if at <= moment}
         return {row: at for at, row in last.values() if row is not None}
+
+    def _content_behind(self, day, many):
+        """The content on a day behind so many of its changes."""
+        _, changes, contents = self._days[day]
+        if contents[many] is None:
+            rows = {key: row for key, row in changes[:many]}
+            contents[many] = Content(self.shape, Sound([row for row in rows.values() if row is not None]))
+        return contents[many]
 
 
 class DerivedTable:

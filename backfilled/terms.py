@@ -1,85 +1,88 @@
-"""Working out terms and conditions, for all rows of a code at once."""
+"""Working out terms and conditions, for all rows of a code at once.
+
+A term or a condition is made into a list of orders, tuples of a word and what belongs to it: each
+puts a list, of one value for each row, on a stack, or takes lists from there and puts back what
+comes of them.
+"""
 
 from backfilled.kinds import names_of
-from backfilled.trees import inner_first, many_in, take_last
+from backfilled.trees import inner_first
 
 
-def added(one, other):
-    """The sum of two numbers."""
-    return one + other
+def sums(ones, others):
+    """The sums of numbers."""
+    return [one + other for one, other in zip(ones, others)]
 
 
-def taken_away(one, other):
-    """The difference of two numbers."""
-    return one - other
+def differences(ones, others):
+    """The differences of numbers."""
+    return [one - other for one, other in zip(ones, others)]
 
 
-def multiplied(one, other):
-    """The product of two numbers."""
-    return one * other
+def products(ones, others):
+    """The products of numbers."""
+    return [one * other for one, other in zip(ones, others)]
 
 
-def is_equal(one, other):
-    """Whether values are equal."""
-    return one == other
+def equal(ones, others):
+    """Which values are equal."""
+    return [one == other for one, other in zip(ones, others)]
 
 
-def is_below(one, other):
-    """Whether a value is less than another one."""
-    return one < other
+def below(ones, others):
+    """Which values are less than the other ones."""
+    return [one < other for one, other in zip(ones, others)]
 
 
-def is_up_to(one, other):
-    """Whether a value is not greater than another one."""
-    return one <= other
+def up_to(ones, others):
+    """Which values are not greater than the other ones."""
+    return [one <= other for one, other in zip(ones, others)]
 
 
-def both_hold(one, other):
-    """Whether two conditions hold."""
-    return one and other
+def both(ones, others):
+    """Where two conditions hold."""
+    return [one and other for one, other in zip(ones, others)]
 
 
-def one_holds(one, other):
-    """Whether at least one of two conditions holds."""
-    return one or other
+def either(ones, others):
+    """Where at least one of two conditions holds."""
+    return [one or other for one, other in zip(ones, others)]
 
 
-ACTIONS = {
-    "+": added, "-": taken_away, "*": multiplied, "=": is_equal, "<": is_below, "<=": is_up_to,
-    "and": both_hold, "or": one_holds,
+BETWEEN = {
+    "+": sums, "-": differences, "*": products, "=": equal, "<": below, "<=": up_to, "and": both, "or": either,
 }
 
 
-def worked_out(tree, day, columns, rows):
-    """The values of a term, or the truths of a condition, on a day, one for each row of columns."""
-    if not rows:
-        return []
+def orders_for(tree, columns):
+    """The orders of a term or a condition over columns."""
     names = names_of(columns)
-    waiting = []
+    orders = []
     for part in inner_first(tree):
-        inner = take_last(waiting, many_in(part))
-        if inner:
-            waiting.append(combined(part[0], inner))
-        elif not isinstance(part, int) and part[0] == "column":
-            at = names.index(part[1])
-            waiting.append([row[at] for row in rows])
+        if isinstance(part, int):
+            orders.append(("value", part))
+        elif part[0] == "text":
+            orders.append(("value", part[1]))
+        elif part[0] == "column":
+            orders.append(("column", names.index(part[1])))
         else:
-            waiting.append([constant(part, day)] * len(rows))
-    return waiting[0]
+            orders.append((part[0], BETWEEN.get(part[0])))
+    return orders
 
 
-def combined(word, inner):
-    """What comes of the lists of what the inner parts come to."""
-    if word == "not":
-        return [not truth for truth in inner[0]]
-    action = ACTIONS[word]
-    return [action(one, other) for one, other in zip(inner[0], inner[1])]
-
-
-def constant(term, day):
-    """The value of a term that is the same for all rows."""
-    if isinstance(term, int):
-        return term
-    if term[0] == "today":
-        return day
-    return term[1]
+def worked_out(orders, day, rows):
+    """The values of a term, or the truths of a condition, on a day, one for each row."""
+    stack = []
+    for word, worth in orders:
+        if word == "column":
+            stack.append([row[worth] for row in rows])
+        elif word == "value":
+            stack.append([worth] * len(rows))
+        elif word in BETWEEN:
+            others = stack.pop()
+            stack[-1] = worth(stack[-1], others)
+        elif word == "today":
+            stack.append([day] * len(rows))
+        else:
+            stack[-1] = [not truth for truth in stack[-1]]
+    return stack[0]

@@ -42,7 +42,10 @@ def words_in(piece):
     spaced = piece.replace("<=", " _ ").replace("|", " | ").replace("(", " ( ").replace(")", " ) ")
     spaced = spaced.replace("[", " [ ").replace("]", " ] ").replace(",", " , ").replace(":", " : ")
     spaced = spaced.replace("=", " = ").replace("<", " < ").replace("+", " + ").replace("-", " - ").replace("*", " * ")
-    return [word if word in FIXED else token_for(word) for word in spaced.split()]
+    return [
+        word if word in FIXED or len(word) <= MOST_LETTERS and word.isalpha() and word.islower() else token_for(word)
+        for word in spaced.split()
+    ]
 
 
 def token_for(word):

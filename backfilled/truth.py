@@ -11,10 +11,7 @@ def evaluate(code, day, tables, read):
     that returns the content of a table on a day.
     """
     plan = Plan(code, tables)
-    contents = {}
-    for table, on in plan.needs_on(day):
-        contents[(table, on)] = read(table, on)
-    return plan.content_from(day, contents)
+    return plan.content_from(day, [read(table, on) for table, on in plan.needs_on(day)])
 
 
 def from_scratch(log, table, day, moment=None):

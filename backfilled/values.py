@@ -3,6 +3,7 @@
 from backfilled.words import FIXED, LETTERS, TEXT_SIGNS
 
 KINDS = ("number", "text")
+MOST_SIGNS = 20
 
 
 def is_integer(value):
@@ -17,7 +18,7 @@ def is_within(value, least, greatest):
 
 def is_text(value):
     """Whether any value is a value of the kind text."""
-    return isinstance(value, str) and len(value) <= 20 and not value.strip(TEXT_SIGNS)
+    return isinstance(value, str) and len(value) <= MOST_SIGNS and not value.strip(TEXT_SIGNS)
 
 
 def is_name(value):
@@ -32,7 +33,7 @@ def is_value(value):
 
 def is_day(value):
     """Whether any value is a day."""
-    return is_within(value, 0, 999)
+    return isinstance(value, int) and 0 <= value <= 999 and value is not True and value is not False
 
 
 def is_columns(value):
@@ -57,7 +58,7 @@ def is_row(value, columns):
         return False
     for item, (_, kind) in zip(value, columns):
         if kind == "text":
-            if not is_text(item):
+            if not isinstance(item, str) or len(item) > MOST_SIGNS or item.strip(TEXT_SIGNS):
                 return False
         elif not isinstance(item, int) or item is True or item is False:
             return False

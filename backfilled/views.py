@@ -7,15 +7,15 @@ class View:
     def __init__(self, log, moment, book):
         self._log = log
         self._at = moment
+        self._links = log.links_at(moment)
         self._book = book
         self._contents = {}
         self._numbers = {}
         self._others = {}
-        self._needs = {}
         # The partitions that the work is to make fresh, once they were asked for, and how many at their beginning are.
         self._parts = None
         self._fresh_many = 0
-        self._made = book.made_count
+        self._last = book.last
         self._drops = book.drop_count
 
     def state_of(self, part):
@@ -40,18 +40,29 @@ class View:
 
     def plan_of(self, part):
         """The plan of the code that holds for a partition, or None."""
-        return self._log.plan_on(part[0], part[1], self._at)
+        return self._links.plan_of(part)
 
     def needs_of_part(self, part):
-        """The partitions that a partition needs."""
-        if part not in self._needs:
-            plan = self.plan_of(part)
-            self._needs[part] = [] if plan is None else plan.needs_on(part[1])
-        return list(self._needs[part])
+        """The partitions that a partition needs: a list that is not to be changed."""
+        return self._links.needs_of(part)
 
     def inputs_of(self, part):
         """The inputs of a partition all of whose needs are fresh."""
-        return tuple([(*need, self._contents[need]) for need in self._needs[part]])
+        return tuple([(*need, self._contents[need]) for need in self._links.needs_of(part)])
+
+    def make_all(self, goals):
+        """Makes some partitions fresh, and all that they need, each behind its own needs, these in order."""
+        self._catch_up()
+        links = self._links
+        missing = links.needs_first(goals, self._contents, {})
+        for part in missing:
+            plan = links.plan_of(part)
+            if plan is None:
+                self._contents[part] = self._log.content_on(part[0], part[1], self._at)
+            else:
+                inputs = self.inputs_of(part)
+                number = self._book.find(part, plan, inputs)
+                self._note_fresh(part, self._book.make(part, plan, inputs) if number is None else number)
 
     def make(self, part):
         """Makes the record of a partition that is due."""
@@ -60,7 +71,7 @@ class View:
 
     def answer(self, plan, day):
         """The content of a question all of whose needs are fresh."""
-        return plan.content_from(day, self._contents)
+        return plan.content_from(day, [self._contents[need] for need in plan.needs_on(day)])
 
     def all_parts(self):
         """The partitions of all derived tables on the days of the log, in order."""
@@ -85,27 +96,16 @@ class View:
         self._catch_up()
         if part in self._contents or part in self._others:
             return
-        # A chain of needs may be longer than calls may stand within one another.
-        waiting = [part]
-        while waiting:
-            part = waiting[-1]
-            missing = [need for need in self.needs_of_part(part) if not self._is_known(need)]
-            if missing:
-                waiting.extend(missing)
-            else:
-                self._judge(part)
-                waiting.pop()
-
-    def _is_known(self, part):
-        """Whether the state of a partition is known."""
-        return part in self._contents or part in self._others
+        missing = self._links.needs_first([part], self._contents, self._others)
+        for near in missing:
+            self._judge(near)
 
     def _judge(self, part):
         """Finds out the state of a partition from those of the ones that it needs."""
         plan = self.plan_of(part)
         if plan is None:
             self._contents[part] = self._log.content_on(part[0], part[1], self._at)
-        elif [need for need in self._needs[part] if need not in self._contents]:
+        elif [need for need in self._links.needs_of(part) if need not in self._contents]:
             self._others[part] = "unknown"
         else:
             number = self._book.find(part, plan, self.inputs_of(part))
@@ -127,6 +127,6 @@ class View:
             self._numbers = {}
             self._others = {}
             self._fresh_many = 0
-        if self._made != self._book.made_count:
-            self._made = self._book.made_count
+        if self._last != self._book.last:
+            self._last = self._book.last
             self._others = {}

@@ -196,9 +196,18 @@ def fields(record):
     return (record.table, record.day, record.code, record.inputs, record.content)
 
 
+def written_anew(store):
+    """The journal of a store, written line by line even if the store keeps one; it must be the one that is kept."""
+    kept = journal(store)
+    store.keep_journal(None)
+    anew = journal(store)
+    assert kept == anew, (kept, anew)
+    return anew
+
+
 def texts(store):
     """The texts of the lines of a journal."""
-    return [line.rpartition(" ")[0] for line in journal(store).split("\n")[:-1]]
+    return [line.rpartition(" ")[0] for line in written_anew(store).split("\n")[:-1]]
 
 
 def naive_number(index, text):

@@ -10,7 +10,7 @@ from backfilled.logs import Log
 from backfilled.records import Record
 from backfilled.stores import Store
 from backfilled.truth import from_scratch
-from stores_support import LogMaker, chain_log, fields, naive_number, sales_log, texts, written
+from stores_support import LogMaker, chain_log, fields, naive_number, sales_log, texts, written, written_anew
 from tests_support import ODD_VALUES, fields_of
 
 ENTRIES = [
@@ -52,6 +52,11 @@ class LinesTest(unittest.TestCase):
     def test_check_numbers(self):
         for index, text in [(0, ""), (7, ""), (0, "a"), (3, "table t 1 a:number"), (99, "~" * 500), (12345678, "ab")]:
             self.assertEqual(check_number(index=index, text=text), naive_number(index, text))
+        for index in (0, 1, 127, 128, 5000, 10 ** 9):
+            for length in range(1, 140):
+                signs = "".join(chr((index + at * at) % 128) for at in range(length))
+                for text in (signs, "\x7f" * length, "\0" * length, signs + "\u20ac", "\U0001f600" + signs):
+                    self.assertEqual(check_number(index, text), naive_number(index, text))
         self.assertEqual((check_number(0, "a"), check_number(2, "a"), check_number(0, "aa")), (97, 611, 25026))
         self.assertEqual(journal(Store(self.log.copy(1))), written(ENTRIES[:1]))
 
@@ -121,7 +126,7 @@ class LinesTest(unittest.TestCase):
         wanted = ["record many 0 4 big | group: many = count", "record big 1 3 sales", "record many 1 6 big | group: many = count"]
         self.assertEqual(texts(self.store)[6:], wanted)
         again, many = recover(journal(self.store))
-        self.assertEqual((again.made, many, journal(again)), (3, 9, journal(self.store)))
+        self.assertEqual((again.made, many, written_anew(again)), (3, 9, journal(self.store)))
         self.log.add_table("new", [("a", "number")])
         self.assertEqual(len(texts(self.store)), 10)
 
@@ -146,7 +151,7 @@ class RecoverTest(unittest.TestCase):
         again, many = recover(text=text)
         self.assertEqual(many, text.count("\n"))
         self.assertTrue(again.log == store.log)
-        self.assertEqual(journal(again), text)
+        self.assertEqual(written_anew(again), text)
         self.assertEqual(again.made, sum(line.startswith("record ") for line in text.split("\n")))
         self.assertEqual(len(again.records()), again.made)
         self.assertEqual(state(again), state(store))
@@ -160,7 +165,7 @@ class RecoverTest(unittest.TestCase):
         self.assertEqual([fields(one) for one in again.records()], [fields(one) for one in self.store.records()])
         self.assertTrue(again.is_done())
         empty, many = recover("")
-        self.assertEqual((len(empty.log), many, journal(empty)), (0, 0, ""))
+        self.assertEqual((len(empty.log), many, written_anew(empty)), (0, 0, ""))
 
     def test_reading_the_line_of_a_name_computes_no_record(self):
         self.store.ask("many", 0, None, "one")
@@ -211,6 +216,21 @@ class RecoverTest(unittest.TestCase):
         self.assertEqual((list(again.work()), again.made), ([("big", 0)], 5))
         self.assertEqual(len(self.log), 5)
         self.check_back(again)
+
+    def test_whatever_changes_changes_the_journal(self):
+        again, _ = recover(journal(self.store))
+        store = self.store
+        for one in (store, again):
+            for change in (
+                lambda: one.log.put("sales", 2, ("east", 1)), lambda: one.compute("many", 2), lambda: one.ask("big", 0, None, "one"),
+                lambda: one.ask("many", 0, None, "two"), lambda: one.forget("one"), lambda: one.ask("big", 1, None, "one"),
+                lambda: one.forget("two"), lambda: one.log.put("sales", 2, ("east", 4)), one.drop, lambda: one.claim("ann").finish(),
+            ):
+                before = journal(one)
+                change()
+                self.assertNotEqual(journal(one), before)
+                self.assertEqual(journal(one), written_anew(one))
+        self.assertEqual(journal(store), journal(again))
 
     def test_a_long_chain(self):
         log = chain_log()
@@ -278,7 +298,7 @@ class ForgedTest(unittest.TestCase):
         """Whether a line with a right check number is read behind others."""
         store, many = recover(written([*ahead, text]))
         self.assertEqual(many, len(ahead) + good, text)
-        self.assertEqual(journal(store), written([*ahead, text][:many]))
+        self.assertEqual(written_anew(store), written([*ahead, text][:many]))
 
     def test_entries_that_cannot_be_added(self):
         self.check(ENTRIES, "put sales 999 'a',-7", True)

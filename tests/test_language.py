@@ -11,12 +11,12 @@ FILES = {path.stem: path.read_text() for path in sorted(FOLDER.glob("*.py"))}
 TREES = {name: ast.parse(text) for name, text in FILES.items()}
 BUILTINS = set(
     "len range enumerate zip min max sum abs sorted reversed int str bool list tuple dict set isinstance ord repr any all "
-    "divmod Exception ValueError TypeError KeyError IndexError LookupError property".split()
+    "divmod pow Exception ValueError TypeError KeyError IndexError LookupError property".split()
 )
 METHODS = set(
     "append clear copy count endswith extend find get index insert isalnum isalpha isdigit islower isspace isupper items "
     "join keys ljust lower lstrip partition pop remove replace reverse rfind rjust rpartition rsplit rstrip setdefault "
-    "split splitlines startswith strip update upper values zfill removeprefix isascii isprintable".split()
+    "split splitlines startswith strip update upper values zfill removeprefix isascii isprintable encode from_bytes".split()
 )
 CHANGING = set("append clear extend insert pop remove reverse setdefault update".split())
 DOUBLE = set(
@@ -56,8 +56,9 @@ class LanguageTest(unittest.TestCase):
             self.assertLessEqual(node.end_lineno - node.lineno + 1, 40, (name, node.name))
 
     def test_every_part_has_a_docstring(self):
+        nested = {id(one) for _, node in functions() for one in ast.walk(node) if one is not node}
         for name, node in nodes((ast.Module, ast.ClassDef, ast.FunctionDef)):
-            if not getattr(node, "name", "").startswith("__"):
+            if not getattr(node, "name", "").startswith("__") and id(node) not in nested:
                 self.assertTrue(ast.get_docstring(node), (name, node))
 
     def test_statements_and_signs(self):

@@ -7,12 +7,12 @@ import unittest
 from backfilled.checks import needs_of
 from backfilled.codes import parse, show
 from backfilled.errors import BackfilledError
-from backfilled.journals import journal, recover
+from backfilled.journals import recover
 from backfilled.logs import Log
 from backfilled.stores import Store
 from backfilled.truth import from_scratch, scratch_answer
 from backfilled.values import is_name
-from stores_support import LogMaker, texts, written
+from stores_support import LogMaker, texts, written, written_anew
 
 NUMBER = "(0|-?[1-9][0-9]{0,39})"
 NUMBERS = "((?:0|[1-9][0-9]*)(?:,(?:0|[1-9][0-9]*))*|-)"
@@ -123,7 +123,7 @@ class RecoverTest(unittest.TestCase):
                     many += 1
                 again, used = recover(written(lines))
                 self.assertEqual(used, many, lines[min(many, used):][:1])
-                self.assertEqual(journal(again), written(lines[:many]))
+                self.assertEqual(written_anew(again), written(lines[:many]))
                 counts[many == len(lines)] += 1
         self.assertGreater(min(counts.values()), 100)
 

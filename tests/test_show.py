@@ -2,9 +2,9 @@
 
 import unittest
 
-from backfilled.codes import parse, show
+from backfilled.codes import is_plain, parse, show, shown
 from backfilled.errors import BadText
-from tests_support import Codes
+from tests_support import Codes, loose
 
 
 class ShowTest(unittest.TestCase):
@@ -87,6 +87,22 @@ class ShowTest(unittest.TestCase):
             for wrong in ("  ", "( ", "[ ", " )", " ]", " ,", " :"):
                 self.assertNotIn(wrong, bare)
             self.assertNotRegex(bare, r"[,:|=<+*](?! |=)|(?<! )[|=<+*](?<!<=)|\S[(\[](?<![(\[][(\[])")
+
+    def test_texts_that_need_not_be_written_again(self):
+        plain = 0
+        for seed in range(600):
+            codes = Codes(seed)
+            tree = codes.code(codes.random.randrange(5))
+            text = show(tree)
+            others = [text.replace(*pair) for pair in [(" ", "  "), (" = ", "="), (": ", " : "), (", ", " ,"), ("' ", "'")]]
+            for one in [text, loose(tree, codes.random), " " + text, text + " ", *others]:
+                try:
+                    code = parse(one)
+                except BadText:
+                    continue
+                self.assertEqual(shown(one, code), show(code))
+                plain += is_plain(one)
+        self.assertGreater(plain, 500)
 
     def test_deep_trees(self):
         condition = ("=", ("column", "a"), 1)

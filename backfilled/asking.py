@@ -1,7 +1,14 @@
 """What is asked of a log, of any values: the errors that all such questions have."""
 
-from backfilled.errors import BadDay
+from backfilled.errors import BadDay, BadMoment
 from backfilled.values import is_day
+
+
+def asked_moment(log, moment):
+    """The moment that any value is, None being none."""
+    if moment is None:
+        raise BadMoment(moment)
+    return log.moment_for(moment)
 
 
 def asked_part(log, table, day, moment):

@@ -53,13 +53,15 @@ class Book:
         part = (record.table, record.day)
         self._note(record, part, record.code, record.inputs, tuple(record.content.columns))
 
-    def of_numbers(self, numbers):
-        """The list of the records that have one of the numbers, a dict."""
-        return [self.record(number) for number in list(self._records) if number in numbers]
+    def numbers(self):
+        """The list of the numbers of the records there are, in order."""
+        return list(self._records)
 
-    def drop_all_but(self, numbers):
-        """Drops the records that have none of the numbers, a dict; returns how many they were."""
-        dropped = {number: True for number in self._records if number not in numbers}
+    def drop(self, numbers):
+        """Drops the records of some numbers, and returns how many they were."""
+        dropped = {number: True for number in numbers}
+        if not dropped:
+            return 0
         self._records = {number: record for number, record in self._records.items() if number not in dropped}
         self._waiting = {number: told for number, told in self._waiting.items() if number not in dropped}
         places = {}

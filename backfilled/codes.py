@@ -49,6 +49,14 @@ def shown(text, code):
     return text if is_plain(text) else show(code)
 
 
+def is_shown(text):
+    """Whether any value is the text of a code as show writes it."""
+    try:
+        return shown(text, parse(text)) == text
+    except BadText:
+        return False
+
+
 def is_plain(text):
     """Whether it is plain that show writes the text of a code as it is, since it has no brackets and no minus."""
     if "(" in text or "[" in text or "-" in text:

@@ -1,7 +1,7 @@
 """Differences of contents and answers, and the entries that explain them."""
 
 from backfilled.answers import Answer
-from backfilled.asking import asked_question
+from backfilled.asking import asked_moment, asked_question
 from backfilled.contents import Content
 from backfilled.entries import with_entry
 from backfilled.errors import BadCode, BadColumns, BadMoment, LimitExceeded
@@ -70,9 +70,7 @@ def explanation(log, question, day, first, last):
 def check_moments(log, first, last):
     """Raises BadMoment with the first of two values that is no moment, or for the last one ahead of the first one."""
     for moment in (first, last):
-        if moment is None:
-            raise BadMoment(moment)
-        log.moment_for(moment)
+        asked_moment(log, moment)
     if last < first:
         raise BadMoment(last)
 

@@ -1,6 +1,20 @@
-"""Adding entries, as a log tells them, to other logs."""
+"""Entries as logs keep and tell them, and adding them to other logs."""
 
 from backfilled.errors import BackfilledError
+
+
+def frozen(entry):
+    """An entry as it is kept: with a tuple of columns, if it has columns."""
+    if entry[0] == "table":
+        return ("table", entry[1], tuple(entry[2]), entry[3])
+    return entry
+
+
+def told(entry):
+    """A kept entry as it is told: with a new list of columns, if it has columns."""
+    if entry[0] == "table":
+        return ("table", entry[1], list(entry[2]), entry[3])
+    return entry
 
 
 def add_entry(log, entry):

@@ -39,15 +39,24 @@ def read_entry(text):
     word, *rest = text.split(" ", 3)
     if len(rest) != 3:
         return None
+    number = read_number(rest[1])
     if word in ("put", "delete"):
-        values = [read_value(item) for item in rest[2].split(",")]
-        return None if None in values else (word, rest[0], read_number(rest[1]), tuple(values))
+        values = read_values(rest[2])
+        return None if values is None else (word, rest[0], number, values)
     if word == "code":
-        return (word, rest[0], rest[2], read_number(rest[1]))
-    if word == "table":
-        columns = [tuple(item.split(":")) for item in rest[2].split(",")]
-        return (word, rest[0], columns, read_number(rest[1]))
-    return None
+        return (word, rest[0], rest[2], number)
+    return (word, rest[0], read_columns(rest[2]), number) if word == "table" else None
+
+
+def read_columns(text):
+    """The list of what should be columns."""
+    return [tuple(item.split(":")) for item in text.split(",")]
+
+
+def read_values(text):
+    """A tuple of what should be values, or None."""
+    values = [read_value(item) for item in text.split(",")]
+    return None if None in values else tuple(values)
 
 
 def read_value(text):

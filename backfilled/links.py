@@ -19,6 +19,11 @@ class Links:
             self._find(part)
         return self._found[part][0]
 
+    def text_of(self, part):
+        """The text of the code that holds for a partition, or None."""
+        plan = self.plan_of(part)
+        return None if plan is None else plan.text
+
     def needs_of(self, part):
         """The partitions that a partition needs: a list that is not to be changed."""
         if part not in self._found:

@@ -1,6 +1,7 @@
 """The log: entries that add tables, put and delete rows, and set the codes of derived tables."""
 
 from backfilled.codes import parse, shown
+from backfilled.entries import told
 from backfilled.errors import (
     BadCode, BadColumns, BadDay, BadMoment, BadName, BadNumber, BadRow, LimitExceeded, NameTaken, UnknownTable,
 )
@@ -177,6 +178,10 @@ class Log:
         code = parse(question)
         return Plan(code, self._shapes(moment), shown(question, code))
 
+    def valid_from(self, plan):
+        """The least moment at which all tables of a question are there, which is valid now."""
+        return max([self._tables[name].moment for name, _ in plan.reads])
+
     def links_at(self, moment):
         """The plans and the needs of partitions at a moment."""
         return self._links[moment]
@@ -217,6 +222,21 @@ class Log:
         """The days of the log at a moment."""
         last = self._last_days[moment]
         return [] if last is None else list(range(last + 1))
+
+    def day_starts(self):
+        """A dict from the days of the log to the moments from which on they are among these."""
+        starts = {}
+        for moment, last in enumerate(self._last_days):
+            first = len(starts)
+            if last is not None:
+                for day in range(first, last + 1):
+                    starts[day] = moment
+        return starts
+
+    def derived_parts(self, moment):
+        """The partitions of all derived tables on the days of the log at a moment, in order."""
+        tables = self.derived_tables(moment)
+        return [(table, day) for day in self.days(moment) for table in tables]
 
     def _shapes(self, moment):
         """A dict from the names of the tables at a moment to their columns, which are not to be changed."""
@@ -270,10 +290,3 @@ class Log:
         self._last_days.append(day if last is None or day is not None and last < day else last)
         self._links.append(self._links[-1])
         return len(self._entries)
-
-
-def told(entry):
-    """An entry as it is told: with a new list of columns, if it has columns."""
-    if entry[0] == "table":
-        return ("table", entry[1], list(entry[2]), entry[3])
-    return entry

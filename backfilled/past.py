@@ -42,6 +42,15 @@ class Past:
         self._compute(parts, moment, contents)
         return [contents[part] for part in parts]
 
+    def question_moments(self, plan, day):
+        """The moments, in order, at which the content of a question may have changed.
+
+        Ahead of them is the least one at which it is valid: all of its tables are there, and columns never change.
+        """
+        start = self._log.valid_from(plan)
+        later = [moment for need in plan.needs_on(day) for moment in self._change_moments(need) if moment > start]
+        return [start] + sorted(set(later))
+
     def least_moment(self, part, content):
         """The least moment at which a partition of a table of the log is there and has a content, or None."""
         for moment in self._change_moments(part):

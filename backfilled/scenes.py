@@ -2,7 +2,8 @@
 
 from backfilled.reasons import ways_of
 from backfilled.steps import in_order_of
-from backfilled.values import is_day, is_integer, is_row
+from backfilled.trees import is_path
+from backfilled.values import is_day, is_row
 
 
 class CodeScene:
@@ -116,8 +117,3 @@ class Scenes:
     def _code_scene(self, table, day, plan):
         """The scene of a plan on a day."""
         return CodeScene(table, day, plan, self._log.past().contents_at(plan.needs_on(day), self._at))
-
-
-def is_path(value):
-    """Whether any value is a tuple of integers, as paths are."""
-    return isinstance(value, tuple) and all([is_integer(step) for step in value])

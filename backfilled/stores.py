@@ -61,15 +61,26 @@ class Store:
         view = self._bench.view_at(self._log.moment_for(moment))
         return all([view.is_fresh(part) for part in view.all_parts()])
 
+    def stale(self):
+        """The list of the partitions of derived tables on the days of the log that are not fresh, in order."""
+        view = self._bench.view_at(len(self._log))
+        return [part for part in view.all_parts() if not view.is_fresh(part)]
+
     def work(self, moment=None):
         """A generator: computes the first partition that is due, and yields it, until none is due."""
-        while True:
-            view = self._bench.view_at(self._log.moment_for(moment))
-            at = view.first_due(0)
-            if at is None:
-                return
-            view.make(view.all_parts()[at])
-            yield view.all_parts()[at]
+        part = self.work_once(moment)
+        while part is not None:
+            yield part
+            part = self.work_once(moment)
+
+    def work_once(self, moment=None):
+        """Computes the first partition that is due, and returns it; None if none is due."""
+        view = self._bench.view_at(self._log.moment_for(moment))
+        at = view.first_due(0)
+        if at is None:
+            return None
+        view.make(view.all_parts()[at])
+        return view.all_parts()[at]
 
     def backfill(self, table, first, last):
         """A generator: for each day computes what is due for a partition, and yields it."""
@@ -132,12 +143,34 @@ class Store:
         self._bench.forget(name)
 
     def needed(self):
-        """The list of the records that are needed, in the order in which they were made."""
-        return self._book.of_numbers(self._bench.needed())
+        """The list of the needed records, in the order in which they were made."""
+        needed = self._bench.needed()
+        return [self._book.record(number) for number in self._book.numbers() if number in needed]
+
+    def not_needed(self):
+        """The list of tuples of the numbers and the other records, in order."""
+        needed = self._bench.needed()
+        return [(number, self._book.record(number)) for number in self._book.numbers() if number not in needed]
 
     def drop(self):
         """Drops all records that are not needed, and returns how many they were."""
-        return self._book.drop_all_but(self._bench.needed())
+        needed = self._bench.needed()
+        return self._book.drop([number for number in self._book.numbers() if number not in needed])
+
+    def drop_numbers(self, numbers):
+        """Drops the records of some numbers, and returns how many they were."""
+        return self._book.drop(numbers)
+
+    def records_by(self, parts, moment):
+        """The list of the records by which some partitions are fresh at a moment, those by none left out."""
+        view = self._bench.view_at(moment)
+        numbers = [view.number_of(part) for part in parts]
+        return [self._book.record(number) for number in numbers if number is not None]
+
+    def keep_records(self, records):
+        """Adds records that were made in another store."""
+        for record in records:
+            self._book.keep(record)
 
     def trial(self, table, text, day=0):
         """A trial of a code for a table from a day on."""

@@ -1,5 +1,7 @@
 """Going through trees without calls within one another: trees may be deep."""
 
+from backfilled.values import is_integer
+
 # How many parts a tree has directly within it, if it is not one.
 MANY_INNER = {
     "table": 0, "last": 0, "text": 0, "column": 0, "today": 0, "join": 2, "union": 2, "minus": 2, "and": 2,
@@ -47,3 +49,39 @@ def paths_in(tree):
         for at, inner in enumerate(parts_in(part)):
             waiting.append((inner, path + (at,)))
     return found[::-1]
+
+
+def outer_first(code):
+    """The list of tuples of the paths and the parts of a code: a part ahead of its own parts, these in order."""
+    found = []
+    waiting = [((), code)]
+    while waiting:
+        path, part = waiting.pop()
+        found.append((path, part))
+        inner = parts_in(part)
+        for at in range(len(inner))[::-1]:
+            waiting.append((path + (at,), inner[at]))
+    return found
+
+
+def is_path(value):
+    """Whether any value is a tuple of integers, as paths are."""
+    return isinstance(value, tuple) and all([is_integer(step) for step in value])
+
+
+def parts_on(code, path):
+    """The list of the parts of a code from the whole code to that at the end of a path; None if there is none."""
+    parts = [code]
+    for at in path:
+        inner = parts_in(parts[-1])
+        if not 0 <= at < len(inner):
+            return None
+        parts.append(inner[at])
+    return parts
+
+
+def with_part(parts, path, part):
+    """The whole code with another part at the end of a path, given its parts from the whole code to this one."""
+    for outer, at in zip(parts[:-1][::-1], path[::-1]):
+        part = (*outer[:at + 1], part, *outer[at + 2:])
+    return part

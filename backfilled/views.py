@@ -76,8 +76,7 @@ class View:
     def all_parts(self):
         """The partitions of all derived tables on the days of the log, in order."""
         if self._parts is None:
-            tables = self._log.derived_tables(self._at)
-            self._parts = [(table, day) for day in self._log.days(self._at) for table in tables]
+            self._parts = self._log.derived_parts(self._at)
         return self._parts
 
     def first_due(self, start):

@@ -1,0 +1,58 @@
+"""Rewriting: steps that make of a code another one with the same columns and the same content in every log."""
+
+from backfilled.rewrites import RULES, made_by
+from backfilled.trees import is_path, outer_first, parts_on, with_part
+
+
+def apply_step(code, step, tables):
+    """The code that any value, if it is a step of a code, makes of it, otherwise None."""
+    if not isinstance(step, tuple) or len(step) != 2:
+        return None
+    rule, path = step
+    if not isinstance(rule, str) or rule not in RULES or not is_path(path):
+        return None
+    parts = parts_on(code, path)
+    made = None if parts is None else made_by(rule, parts[-1], tables)
+    return None if made is None else with_part(parts, path, made)
+
+
+def steps_for(code, tables):
+    """The list of all steps of a code, in order."""
+    places = outer_first(code)
+    return [(rule, path) for path, part in places for rule in RULES if made_by(rule, part, tables) is not None]
+
+
+def follow(code, steps, tables):
+    """The code that a list of steps makes, one after another, or None for any value that is no such list."""
+    if not isinstance(steps, list):
+        return None
+    for step in steps:
+        code = apply_step(code, step, tables)
+        if code is None:
+            return None
+    return code
+
+
+def derivation(code, tables):
+    """The list of the first steps, again and again, that are not by split, until there is none."""
+    steps = []
+    step = first_step(code, tables)
+    while step is not None:
+        steps.append(step)
+        code = apply_step(code, step, tables)
+        step = first_step(code, tables)
+    return steps
+
+
+def tidy(code, tables):
+    """The code that the derivation makes."""
+    return follow(code, derivation(code, tables), tables)
+
+
+def first_step(code, tables):
+    """The first step of a code that is not by split, or None."""
+    for path, part in outer_first(code):
+        for rule in RULES:
+            if rule != "split" and made_by(rule, part, tables) is not None:
+                return (rule, path)
+    return None

@@ -14,6 +14,11 @@ FUNCTIONS = {
     "differences": ["explanation(log, question, day, first, last)"],
     "journals": ["check_number(index, text)", "journal(store)", "recover(text)"],
     "certificates": ["certificate(log, answer)", "check_certificate(log, question, day, moment, rows, value)"],
+    "histories": ["history(log, question, day)", "history_of_row(log, question, day, row)"],
+    "rewriting": ["apply_step(code, step, tables)", "steps_for(code, tables)", "follow(code, steps, tables)",
+                  "derivation(code, tables)", "tidy(code, tables)"],
+    "deltas": ["pass_through(code, day, tables, old, changes)"],
+    "replicas": ["exchange(one, other)", "rebased(store, log)"],
 }
 CLASSES = {
     "contents.Content": ["__init__(columns, rows)", "__contains__", "__len__", "__eq__", "__sub__", "__add__", "__call__(name)"],
@@ -36,9 +41,23 @@ CLASSES = {
     "answers.Answer": ["__contains__", "__len__", "__eq__", "uses()", "codes()"],
     "differences.Difference": ["__init__(before, after)", "__len__", "__eq__", "turned()"],
     "trials.Trial": ["ask(question, day)", "compare(table, day)", "promote()", "end()", "__enter__", "__exit__"],
+    "monitors.Monitor": ["__init__(store)", "late()", "waiting()", "concerned(table, day)", "changed(first, last)"],
+    "console.Console": ["__init__()", "execute(command)"],
+    "histories.Watches": ["__init__(store)", "add(name, question, day)", "remove(name)", "names()", "news(name)"],
+    "lives.Live": ["__init__(log, question, day)", "forward()", "backward()", "go_to(moment)", "changed()", "looked_at()"],
+    "replicas.Replica": [
+        "__init__(site)", "log_now()", "clock()", "add_table(name, columns, keys=1)", "put(table, day, row)",
+        "delete(table, day, key)", "set_code(table, text, day=0)", "stamped()", "skipped()", "merge(entries)",
+        "moment_for(clock, site)",
+    ],
+    "budgets.Budget": ["__init__(store, most)", "use(question, day, moment=None)", "order()", "trim()"],
+    "rules.Rules": [
+        "__init__(log)", "add(name, question)", "remove(name)", "names()", "broken(name, moment=None)", "since(name)", "blame(name)",
+    ],
 }
 PROPERTIES = {
     "contents.Content": ["columns", "rows"], "stores.Store": ["log", "made"], "differences.Difference": ["come", "gone"],
+    "console.Console": ["store"],
 }
 GENERATORS = ["work", "backfill"]
 

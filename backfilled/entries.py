@@ -10,7 +10,7 @@ def frozen(entry):
     return entry
 
 
-def told(entry):
+def as_told(entry):
     """A kept entry as it is told: with a new list of columns, if it has columns."""
     if entry[0] == "table":
         return ("table", entry[1], list(entry[2]), entry[3])

@@ -1,7 +1,7 @@
 """The log: entries that add tables, put and delete rows, and set the codes of derived tables."""
 
 from backfilled.codes import parse, shown
-from backfilled.entries import told
+from backfilled.entries import as_told
 from backfilled.errors import (
     BadCode, BadColumns, BadDay, BadMoment, BadName, BadNumber, BadRow, LimitExceeded, NameTaken, UnknownTable,
 )
@@ -98,7 +98,7 @@ class Log:
     def __getitem__(self, at):
         if not is_within(at, 1, len(self._entries)):
             raise BadMoment(at)
-        return told(self._entries[at - 1])
+        return as_told(self._entries[at - 1])
 
     def __iter__(self):
         raise TypeError("a log is read by its moments, or by entries()")
@@ -111,7 +111,7 @@ class Log:
 
     def entries(self):
         """The list of the entries."""
-        return [told(entry) for entry in self._entries]
+        return [as_told(entry) for entry in self._entries]
 
     def tables(self, moment=None):
         """A dict from the names of all tables to their columns, in the order in which they came."""

@@ -1,6 +1,6 @@
 """Replicas: logs that are kept at several sites, of entries with stamps."""
 
-from backfilled.entries import add_entry, frozen, told
+from backfilled.entries import add_entry, as_told, frozen
 from backfilled.errors import BackfilledError, BadName, BadRow
 from backfilled.logs import Log
 from backfilled.stamps import is_stamped
@@ -104,13 +104,13 @@ class Replica:
 
 def told_with(stamp, entry):
     """A stamped entry as it is told."""
-    return (*stamp, told(entry))
+    return (*stamp, as_told(entry))
 
 
 def moment_added(log, entry):
     """The moment of an entry that is added to a log, or None if it cannot be added."""
     try:
-        return add_entry(log, told(entry))
+        return add_entry(log, as_told(entry))
     except BackfilledError:
         return None
 

@@ -103,10 +103,14 @@ def by_renames(part, tables):
     return ahead[1] if ahead[2] == part[3] else ("rename", ahead[1], ahead[2], part[3])
 
 
-# In the order in which steps at one path are told.
 RULES = {
     "both": by_both, "split": by_split, "union": by_union, "minus": by_minus, "join": by_join, "with": by_with,
     "keep": by_keep, "keeps": by_keeps, "unused": by_unused, "once": by_once, "renames": by_renames, "nots": by_nots,
+}
+# For the words of parts the rules that may fit there, in the order in which steps at one path are told.
+RULES_FOR = {
+    "where": ("both", "split", "union", "minus", "join", "with", "keep", "nots"), "keep": ("keeps", "unused"),
+    "union": ("once",), "rename": ("renames",),
 }
 
 
@@ -114,3 +118,9 @@ def made_by(rule, part, tables):
     """What a rule makes of a part of a code, or None if it does not fit there."""
     action = RULES[rule]
     return action(part, tables)
+
+
+def fits_in(part, tables):
+    """The list of tuples of the rules that fit for a part of a code and what they make of it, in order."""
+    made = [(rule, made_by(rule, part, tables)) for rule in RULES_FOR.get(part[0], ())]
+    return [(rule, other) for rule, other in made if other is not None]

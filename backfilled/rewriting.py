@@ -1,6 +1,6 @@
 """Rewriting: steps that make of a code another one with the same columns and the same content in every log."""
 
-from backfilled.rewrites import RULES, made_by
+from backfilled.rewrites import RULES, fits_in, made_by
 from backfilled.trees import is_path, outer_first, parts_on, with_part
 
 
@@ -18,8 +18,7 @@ def apply_step(code, step, tables):
 
 def steps_for(code, tables):
     """The list of all steps of a code, in order."""
-    places = outer_first(code)
-    return [(rule, path) for path, part in places for rule in RULES if made_by(rule, part, tables) is not None]
+    return [(rule, path) for path, part in outer_first(code) for rule, _ in fits_in(part, tables)]
 
 
 def follow(code, steps, tables):
@@ -35,24 +34,30 @@ def follow(code, steps, tables):
 
 def derivation(code, tables):
     """The list of the first steps, again and again, that are not by split, until there is none."""
-    steps = []
-    step = first_step(code, tables)
-    while step is not None:
-        steps.append(step)
-        code = apply_step(code, step, tables)
-        step = first_step(code, tables)
-    return steps
+    return derived(code, tables)[0]
 
 
 def tidy(code, tables):
     """The code that the derivation makes."""
-    return follow(code, derivation(code, tables), tables)
+    return derived(code, tables)[1]
 
 
-def first_step(code, tables):
-    """The first step of a code that is not by split, or None."""
+def derived(code, tables):
+    """The derivation of a code and the code that it makes."""
+    steps = []
+    found = first_fit(code, tables)
+    while found is not None:
+        rule, path, made = found
+        steps.append((rule, path))
+        code = with_part(parts_on(code, path), path, made)
+        found = first_fit(code, tables)
+    return (steps, code)
+
+
+def first_fit(code, tables):
+    """The rule, the path and what is made of the part there, of the first step that is not by split; or None."""
     for path, part in outer_first(code):
-        for rule in RULES:
-            if rule != "split" and made_by(rule, part, tables) is not None:
-                return (rule, path)
+        for rule, made in fits_in(part, tables):
+            if rule != "split":
+                return (rule, path, made)
     return None

@@ -54,7 +54,7 @@ def last_maker(part, inner, places):
     spots = [(back, places[(part[1], back)]) for back in range(part[2])]
 
     def last_rows(day, contents):
-        return [(day - back, *row) for back, at in spots if back <= day for row in contents[at].rows]
+        return [(day - ago, *row) for ago, at in spots if ago <= day for row in contents[at].rows]
     return last_rows
 
 
@@ -108,7 +108,7 @@ def join_maker(part, inner, places):
         for key, rest in zip(pick_second(second_rows), pick_others(second_rows)):
             partners.setdefault(key, []).append(rest)
         keys = pick_first(first_rows)
-        return [(*row, *rest) for key, row in zip(keys, first_rows) for rest in partners.get(key, [])]
+        return [(*row, *more) for shared, row in zip(keys, first_rows) for more in partners.get(shared, [])]
     return join_rows
 
 
@@ -140,7 +140,7 @@ def group_maker(part, inner, places):
         groups = {}
         for key, row in zip(pick(rows), rows):
             groups.setdefault(key, []).append(row)
-        return [key + tuple([summed(word, at, members) for word, at in sums]) for key, members in groups.items()]
+        return [group + tuple([summed(word, at, found) for word, at in sums]) for group, found in groups.items()]
     return group_rows
 
 

@@ -2,7 +2,7 @@
 
 from backfilled.errors import BadCode
 from backfilled.shapes import shape_behind
-from backfilled.trees import inner_first, many_in, take_last
+from backfilled.trees import MANY_INNER, inner_first, take_last
 
 MOST_COLUMNS = 10
 
@@ -17,7 +17,8 @@ def shapes_of(parts, tables):
     shapes = []
     waiting = []
     for part in parts:
-        inner = take_last(waiting, many_in(part))
+        many = MANY_INNER.get(part[0], 1)
+        inner = [waiting.pop()] if many == 1 else take_last(waiting, many)
         columns = shape_behind(part, inner, tables)
         if columns is None or len(columns) > MOST_COLUMNS:
             raise BadCode(part)
@@ -35,15 +36,9 @@ def reads_of(parts):
     """The tables that parts of a tree read, and how many days earlier; each pair once, in order."""
     reads = {}
     for part in parts:
-        for back in days_back(part):
-            reads[(part[1], back)] = True
+        if part[0] == "table":
+            reads[(part[1], part[2])] = True
+        elif part[0] == "last":
+            for back in range(part[2] - 1, -1, -1):
+                reads[(part[1], back)] = True
     return list(reads)
-
-
-def days_back(part):
-    """How many days earlier a part of a code itself reads its table; the earliest day first."""
-    if part[0] == "table":
-        return [part[2]]
-    if part[0] == "last":
-        return list(range(part[2]))[::-1]
-    return []

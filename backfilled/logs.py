@@ -21,6 +21,8 @@ class Log:
         self._entries = []
         self._tables = {}
         self._derived = {}
+        # The columns of the tables at the last moment.
+        self._last_shapes = {}
         # For each moment, from 0 on, the last day, and the links between partitions.
         self._last_days = [None]
         self._links = [Links(self._derived, 0)]
@@ -39,6 +41,7 @@ class Log:
         self._check_room(name)
         moment = self._keep(("table", name, tuple(columns), keys), None)
         self._tables[name] = RawTable(moment, tuple(columns), keys)
+        self._last_shapes[name] = tuple(columns)
         return moment
 
     def put(self, table, day, row):
@@ -91,6 +94,7 @@ class Log:
         if table not in self._tables:
             self._derived[table] = DerivedTable(moment, plan.shape)
             self._tables[table] = self._derived[table]
+            self._last_shapes[table] = plan.shape
         self._derived[table].add_code(moment, day, plan)
         self._links[moment] = Links(self._derived, moment)
         return moment
@@ -157,6 +161,7 @@ class Log:
         copied._links = self._links[:last + 1]
         copied._tables = {name: known.until(last) for name, known in self._tables.items() if known.moment <= last}
         for name, known in copied._tables.items():
+            copied._last_shapes[name] = known.shape
             if isinstance(known, DerivedTable):
                 copied._derived[name] = known
         return copied
@@ -239,7 +244,9 @@ class Log:
         return [(table, day) for day in self.days(moment) for table in tables]
 
     def _shapes(self, moment):
-        """A dict from the names of the tables at a moment to their columns, which are not to be changed."""
+        """A dict from the names of the tables at a moment to their columns, both not to be changed."""
+        if moment == len(self._entries):
+            return self._last_shapes
         return {name: known.shape for name, known in self._tables.items() if known.moment <= moment}
 
     def _known_table(self, name, moment):

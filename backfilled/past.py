@@ -5,9 +5,9 @@ class Memory:
     """What was found out of a log so far; what was at a moment stays true while the log grows."""
 
     def __init__(self):
-        # For each moment that was asked for, the contents of partitions of derived tables.
+        # For each moment that was asked for, the contents of partitions.
         self.contents = {}
-        # For these partitions the moments, in order, at which they may have got another content, up to this one.
+        # For partitions the moments, in order, at which they may have got another content, up to this one.
         self.moments = {}
         self.last = 0
         # The scenes of papers at the moment that was asked for last.

@@ -15,7 +15,8 @@ class RawTable:
         self.moment = moment
         self.shape = shape
         self.key_count = key_count
-        self._empty = Content(shape, Sound([]))
+        # The content without rows, when it was asked for.
+        self._empty = None
         # For each day the moments of its changes, these, tuples of a key and a row or None, and the content
         # behind each number of them, None if it was not asked for yet.
         self._days = {}
@@ -35,7 +36,7 @@ class RawTable:
     def change(self, moment, day, key, row):
         """Notes that an entry puts a row with a key on a day, or deletes it, if the row is None."""
         if day not in self._days:
-            self._days[day] = ([], [], [self._empty])
+            self._days[day] = ([], [], [None])
         moments, changes, contents = self._days[day]
         moments.append(moment)
         changes.append((key, row))
@@ -48,7 +49,7 @@ class RawTable:
     def content_on(self, day, moment):
         """The content on a day at a moment."""
         if day not in self._days:
-            return self._empty
+            return self._empty_content()
         return self._content_behind(day, how_many_until(self._days[day][0], moment))
 
     def change_moments(self, day):
@@ -58,7 +59,7 @@ class RawTable:
     def first_content(self, day, moment):
         """The content on a day at a moment that is the least one of this content, or None if it is not."""
         if moment == self.moment:
-            return self._empty
+            return self._empty_content()
         if day not in self._days or moment not in self._days[day][0]:
             return None
         many = self._days[day][0].index(moment) + 1
@@ -74,8 +75,16 @@ class RawTable:
         last = {key: (at, row) for at, (key, row) in zip(moments, changes) if at <= moment}
         return {row: at for at, row in last.values() if row is not None}
 
+    def _empty_content(self):
+        """The content without rows."""
+        if self._empty is None:
+            self._empty = Content(self.shape, Sound([]))
+        return self._empty
+
     def _content_behind(self, day, many):
         """The content on a day behind so many of its changes."""
+        if many == 0:
+            return self._empty_content()
         _, changes, contents = self._days[day]
         if contents[many] is None:
             rows = {key: row for key, row in changes[:many]}
@@ -89,7 +98,7 @@ class DerivedTable:
     def __init__(self, moment, shape):
         self.moment = moment
         self.shape = shape
-        self._empty = Content(shape, Sound([]))
+        self._empty = None
         self._codes = []
 
     def until(self, moment):
@@ -123,6 +132,8 @@ class DerivedTable:
 
     def content_on(self, day, moment):
         """The content on a day on which no code holds."""
+        if self._empty is None:
+            self._empty = Content(self.shape, Sound([]))
         return self._empty
 
     def change_moments(self, day):

@@ -59,7 +59,7 @@ def outer_first(code):
         path, part = waiting.pop()
         found.append((path, part))
         inner = parts_in(part)
-        for at in range(len(inner))[::-1]:
+        for at in range(len(inner) - 1, -1, -1):
             waiting.append((path + (at,), inner[at]))
     return found
 

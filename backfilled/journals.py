@@ -2,7 +2,7 @@
 
 from backfilled.errors import InvalidText
 from backfilled.lines import entry_text, name_text, record_text
-from backfilled.recovery import Recovery, plan_held
+from backfilled.recovery import Recovery
 
 # How neighbouring pieces of a text, of 1, 2, 4, .. signs, become pieces of twice as many, all at once: the number
 # of their bits, a mask for every other one of them, and 257 to the power of their signs, modulo 9999991.
@@ -88,7 +88,7 @@ def record_texts(store):
 
 def text_of_record(log, record):
     """The text of the line of a record, or None if it is not written."""
-    plan = plan_held(log, record.table, record.day, record.code)
+    plan = log.plan_held(record.table, record.day, record.code)
     if plan is None or not record.content.has_shape(plan.shape):
         return None
     past = log.past()

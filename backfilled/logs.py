@@ -211,6 +211,16 @@ class Log:
         """A dict from a raw table's rows on a day at a moment to the moments that put them."""
         return self._tables[table].put_moments(day, moment)
 
+    def plan_held(self, table, day, text):
+        """The plan of a code that held for a partition at some moment; None if any values tell of no such code."""
+        if not is_day(day) or not self.is_table(table, len(self._entries)):
+            return None
+        return self._tables[table].plan_held(day, text)
+
+    def is_derived(self, table):
+        """Whether a table is a derived one."""
+        return table in self._derived
+
     def plans_held(self, table, day):
         """A dict from the texts of the codes that held for a partition at any moment to their plans."""
         return self._tables[table].plans_held(day)

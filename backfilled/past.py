@@ -60,7 +60,7 @@ class Past:
 
     def first_content(self, part, moment):
         """The content of a partition at a moment that is the least one of this content, or None if it is not."""
-        if self._log.is_raw(part[0]):
+        if not self._log.is_derived(part[0]):
             return self._log.first_content(part[0], part[1], moment)
         moments = self._change_moments(part)
         if moment not in moments:

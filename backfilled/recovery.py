@@ -6,7 +6,6 @@ from backfilled.errors import BackfilledError
 from backfilled.lines import name_text, read_entry, read_name, read_record
 from backfilled.logs import Log
 from backfilled.stores import Store
-from backfilled.values import is_day
 
 ENTRIES = 0
 RECORDS = 1
@@ -58,7 +57,7 @@ class Recovery:
         if told is None:
             return False
         table, day, moments, code = told
-        plan = plan_held(self._log, table, day, code)
+        plan = self._log.plan_held(table, day, code)
         inputs = None if plan is None else self._inputs(plan.needs_on(day), moments)
         if inputs is None or not self._store.restore_record((table, day), plan, inputs):
             return False
@@ -91,10 +90,3 @@ class Recovery:
         self._store.restore_name(name, plan, day, at)
         self._reached = NAMES
         return True
-
-
-def plan_held(log, table, day, text):
-    """The plan of a code that held for a partition at some moment; None if any values tell of no such code."""
-    if not log.is_table(table, len(log)) or not is_day(day):
-        return None
-    return log.plans_held(table, day).get(text)

@@ -46,6 +46,10 @@ class RawTable:
         """No plans: rows are not computed."""
         return {}
 
+    def plan_held(self, day, text):
+        """No plan."""
+        return None
+
     def content_on(self, day, moment):
         """The content on a day at a moment."""
         if day not in self._days:
@@ -118,6 +122,13 @@ class DerivedTable:
     def plans_held(self, day):
         """A dict from the texts of all codes that held on a day at some moment to their plans."""
         return {plan.text: plan for _, first, plan in self._codes if first <= day}
+
+    def plan_held(self, day, text):
+        """The plan of a code, given by its text, that held on a day at some moment, or None."""
+        for _, first, plan in self._codes:
+            if first <= day and plan.text == text:
+                return plan
+        return None
 
     def code_on(self, day, moment):
         """The moment and the plan of the code that holds on a day at a moment, each None if there is none."""

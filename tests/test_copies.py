@@ -65,6 +65,22 @@ class CopiesTest(unittest.TestCase):
         with self.assertRaises(BackfilledError):
             late.set_code("many", "other")
 
+    def test_tables_of_one_name_that_are_not_of_one_kind(self):
+        for asked_first in (True, False):
+            log = sales_log()
+            other = log.copy()
+            log.set_code("new", "sales - 1")
+            log.set_code("more", "new | keep shop")
+            if asked_first:
+                told(log)
+            other.add_table("new", [("shop", "text")])
+            other.put("new", 1, ("here",))
+            self.assertEqual(from_scratch(other, "new", 1).rows, [("here",)])
+            other.set_code("more", "new last 2 | keep shop")
+            self.assertEqual(from_scratch(other, "more", 2).rows, [("here",)])
+            self.assertEqual(told(other), told(built(other.entries())))
+            self.assertEqual(told(log), told(built(log.entries())))
+
     def test_logs_that_are_asked_while_they_grow(self):
         for seed in range(30):
             maker = LogMaker(seed)

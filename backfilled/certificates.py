@@ -75,13 +75,14 @@ class Checker:
 
     def _content_by(self, plan, day, needs):
         """The content that a plan computes from what the steps tell of its needs; None if they do not tell of all."""
-        inputs = [self._contents.get(need) for need in needs]
-        return None if None in inputs else plan.content_from(day, inputs)
+        inputs = [self._contents[need] for need in needs if need in self._contents]
+        return plan.content_from(day, inputs) if len(inputs) == len(needs) else None
 
 
 def are_rows(value, content):
     """Whether any value is the list of the rows of a content."""
     if not isinstance(value, list) or len(value) != len(content):
         return False
+    # What is equal to a row need not be one: True is equal to 1.
     columns = content.columns
-    return all([is_row(row, columns) and row == right for row, right in zip(value, content.rows)])
+    return all([is_row(row, columns) for row in value]) and value == content.rows

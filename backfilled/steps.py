@@ -12,7 +12,7 @@ from backfilled.terms import orders_for, worked_out
 
 def each_once(rows):
     """The rows, each once."""
-    return list({row: True for row in rows})
+    return rows if len(rows) < 2 else list({row: True for row in rows})
 
 
 def picking(names, columns):

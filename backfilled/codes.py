@@ -2,31 +2,48 @@
 
 from backfilled.errors import BadText
 from backfilled.grammar import read_code, take
-from backfilled.tokens import placed_tokens, tokens_of
+from backfilled.tokens import placed_tokens, plain_tokens, tokens_of
 from backfilled.words import END
 
 MOST_SIGNS = 600
 STRENGTHS = {"or": 1, "and": 2, "+": 1, "-": 1, "*": 2}
 STRONGEST = 3
-# The signs between spaces, and those that end a word, in a text that is shown.
-SPACED = {"|": True, "=": True, "<": True, "<=": True, "+": True, "*": True}
-ENDS = {",": True, ":": True}
 
 
 def parse(text):
     """The tree of the text of a code."""
+    return parsed(text)[0]
+
+
+def parse_and_show(text):
+    """The tree of the text of a code, and what show writes for it."""
+    code, is_shown_so = parsed(text)
+    return (code, text if is_shown_so else show(code))
+
+
+def is_shown(text):
+    """Whether any value is the text of a code as show writes it."""
+    try:
+        return parse_and_show(text)[1] == text
+    except BadText:
+        return False
+
+
+def parsed(text):
+    """The tree of the text of a code, and whether it is plain that show writes this very text for it."""
     if not isinstance(text, str) or len(text) > MOST_SIGNS:
         raise BadText(None)
-    tokens = tokens_of(text)
+    plain = plain_tokens(text)
+    tokens = tokens_of(text) if plain is None else plain
     ahead = tokens[::-1]
     try:
         code = read_code(ahead)
         take(ahead, END)
     except BadText:
         raise BadText(place_of(text, len(tokens) - len(ahead))) from None
-    if most_shown(text, tokens) > MOST_SIGNS and len(show(code)) > MOST_SIGNS:
+    if plain is None and most_shown(text, tokens) > MOST_SIGNS and len(show(code)) > MOST_SIGNS:
         raise BadText(None)
-    return code
+    return (code, plain is not None)
 
 
 def most_shown(text, tokens):
@@ -42,29 +59,6 @@ def most_shown(text, tokens):
 def place_of(text, number):
     """The index of a token of a text, given by its number."""
     return placed_tokens(text)[number][1]
-
-
-def shown(text, code):
-    """What show writes for the tree of a text."""
-    return text if is_plain(text) else show(code)
-
-
-def is_shown(text):
-    """Whether any value is the text of a code as show writes it."""
-    try:
-        return shown(text, parse(text)) == text
-    except BadText:
-        return False
-
-
-def is_plain(text):
-    """Whether it is plain that show writes the text of a code as it is, since it has no brackets and no minus."""
-    if "(" in text or "[" in text or "-" in text:
-        return False
-    return all([
-        word.isalnum() or word in SPACED or word[-1:] in ENDS and word[:-1].isalnum()
-        or word[:1] == "'" and word[1:-1].isalnum() and word[-1] == "'" for word in text.split(" ")
-    ])
 
 
 def show(code):

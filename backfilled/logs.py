@@ -1,6 +1,6 @@
 """The log: entries that add tables, put and delete rows, and set the codes of derived tables."""
 
-from backfilled.codes import parse, shown
+from backfilled.codes import parse_and_show
 from backfilled.entries import as_told
 from backfilled.errors import (
     BadCode, BadColumns, BadDay, BadMoment, BadName, BadNumber, BadRow, LimitExceeded, NameTaken, UnknownTable,
@@ -77,10 +77,10 @@ class Log:
         known = self._tables.get(table)
         if isinstance(known, RawTable):
             raise NameTaken(table)
-        code = parse(text)
+        code, written = parse_and_show(text)
         if not is_day(day):
             raise BadDay(day)
-        plan = Plan(code, self._shapes(len(self._entries)), shown(text, code))
+        plan = Plan(code, self._shapes(len(self._entries)), written)
         if known is not None and known.shape != plan.shape:
             raise BadCode(None)
         if self._leads_to(plan.same_day_tables(), table):
@@ -180,8 +180,8 @@ class Log:
 
     def question_plan(self, question, moment):
         """The plan of any value as a question at a moment."""
-        code = parse(question)
-        return Plan(code, self._shapes(moment), shown(question, code))
+        code, written = parse_and_show(question)
+        return Plan(code, self._shapes(moment), written)
 
     def valid_from(self, plan):
         """The least moment at which all tables of a question are there, which is valid now."""

@@ -2,8 +2,9 @@
 
 import unittest
 
-from backfilled.codes import is_plain, parse, show, shown
+from backfilled.codes import parse, parse_and_show, show
 from backfilled.errors import BadText
+from backfilled.tokens import plain_tokens, tokens_of
 from tests_support import Codes, loose
 
 
@@ -100,8 +101,10 @@ class ShowTest(unittest.TestCase):
                     code = parse(one)
                 except BadText:
                     continue
-                self.assertEqual(shown(one, code), show(code))
-                plain += is_plain(one)
+                self.assertEqual(parse_and_show(one), (code, show(code)))
+                tokens = plain_tokens(one)
+                plain += tokens is not None
+                self.assertIn(tokens, (None, tokens_of(one)))
         self.assertGreater(plain, 500)
 
     def test_deep_trees(self):

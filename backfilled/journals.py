@@ -65,7 +65,7 @@ def recover(text):
         many += 1
     store = recovery.store_now()
     # A journal is read only as it is written, so the lines are the journal of the store.
-    store.keep_journal("".join([line + "\n" for line in lines[:many]]))
+    store.keep_journal("\n".join([*lines[:many], ""]))
     return (store, many)
 
 

@@ -53,9 +53,13 @@ class Links:
             if part in begun:
                 found[part] = True
             elif part not in known and part not in others:
-                begun[part] = True
-                waiting.append(part)
-                waiting.extend(self.needs_of(part)[::-1])
+                needs = self.needs_of(part)
+                if needs:
+                    begun[part] = True
+                    waiting.append(part)
+                    waiting.extend(needs[::-1])
+                else:
+                    found[part] = True
         return list(found)
 
     def _find(self, part):

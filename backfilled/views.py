@@ -101,17 +101,19 @@ class View:
 
     def _judge(self, part):
         """Finds out the state of a partition from those of the ones that it needs."""
-        plan = self.plan_of(part)
+        plan = self._links.plan_of(part)
         if plan is None:
             self._contents[part] = self._log.content_on(part[0], part[1], self._at)
-        elif [need for need in self._links.needs_of(part) if need not in self._contents]:
-            self._others[part] = "unknown"
+            return
+        for need in self._links.needs_of(part):
+            if need not in self._contents:
+                self._others[part] = "unknown"
+                return
+        number = self._book.find(part, plan, self.inputs_of(part))
+        if number is None:
+            self._others[part] = "due"
         else:
-            number = self._book.find(part, plan, self.inputs_of(part))
-            if number is None:
-                self._others[part] = "due"
-            else:
-                self._note_fresh(part, number)
+            self._note_fresh(part, number)
 
     def _note_fresh(self, part, number):
         """Notes the record by which a partition is fresh."""

@@ -15,6 +15,8 @@ class Book:
         # Records by their numbers; None in the place of one whose content nobody asked for yet.
         self._records = {}
         self._waiting = {}
+        # What is told of records whose inputs nobody asked for yet.
+        self._told = []
         # For each table, day and code, tuples of the number, the inputs and the columns of its records.
         self._places = {}
 
@@ -25,6 +27,7 @@ class Book:
     def record(self, number):
         """The record of a number."""
         if self._records[number] is None:
+            self._find_inputs()
             part, plan, inputs = self._waiting.pop(number)
             content = plan.content_from(part[1], contents_in(inputs))
             self._records[number] = Record(part[0], part[1], plan.text, inputs, content)
@@ -32,6 +35,7 @@ class Book:
 
     def find(self, part, plan, inputs):
         """The number of the record of a partition by a plan from inputs, or None."""
+        self._find_inputs()
         for number, known, columns in self._places.get((part[0], part[1], plan.text), []):
             if known == inputs and columns == plan.shape:
                 return number
@@ -43,10 +47,16 @@ class Book:
         self.made_count += 1
         return self._note(Record(part[0], part[1], plan.text, inputs, content), part, plan.text, inputs, plan.shape)
 
-    def make_later(self, part, plan, inputs):
-        """Makes the record of a partition, whose content is computed when somebody asks for it."""
-        self.made_count += 1
-        self._waiting[self._note(None, part, plan.text, inputs, plan.shape)] = (part, plan, inputs)
+    def make_later(self, told, log):
+        """Makes records that are computed when somebody asks for them.
+
+        They are given by tuples of a partition, a plan, and the moments of a log that tell the inputs.
+        """
+        for part, plan, moments in told:
+            self.made_count += 1
+            self.last += 1
+            self._records[self.last] = None
+            self._told.append((self.last, part, plan, moments, log))
 
     def keep(self, record):
         """Adds a record that was made elsewhere."""
@@ -62,6 +72,7 @@ class Book:
         dropped = {number: True for number in numbers}
         if not dropped:
             return 0
+        self._find_inputs()
         self._records = {number: record for number, record in self._records.items() if number not in dropped}
         self._waiting = {number: told for number, told in self._waiting.items() if number not in dropped}
         places = {}
@@ -73,12 +84,27 @@ class Book:
         self.drop_count += 1
         return len(dropped)
 
+    def _find_inputs(self):
+        """Finds the inputs of all records of which only moments are known."""
+        told = self._told
+        self._told = []
+        for number, part, plan, moments, log in told:
+            needs = plan.needs_on(part[1])
+            past = log.past()
+            inputs = tuple([(*need, past.content_at(need, moment)) for need, moment in zip(needs, moments)])
+            self._waiting[number] = (part, plan, inputs)
+            self._place(number, part, plan.text, inputs, plan.shape)
+
     def _note(self, record, part, text, inputs, shape):
-        """Notes a record, or None in its place, and returns its number."""
+        """Notes a record, and returns its number."""
         self.last += 1
         self._records[self.last] = record
+        self._place(self.last, part, text, inputs, shape)
+        return self.last
+
+    def _place(self, number, part, text, inputs, shape):
+        """Notes where a record is found."""
         place = (part[0], part[1], text)
         if place not in self._places:
             self._places[place] = []
-        self._places[place].append((self.last, inputs, shape))
-        return self.last
+        self._places[place].append((number, inputs, shape))

@@ -2,7 +2,8 @@
 
 from backfilled.errors import BadText
 from backfilled.grammar import read_code, take
-from backfilled.tokens import placed_tokens, plain_tokens, tokens_of
+from backfilled.plain import plain_code
+from backfilled.tokens import placed_tokens, tokens_of
 from backfilled.words import END
 
 MOST_SIGNS = 600
@@ -12,13 +13,17 @@ STRONGEST = 3
 
 def parse(text):
     """The tree of the text of a code."""
-    return parsed(text)[0]
+    code = read_plainly(text)
+    return read_text(text) if code is None else code
 
 
 def parse_and_show(text):
     """The tree of the text of a code, and what show writes for it."""
-    code, is_shown_so = parsed(text)
-    return (code, text if is_shown_so else show(code))
+    code = read_plainly(text)
+    if code is not None:
+        return (code, text)
+    code = read_text(text)
+    return (code, show(code))
 
 
 def is_shown(text):
@@ -29,21 +34,25 @@ def is_shown(text):
         return False
 
 
-def parsed(text):
-    """The tree of the text of a code, and whether it is plain that show writes this very text for it."""
+def read_plainly(text):
+    """The tree of any value as the text of a code that is written plainly, or None."""
     if not isinstance(text, str) or len(text) > MOST_SIGNS:
         raise BadText(None)
-    plain = plain_tokens(text)
-    tokens = tokens_of(text) if plain is None else plain
+    return plain_code(text)
+
+
+def read_text(text):
+    """The tree of the text of a code, however it is written."""
+    tokens = tokens_of(text)
     ahead = tokens[::-1]
     try:
         code = read_code(ahead)
         take(ahead, END)
     except BadText:
         raise BadText(place_of(text, len(tokens) - len(ahead))) from None
-    if plain is None and most_shown(text, tokens) > MOST_SIGNS and len(show(code)) > MOST_SIGNS:
+    if most_shown(text, tokens) > MOST_SIGNS and len(show(code)) > MOST_SIGNS:
         raise BadText(None)
-    return (code, plain is not None)
+    return code
 
 
 def most_shown(text, tokens):

@@ -150,7 +150,8 @@ def read_term(ahead):
 
 def read_condition(ahead):
     """Conditions joined by or, and by and."""
-    return read_chain(ahead, read_single(ahead), CONDITION_WORDS, "and", read_single)
+    first = read_single(ahead)
+    return read_chain(ahead, first, CONDITION_WORDS, "and", read_single) if ahead[-1] in CONDITION_WORDS else first
 
 
 def read_chain(ahead, tree, signs, strong, read_part):
@@ -196,6 +197,8 @@ def read_factor(ahead):
     token = ahead[-1]
     if not isinstance(token, str):
         return ahead.pop()
+    if token not in FIXED:
+        return ("column", ahead.pop())
     if token == "(":
         ahead.pop()
         term = read_term(ahead)
@@ -204,9 +207,8 @@ def read_factor(ahead):
     if token == "-":
         ahead.pop()
         return -take_number(ahead)
-    if token == "today":
-        return (ahead.pop(),)
-    return ("column", take_name(ahead))
+    take(ahead, "today")
+    return ("today",)
 
 
 def take_number(ahead):

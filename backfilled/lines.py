@@ -1,10 +1,15 @@
 """The texts of the lines of journals.
 
 What is read from a line is read only if it is written as journals write it; whether it can stand in
-a journal is not looked at here, nor whether codes are written as they are shown.
+a journal is not looked at here.
 """
 
+from backfilled.values import MOST_SIGNS, is_day
+from backfilled.words import TEXT_SIGNS
+
 MOST_DIGITS = 40
+# Most numbers have one digit.
+ONE_DIGIT = {"0": 0, "1": 1, "2": 2, "3": 3, "4": 4, "5": 5, "6": 6, "7": 7, "8": 8, "9": 9}
 
 
 def entry_text(entry):
@@ -34,20 +39,6 @@ def name_text(name, day, moment, text):
     return f"name {name} {day} {moment} {text}"
 
 
-def read_entry(text):
-    """The entry that the text of a line tells, or None if it tells none."""
-    word, *rest = text.split(" ", 3)
-    if len(rest) != 3:
-        return None
-    number = read_number(rest[1])
-    if word in ("put", "delete"):
-        values = read_values(rest[2])
-        return None if values is None else (word, rest[0], number, values)
-    if word == "code":
-        return (word, rest[0], rest[2], number)
-    return (word, rest[0], read_columns(rest[2]), number) if word == "table" else None
-
-
 def read_columns(text):
     """The list of what should be columns."""
     return [tuple(item.split(":")) for item in text.split(",")]
@@ -68,25 +59,37 @@ def read_value(text):
 
 def read_number(text):
     """An integer of at most 40 digits, without leading zeros, perhaps with a minus ahead, but not -0; or None."""
+    if text in ONE_DIGIT:
+        return ONE_DIGIT[text]
     digits = text[1:] if text[:1] == "-" else text
-    if not digits.isdigit() or not digits.isascii() or len(digits) > MOST_DIGITS:
+    if not digits.isdigit() or not digits.isascii() or len(digits) > MOST_DIGITS or digits[0] == "0":
         return None
-    return None if digits[0] == "0" and text != "0" else int(text)
+    return int(text)
 
 
-def read_record(text):
-    """The table, the day, the moments and the code that the text of a line tells of a record; or None."""
-    word, *rest = text.split(" ", 4)
-    if word != "record" or len(rest) != 4:
+def read_small(text):
+    """An integer from 0 to 999, as days are; or None."""
+    if text in ONE_DIGIT:
+        return ONE_DIGIT[text]
+    number = read_number(text)
+    return number if is_day(number) else None
+
+
+def read_moments(text):
+    """The list of what should be moments, - for none."""
+    return [] if text == "-" else [read_number(item) for item in text.split(",")]
+
+
+def read_row(text, shape):
+    """The row of columns that a text tells, or None."""
+    items = text.split(",")
+    if len(items) != len(shape):
         return None
-    moments = [] if rest[2] == "-" else [read_number(item) for item in rest[2].split(",")]
-    return (rest[0], read_number(rest[1]), moments, rest[3])
+    row = [read_text(item) if kind == "text" else read_number(item) for item, (_, kind) in zip(items, shape)]
+    return None if None in row else tuple(row)
 
 
-def read_name(text):
-    """The name, the day, the moment and the question that the text of a line tells of an answer; or None."""
-    word, *rest = text.split(" ", 4)
-    moment = read_number(rest[2]) if len(rest) == 4 else None
-    if word != "name" or moment is None:
-        return None
-    return (rest[0], read_number(rest[1]), moment, rest[3])
+def read_text(text):
+    """The value of the kind text that a text in quotes tells, or None."""
+    inner = text[1:-1]
+    return inner if text == f"'{inner}'" and len(inner) <= MOST_SIGNS and not inner.strip(TEXT_SIGNS) else None

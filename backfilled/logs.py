@@ -23,9 +23,11 @@ class Log:
         self._derived = {}
         # The columns of the tables at the last moment.
         self._last_shapes = {}
-        # For each moment, from 0 on, the last day, and the links between partitions.
+        # For each moment, from 0 on, the last day, and the moment of the last code.
         self._last_days = [None]
-        self._links = [Links(self._derived, 0)]
+        self._last_codes = [0]
+        # The links between partitions from the moments of codes on, made when they are asked for.
+        self._links = {}
         self._memory = Memory()
 
     def add_table(self, name, columns, keys=1):
@@ -51,9 +53,7 @@ class Log:
             raise BadDay(day)
         if not is_row(row, known.shape):
             raise BadRow(row)
-        moment = self._keep(("put", table, day, row), day)
-        known.change(moment, day, row[:known.key_count], row)
-        return moment
+        return self.add_change("put", table, day, row)
 
     def delete(self, table, day, key):
         """Deletes the row with a key from a raw table on a day; returns the moment."""
@@ -62,8 +62,14 @@ class Log:
             raise BadDay(day)
         if not is_row(key, known.key_shape()):
             raise BadRow(key)
-        moment = self._keep(("delete", table, day, key), None)
-        known.change(moment, day, key, None)
+        return self.add_change("delete", table, day, key)
+
+    def add_change(self, word, table, day, values):
+        """Puts a row or deletes that of a key, both checked; returns the moment."""
+        known = self._tables[table]
+        is_put = word == "put"
+        moment = self._keep((word, table, day, values), day if is_put else None)
+        known.change(moment, day, values[:known.key_count], values if is_put else None)
         return moment
 
     def set_code(self, table, text, day=0):
@@ -80,12 +86,12 @@ class Log:
         code, written = parse_and_show(text)
         if not is_day(day):
             raise BadDay(day)
-        plan = Plan(code, self._shapes(len(self._entries)), written)
-        if known is not None and known.shape != plan.shape:
+        plan = Plan(code, self._last_shapes, written)
+        if known is None:
+            # No code needs a table that is not there yet.
+            self._check_room(table)
+        elif known.shape != plan.shape or self._leads_to(plan.same_day_tables(), table):
             raise BadCode(None)
-        if self._leads_to(plan.same_day_tables(), table):
-            raise BadCode(None)
-        self._check_room(table)
         return plan
 
     def add_code(self, table, plan, day):
@@ -96,7 +102,7 @@ class Log:
             self._tables[table] = self._derived[table]
             self._last_shapes[table] = plan.shape
         self._derived[table].add_code(moment, day, plan)
-        self._links[moment] = Links(self._derived, moment)
+        self._last_codes[moment] = moment
         return moment
 
     def __getitem__(self, at):
@@ -158,7 +164,8 @@ class Log:
         copied = Log()
         copied._entries = self._entries[:last]
         copied._last_days = self._last_days[:last + 1]
-        copied._links = self._links[:last + 1]
+        copied._last_codes = self._last_codes[:last + 1]
+        copied._links = {at: links for at, links in self._links.items() if at <= last}
         copied._tables = {name: known.until(last) for name, known in self._tables.items() if known.moment <= last}
         for name, known in copied._tables.items():
             copied._last_shapes[name] = known.shape
@@ -189,7 +196,10 @@ class Log:
 
     def links_at(self, moment):
         """The plans and the needs of partitions at a moment."""
-        return self._links[moment]
+        start = self._last_codes[moment]
+        if start not in self._links:
+            self._links[start] = Links(self._derived, start)
+        return self._links[start]
 
     def is_table(self, name, moment):
         """Whether any value is the name of a table at a moment."""
@@ -199,9 +209,14 @@ class Log:
         """The content of a partition at a moment at which it has no plan."""
         return self._tables[table].content_on(day, moment)
 
-    def first_content(self, table, day, moment):
-        """The content of a raw table on a day at a moment that is the least one of it, or None if it is not."""
-        return self._tables[table].first_content(day, moment)
+    def is_least(self, part, moment):
+        """Whether any value is the least moment at which a partition has the content that it has then."""
+        known = self._tables[part[0]]
+        if moment == known.moment:
+            return True
+        if isinstance(known, RawTable):
+            return known.is_new_content(part[1], moment)
+        return self.past().is_new_content(part, moment)
 
     def change_moments(self, table, day):
         """The moments, in order, that may have changed a partition's rows or plan, ahead of them its table's."""
@@ -216,10 +231,6 @@ class Log:
         if not is_day(day) or not self.is_table(table, len(self._entries)):
             return None
         return self._tables[table].plan_held(day, text)
-
-    def is_derived(self, table):
-        """Whether a table is a derived one."""
-        return table in self._derived
 
     def plans_held(self, table, day):
         """A dict from the texts of the codes that held for a partition at any moment to their plans."""
@@ -305,5 +316,5 @@ class Log:
         last = self._last_days[-1]
         self._entries.append(entry)
         self._last_days.append(day if last is None or day is not None and last < day else last)
-        self._links.append(self._links[-1])
+        self._last_codes.append(self._last_codes[-1])
         return len(self._entries)

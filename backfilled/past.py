@@ -58,18 +58,16 @@ class Past:
                 return moment
         return None
 
-    def first_content(self, part, moment):
-        """The content of a partition at a moment that is the least one of this content, or None if it is not."""
-        if not self._log.is_derived(part[0]):
-            return self._log.first_content(part[0], part[1], moment)
+    def is_new_content(self, part, moment):
+        """Whether any value is a moment that changed the content of a partition to one that it never was before."""
         moments = self._change_moments(part)
         if moment not in moments:
-            return None
+            return False
         content = self.content_at(part, moment)
-        for earlier in moments:
-            if earlier < moment and self.content_at(part, earlier) == content:
-                return None
-        return content
+        for earlier in moments[:moments.index(moment)][::-1]:
+            if self.content_at(part, earlier) == content:
+                return False
+        return True
 
     def scenes_at(self, moment):
         """The scenes of papers at a moment that are kept: a dict that is to be added to."""
@@ -99,16 +97,16 @@ class Past:
             memory.last = len(self._log)
             memory.moments = {}
         # A chain of needs may be longer than calls may stand within one another.
-        waiting = [] if goal in memory.moments else [goal]
+        waiting = [goal]
+        begun = {}
         while waiting:
-            part = waiting[-1]
-            needs = [] if part in memory.moments else self._needs_ever(part)
-            missing = [need for need in needs if need not in memory.moments]
-            if missing:
-                waiting.extend(missing)
-            else:
-                self._note_moments(part, needs)
-                waiting.pop()
+            part = waiting.pop()
+            if part in begun:
+                self._note_moments(part, begun[part])
+            elif part not in memory.moments:
+                begun[part] = self._needs_ever(part)
+                waiting.append(part)
+                waiting.extend(begun[part])
         return memory.moments[goal]
 
     def _needs_ever(self, part):

@@ -3,7 +3,7 @@
 from backfilled.checks import reads_of, shapes_of
 from backfilled.contents import Content, Sound
 from backfilled.steps import maker_for
-from backfilled.trees import inner_first, many_in, paths_in, take_last
+from backfilled.trees import codes_inner_first, many_in, paths_in, take_last
 
 MOST_KEPT = 8
 
@@ -14,7 +14,7 @@ class Plan:
     def __init__(self, code, tables, text=None):
         self.tree = code
         self.text = text
-        self.parts = inner_first(code)
+        self.parts = codes_inner_first(code)
         self.shapes = shapes_of(self.parts, tables)
         self.shape = tuple(self.shapes[-1])
         self.reads = reads_of(self.parts)

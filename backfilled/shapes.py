@@ -80,12 +80,12 @@ def same_shape(part, inner, tables):
 def group_shape(part, inner, tables):
     """Those of the groups and their sums."""
     kinds = kinds_of(inner[0])
-    sums = [(name, sum_kind(word, column, kinds)) for name, word, column in part[3]]
-    if not are_different(list(part[2]) + names_of(sums)) or not all([name in kinds for name in part[2]]):
+    found = {name: kinds.get(name) for name in part[2]}
+    for name, word, column in part[3]:
+        found[name] = sum_kind(word, column, kinds)
+    if len(found) != len(part[2]) + len(part[3]) or None in list(found.values()):
         return None
-    if None in [kind for _, kind in sums]:
-        return None
-    return [(name, kinds[name]) for name in part[2]] + sums
+    return list(found.items())
 
 
 def sum_kind(word, column, kinds):
@@ -102,9 +102,3 @@ SHAPES = {
     "keep": keep_shape, "rename": rename_shape, "join": join_shape, "union": same_shape,
     "minus": same_shape, "group": group_shape,
 }
-
-
-def shape_behind(part, inner, tables):
-    """The columns of a part of a code, or None if it is not valid for those of the codes within it."""
-    action = SHAPES[part[0]]
-    return action(part, inner, tables)

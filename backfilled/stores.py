@@ -181,20 +181,14 @@ class Store:
         """The list of tuples (name, plan, day, moment) of the named answers, in the order of the names."""
         return self._bench.named()
 
-    def check_name(self, name):
-        """Raises BadName or NameTaken if any value cannot become the name of an answer."""
-        self._bench.check_name(name)
+    def restore_names(self, told):
+        """Gives names to answers, given tuples (name, plan, day, moment), without computing anything."""
+        for name, plan, day, at in told:
+            self._bench.give_name(name, plan, day, at)
 
-    def restore_name(self, name, plan, day, at):
-        """Gives a name to the answer of a question, without computing anything."""
-        self._bench.give_name(name, plan, day, at)
-
-    def restore_record(self, part, plan, inputs):
-        """Makes a record, if it is not there; returns whether it was made."""
-        is_missing = self._book.find(part, plan, inputs) is None
-        if is_missing:
-            self._book.make_later(part, plan, inputs)
-        return is_missing
+    def restore_records(self, told):
+        """Makes records that are not there, given tuples (part, plan, moments of their inputs)."""
+        self._book.make_later(told, self._log)
 
     def kept_journal(self):
         """The journal that was kept last if it is that of the store as it is now, otherwise None."""

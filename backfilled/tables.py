@@ -57,19 +57,27 @@ class RawTable:
         return self._content_behind(day, how_many_until(self._days[day][0], moment))
 
     def change_moments(self, day):
-        """The moments, in order, that may have changed the content on a day, ahead of them the table's."""
-        return [self.moment] + (self._days[day][0] if day in self._days else [])
+        """The moments, in order, that changed the content on a day, ahead of them the table's."""
+        found = [self.moment]
+        if day in self._days:
+            rows = {}
+            for moment, (key, row) in zip(self._days[day][0], self._days[day][1]):
+                if rows.get(key) != row:
+                    rows[key] = row
+                    found.append(moment)
+        return found
 
-    def first_content(self, day, moment):
-        """The content on a day at a moment that is the least one of this content, or None if it is not."""
-        if moment == self.moment:
-            return self._empty_content()
+    def is_new_content(self, day, moment):
+        """Whether any value is a moment that changed the content on a day to one that it never was before."""
         if day not in self._days or moment not in self._days[day][0]:
-            return None
-        many = self._days[day][0].index(moment) + 1
-        content = self._content_behind(day, many)
-        same = [ahead for ahead in range(many) if self._content_behind(day, ahead) == content]
-        return None if same else content
+            return False
+        moments, changes, _ = self._days[day]
+        at = moments.index(moment)
+        if changes[at][1] is not None and changes[at] not in changes[:at]:
+            # The row that is put was never there before.
+            return True
+        content = self._content_behind(day, at + 1)
+        return not any([self._content_behind(day, many) == content for many in range(at + 1)])
 
     def put_moments(self, day, moment):
         """A dict from the rows on a day at a moment to the moments that put them."""

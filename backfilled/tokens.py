@@ -10,30 +10,6 @@ from backfilled.words import DIGITS, END, FIXED, LETTERS, NO_TOKEN
 MOST_LETTERS = 8
 MOST_DIGITS = 40
 MOST_OPEN = 20
-# The signs between spaces, and those that end a word, in a text that is shown.
-SPACED = {"|": True, "=": True, "<": True, "<=": True, "+": True, "*": True}
-ENDS = {",": True, ":": True}
-
-
-def plain_tokens(text):
-    """The tokens of a text that is written as codes are shown, and has no brackets and no minus; None for others."""
-    if "(" in text or "[" in text or "-" in text or not text.isascii():
-        return None
-    tokens = []
-    for word in text.split(" "):
-        if word in SPACED or len(word) <= MOST_LETTERS and word.isalpha() and word.islower():
-            tokens.append(word)
-        elif word[-1:] in ENDS and len(word) <= MOST_LETTERS + 1 and word[:-1].isalpha() and word.islower():
-            tokens.append(word[:-1])
-            tokens.append(word[-1])
-        elif word[:1] == "'" and word[-1] == "'" and word[1:-1].isalnum() and is_text(word[1:-1]):
-            tokens.append(("text", word[1:-1]))
-        elif word.isdigit() and token_for(word) != NO_TOKEN:
-            tokens.append(token_for(word))
-        else:
-            return None
-    tokens.append(END)
-    return tokens
 
 
 def tokens_of(text):

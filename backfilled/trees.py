@@ -31,6 +31,24 @@ def inner_first(tree):
     return found[::-1]
 
 
+def codes_inner_first(code):
+    """A code and all codes within it, in the order of inner_first."""
+    found = []
+    waiting = []
+    part = code
+    while part is not None:
+        found.append(part)
+        many = MANY_INNER.get(part[0], 1)
+        if many == 1:
+            part = part[1]
+        elif many == 2:
+            waiting.append(part[1])
+            part = part[2]
+        else:
+            part = waiting.pop() if waiting else None
+    return found[::-1]
+
+
 def take_last(stack, many):
     """Takes the last items from a stack, and returns them in order."""
     start = len(stack) - many

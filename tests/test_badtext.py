@@ -3,7 +3,7 @@
 import random
 import unittest
 
-from backfilled.codes import parse
+from backfilled.codes import parse, parse_and_show, show
 from backfilled.errors import BadText
 from tests_support import SIGNS, WORDS, Codes, fault_in, fields_of, loose
 
@@ -151,6 +151,32 @@ class BadTextTest(unittest.TestCase):
             self.assertEqual(found, fault, text)
             seen[fault is None] = seen.get(fault is None, 0) + 1
         self.assertGreater(min(seen.values()), 500)
+
+    def test_each_word_of_codes_that_are_shown(self):
+        """Other pieces in the place of each word, ahead of it, glued to it, or none, against the same parser."""
+        good = 0
+        for shown in (
+            "t - 4", "t last 30", "t | where -99 < amount", "t | where shop <= 'a1'", "t | where today = 0 or not a = b and b < 7",
+            "t | with x = -5", "t | with x = today - 4 * a + -5", "t | keep a b", "t | rename a b | union u | join u - 4 | minus u last 7",
+            "t | group: n = count", "t | group a b: n = count, m = sum a, o = least b, p = greatest b", "t | where not not a < 5 | keep a",
+        ):
+            words = shown.split(" ")
+            self.assertEqual(show(parse(shown)), shown)
+            for at in range(len(words)):
+                pieces = [*PIECES, *FAULTS, "", "-", "-5", "-0", "- 5", "a:", "a,", ":", "'", "''", "'a", "today", "a b", "count:"]
+                for piece in pieces:
+                    for some in ([piece], [piece, words[at]], [words[at] + piece], [piece + words[at]]):
+                        text = " ".join([*words[:at], *some, *words[at + 1:]])
+                        try:
+                            tree = parse(text)
+                            found = None
+                            self.assertEqual(parse(show(tree)), tree)
+                            self.assertEqual(parse_and_show(text), (tree, show(tree)))
+                            good += 1
+                        except BadText as error:
+                            found = error.at
+                        self.assertEqual(found, fault_in(text), text)
+        self.assertGreater(good, 500)
 
 
 if __name__ == "__main__":

@@ -217,6 +217,15 @@ class RecoverTest(unittest.TestCase):
         self.assertEqual(len(self.log), 5)
         self.check_back(again)
 
+    def test_dropping_what_was_read(self):
+        lines = ["table t 1 a:number", "code u 0 t", "record u 0 1 t", "record u 4 1 t"]
+        store, _ = recover(written(lines))
+        self.assertEqual((store.made, store.needed(), store.drop(), store.records()), (2, [], 2, []))
+        self.assertEqual((store.state_at("u", 0), store.compute("u", 0).rows, store.made), ("due", [], 3))
+        self.assertEqual(written_anew(store), written(lines[:3]))
+        store, _ = recover(written(lines))
+        self.assertEqual((store.state_at("u", 0), store.state_at("u", 1), store.compute("u", 4).rows, store.made), ("fresh", "due", [], 2))
+
     def test_whatever_changes_changes_the_journal(self):
         again, _ = recover(journal(self.store))
         store = self.store
@@ -285,6 +294,16 @@ class DamageTest(unittest.TestCase):
             self.check(self.text[:at] + self.text[at + 1:], self.line_of(at))
             self.check(self.text[:at] + "~" + self.text[at:], self.line_of(at))
 
+    def test_signs_beyond_ascii(self):
+        for sign in "\x80\xe9\u0665\ud800\udfff\U0001f600":
+            self.check(self.text + sign, len(self.lines))
+            self.check(sign + self.text, 0)
+            for at in range(len(self.lines)):
+                for line in (sign, self.lines[at] + sign, sign + self.lines[at], self.lines[at].replace(" ", sign, 1)):
+                    self.check("\n".join([*self.lines[:at], line, *self.lines[at:], ""]), at)
+                told = self.lines[at].rpartition(" ")[0] + sign
+                self.check("".join(f"{one}\n" for one in self.lines[:at]) + f"{told} #{naive_number(at, told):07d}\n", at)
+
     def test_lines_that_cannot_stand_there(self):
         texts_now = [line.rpartition(" ")[0] for line in self.lines]
         self.assertEqual(written(texts_now), self.text)
@@ -335,6 +354,19 @@ class ForgedTest(unittest.TestCase):
         self.check(ENTRIES, "record big 999 1 sales | where 3 < amount", True)
         self.check([*ENTRIES, "code big 0 sales"], RECORDS[0], True)
         self.check([*ENTRIES, "code far 0 sales - 7"], "record far 6 - sales - 7", True)
+
+    def test_records_of_codes_that_held_from_an_earlier_day_on_later(self):
+        ahead = [*ENTRIES, "code far 5 sales", "code far 2 sales"]
+        self.check(ahead, "record far 1 3 sales")
+        for day in (2, 3, 5, 9):
+            self.check(ahead, f"record far {day} 1 sales", True)
+        self.check([*ahead, "code far 7 sales"], "record far 2 1 sales", True)
+
+    def test_contents_of_derived_tables_that_come_back(self):
+        ahead = [*ENTRIES, "put sales 0 'east',9", "put sales 0 'east',8", "put sales 0 'east',9", "delete sales 0 'west'",
+                 "put sales 0 'east',2", "put sales 0 'east',2"]
+        for moment, good in ((3, False), (4, True), (5, False), (6, True), (7, True), (8, False), (9, False), (10, True), (11, False)):
+            self.check(ahead, f"record many 0 {moment} big | group: many = count", good)
 
     def test_records_that_are_none(self):
         ahead = [*ENTRIES, "put sales 0 'east',9", "put sales 0 'east',5", "code far 1 sales - 7", "code two 0 big - 1 | union sales"]

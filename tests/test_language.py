@@ -2,6 +2,7 @@
 
 import ast
 import builtins
+import importlib
 import pathlib
 import re
 import unittest
@@ -16,7 +17,7 @@ BUILTINS = set(
 METHODS = set(
     "append clear copy count endswith extend find get index insert isalnum isalpha isdigit islower isspace isupper items "
     "join keys ljust lower lstrip partition pop remove replace reverse rfind rjust rpartition rsplit rstrip setdefault "
-    "split splitlines startswith strip update upper values zfill removeprefix isascii isprintable encode from_bytes".split()
+    "split splitlines startswith strip update upper values zfill removeprefix isascii isprintable encode from_bytes bit_length".split()
 )
 CHANGING = set("append clear extend insert pop remove reverse setdefault update".split())
 DOUBLE = set(
@@ -68,6 +69,26 @@ class LanguageTest(unittest.TestCase):
             self.assertNotIsInstance(node.value, (float, complex))
             if isinstance(node.value, str):
                 self.assertNotIn("%", node.value, name)
+
+    def test_remainders_are_those_of_what_surely_are_numbers(self):
+        found = [(name, node.left) for name, node in nodes(ast.BinOp) if isinstance(node.op, ast.Mod)]
+        self.assertGreater(len(found), 0)
+        for name, left in found:
+            self.assertRegex(ast.unparse(left), r"\A(int\(|len\(|[0-9]+\Z)", name)
+            self.assertIsInstance(left, (ast.Call, ast.Constant), name)
+        for name, node in nodes(ast.AugAssign):
+            self.assertNotIsInstance(node.op, ast.Mod, name)
+
+    def test_values_of_modules(self):
+        sizes = []
+        for name, tree in TREES.items():
+            module = importlib.import_module(f"backfilled.{name}" if name != "__init__" else "backfilled")
+            for node in tree.body:
+                if isinstance(node, ast.Assign):
+                    value = getattr(module, node.targets[0].id)
+                    sizes.append(value.bit_length() if isinstance(value, int) else len(repr(value)))
+        self.assertLessEqual(max(sizes), 50000)
+        self.assertLessEqual(sum(sizes), 500000)
 
     def test_only_own_errors_are_caught(self):
         own = [node.name for node in TREES["errors"].body if isinstance(node, ast.ClassDef)]

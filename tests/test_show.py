@@ -4,7 +4,7 @@ import unittest
 
 from backfilled.codes import parse, parse_and_show, show
 from backfilled.errors import BadText
-from backfilled.tokens import plain_tokens, tokens_of
+from backfilled.plain import plain_code
 from tests_support import Codes, loose
 
 
@@ -102,9 +102,9 @@ class ShowTest(unittest.TestCase):
                 except BadText:
                     continue
                 self.assertEqual(parse_and_show(one), (code, show(code)))
-                tokens = plain_tokens(one)
-                plain += tokens is not None
-                self.assertIn(tokens, (None, tokens_of(one)))
+                found = plain_code(one)
+                plain += found is not None
+                self.assertIn(found, (None, code))
         self.assertGreater(plain, 500)
 
     def test_deep_trees(self):
